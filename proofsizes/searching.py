@@ -1,0 +1,133 @@
+"""Answers by the sizes of their proofs, and whether a question is spent."""
+
+from proofsizes.answers import Answer, answer_key
+from proofsizes.covering import judge_covered
+from proofsizes.errors import BadQuestion
+from proofsizes.finding import OfLevels, OfSize, Sizes, found_proofs
+from proofsizes.opening import is_open_behind
+from proofsizes.proofs import answer_of, are_proofs, proofs_size
+from proofsizes.terms import as_tuple, is_integer
+from proofsizes.ways import Ways
+
+
+class Answered:
+    """An answer, with the least size of proofs that have it, and the first such proofs."""
+
+    def __init__(self, answer, size, proofs):
+        self.answer = answer
+        self.size = size
+        self.proofs = as_tuple(proofs)
+
+    def __eq__(self, other):
+        if not isinstance(other, Answered):
+            return False
+        return self.answer == other.answer and self.size == other.size and self.proofs == other.proofs
+
+    def shows(self, program, question):
+        """Whether the proofs are of the size and have the answer."""
+        if not isinstance(self.answer, Answer) or not is_integer(self.size):
+            return False
+        if not are_proofs(program, question, self.proofs) or proofs_size(self.proofs) != self.size:
+            return False
+        return answer_of(program, question, self.proofs) == self.answer
+
+
+class Spent:
+    """The least number of levels behind which no goals are open."""
+
+    def __init__(self, levels):
+        self.levels = levels
+
+    def __bool__(self):
+        return True
+
+    def __eq__(self, other):
+        return isinstance(other, Spent) and self.levels == other.levels
+
+    def shows(self, program, question):
+        """Whether it is the least such number."""
+        if not is_count(self.levels) or is_open_behind(program, question, self.levels):
+            return False
+        return self.levels == 0 or is_open_behind(program, question, self.levels - 1)
+
+
+class StillOpen:
+    """A number of levels behind which goals are open in some way."""
+
+    def __init__(self, levels):
+        self.levels = levels
+
+    def __bool__(self):
+        return False
+
+    def __eq__(self, other):
+        return isinstance(other, StillOpen) and self.levels == other.levels
+
+    def shows(self, program, question):
+        """Whether it is such a number."""
+        return is_count(self.levels) and is_open_behind(program, question, self.levels)
+
+
+def is_count(thing):
+    """Whether a thing is an integer from 0 on."""
+    return is_integer(thing) and thing >= 0
+
+
+def check_count(thing, part):
+    """Raises BadQuestion for what is no integer from 0 on."""
+    if not is_count(thing):
+        raise BadQuestion(part)
+
+
+def proofs_of_size(program, question, size):
+    """The list of all proofs of a size that have an answer, ascending by their rules' numbers."""
+    check_count(size, "size")
+    ways = Ways(program, question)
+    return [proofs for _, proofs, _ in found_proofs(ways, OfSize(Sizes(ways, size), size))]
+
+
+def proofs_of_levels(program, question, levels):
+    """The list of all proofs of at most so many levels that have an answer, by sizes, then as of one size."""
+    check_count(levels, "levels")
+    ways = Ways(program, question)
+    return [proofs for _, proofs, _ in found_proofs(ways, OfLevels(ways, levels))]
+
+
+def answered(program, question, most):
+    """The told list: the answers by the sizes, up to most, of their proofs, without what those ahead cover."""
+    check_count(most, "size")
+    ways = Ways(program, question)
+    sizes = Sizes(ways, most)
+    told = []
+    for size in range(most + 1):
+        told.extend(told_newly(found_proofs(ways, OfSize(sizes, size)), told))
+    return told
+
+
+def told_newly(rows, told):
+    """The list of what is told of proofs of one size behind what is told ahead."""
+    first = {}
+    for (size, _), proofs, answer in rows:
+        first.setdefault(answer_key(answer), Answered(answer, size, proofs))
+    new = []
+    answers = [one.answer for one in told]
+    for key in sorted(first):
+        if not judge_covered(first[key].answer, answers):
+            new.append(first[key])
+            answers.append(first[key].answer)
+    return new
+
+
+def opened(program, question, levels):
+    """Whether goals are open behind so many levels in some way."""
+    check_count(levels, "levels")
+    return is_open_behind(program, question, levels)
+
+
+def judge_spent(program, question, most):
+    """A Spent with the least number of levels, at most most, behind which nothing is open, or a StillOpen."""
+    check_count(most, "levels")
+    for levels in range(most + 1):
+        if not is_open_behind(program, question, levels):
+            return Spent(levels)
+    return StillOpen(most)

@@ -1,0 +1,154 @@
+"""The files of the package keep to those rules of LANGUAGE.md that can be read off their trees."""
+
+import ast
+import builtins
+import pathlib
+import unittest
+
+PACKAGE = pathlib.Path(__file__).resolve().parent.parent / "proofsizes"
+BUILTINS = set(
+    "len range enumerate zip min max sum abs sorted reversed int str bool list tuple dict set isinstance ord "
+    "repr any all divmod Exception ValueError TypeError KeyError IndexError LookupError RuntimeError".split()
+)
+METHODS = set(
+    "append clear copy count endswith extend find get index insert isalnum isalpha isdigit islower isspace "
+    "isupper items join keys ljust lower lstrip partition pop remove replace reverse rfind rjust rpartition "
+    "rsplit rstrip setdefault split splitlines startswith strip update upper values zfill bit_length add "
+    "discard".split()
+)
+BARRED = set("mro elements open input law version_info with_traceback add_note register type typing".split())
+DOUBLE = {"__init__", "__eq__", "__bool__"}
+
+
+def trees():
+    """The package's files by name, each with its text and its tree."""
+    found = {}
+    for path in sorted(PACKAGE.glob("*.py")):
+        text = path.read_text(encoding="utf-8")
+        found[path.stem] = (text, ast.parse(text))
+    return found
+
+
+def bound_names(function):
+    """The names that a function binds: parameters, targets, nested functions."""
+    names = []
+    for node in ast.walk(function):
+        if isinstance(node, ast.arg):
+            names.append(node.arg)
+        elif isinstance(node, ast.Name) and isinstance(node.ctx, (ast.Store, ast.Del)):
+            names.append(node.id)
+        elif isinstance(node, ast.FunctionDef) and node is not function:
+            names.append(node.name)
+    return names
+
+
+class LanguageTest(unittest.TestCase):
+    def setUp(self):
+        self.trees = trees()
+
+    def nodes(self, *kinds):
+        for name, (_, tree) in self.trees.items():
+            for node in ast.walk(tree):
+                if isinstance(node, kinds):
+                    yield name, node
+
+    def test_lines_files_and_characters(self):
+        self.assertLessEqual(len(self.trees), 100)
+        for name, (text, _) in self.trees.items():
+            lines = text.split("\n")
+            self.assertLessEqual(len(lines), 399, name)
+            for line in lines:
+                self.assertLessEqual(len(line), 120, (name, line))
+            self.assertTrue(all(" " <= sign <= "~" or sign == "\n" for sign in text), name)
+        self.assertEqual([path.suffix for path in PACKAGE.iterdir() if path.is_file()], [".py"] * len(self.trees))
+
+    def test_functions_are_short_and_plain(self):
+        for name, node in self.nodes(ast.FunctionDef):
+            self.assertLessEqual(node.end_lineno - node.lineno + 1, 40, (name, node.name))
+            self.assertFalse(node.decorator_list, (name, node.name))
+            if node.name.startswith("__"):
+                self.assertIn(node.name, DOUBLE, name)
+            self.assertTrue(ast.get_docstring(node) or node.name.startswith("__"), (name, node.name))
+
+    def test_only_named_statements_and_expressions(self):
+        barred = (ast.GeneratorExp, ast.Try, ast.Global, ast.AsyncFunctionDef, ast.With, ast.Yield, ast.YieldFrom)
+        for name, node in self.nodes(*barred, ast.Set, ast.AnnAssign, ast.NamedExpr, ast.Div, ast.Import):
+            self.fail((name, node.lineno, type(node).__name__))
+
+    def test_builtins_and_methods(self):
+        own = {node.name for _, node in self.nodes(ast.FunctionDef)}
+        for name, node in self.nodes(ast.Call):
+            if isinstance(node.func, ast.Name) and hasattr(builtins, node.func.id):
+                self.assertIn(node.func.id, BUILTINS, (name, node.lineno))
+            if isinstance(node.func, ast.Attribute):
+                self.assertIn(node.func.attr, METHODS | own, (name, node.lineno))
+
+    def test_names(self):
+        for name, node in self.nodes(ast.Name, ast.arg, ast.Attribute, ast.FunctionDef, ast.ClassDef):
+            called = [getattr(node, field) for field in ("id", "arg", "attr", "name") if hasattr(node, field)]
+            self.assertFalse(BARRED & set(called), (name, node.lineno))
+
+    def test_no_name_means_two_things(self):
+        for name, (_, tree) in self.trees.items():
+            taken = [node.name for node in tree.body if isinstance(node, ast.ClassDef)]
+            for node in tree.body:
+                if isinstance(node, ast.ImportFrom):
+                    self.assertTrue(node.module.startswith("proofsizes."), name)
+                    taken.extend(alias.name for alias in node.names)
+            functions = [node.name for node in tree.body if isinstance(node, ast.FunctionDef)]
+            self.assertEqual(len(taken + functions), len(set(taken + functions)), name)
+            for node in ast.walk(tree):
+                if isinstance(node, ast.FunctionDef):
+                    for bound in bound_names(node):
+                        self.assertNotIn(bound, taken, (name, node.name))
+                        self.assertFalse(hasattr(builtins, bound), (name, node.name, bound))
+
+    def test_all_that_is_imported_is_used(self):
+        for name, (_, tree) in self.trees.items():
+            used = {node.id for node in ast.walk(tree) if isinstance(node, ast.Name)}
+            for node in tree.body:
+                if isinstance(node, ast.ImportFrom):
+                    defined = ast.walk(self.trees[node.module.split(".")[1]][1])
+                    names = {one.name for one in defined if isinstance(one, (ast.FunctionDef, ast.ClassDef))}
+                    source = self.trees[node.module.split(".")[1]][1].body
+                    for one in source:
+                        if isinstance(one, ast.Assign):
+                            names.update(target.id for target in one.targets)
+                    for alias in node.names:
+                        self.assertIn(alias.name, used, name)
+                        self.assertIn(alias.name, names, name)
+
+    def test_no_imports_in_a_circle(self):
+        asked = {}
+        for name, (_, tree) in self.trees.items():
+            asked[name] = {node.module.split(".")[1] for node in tree.body if isinstance(node, ast.ImportFrom)}
+        while asked:
+            free = [name for name in asked if not asked[name]]
+            self.assertTrue(free, asked)
+            asked = {name: asked[name] - set(free) for name in asked if name not in free}
+
+    def test_is_and_strings(self):
+        for name, node in self.nodes(ast.Compare):
+            for sign, other in zip(node.ops, node.comparators):
+                if isinstance(sign, (ast.Is, ast.IsNot)):
+                    self.assertIsInstance(other, ast.Constant, (name, node.lineno))
+        for name, node in self.nodes(ast.Constant):
+            if isinstance(node.value, str):
+                self.assertNotIn("%", node.value, (name, node.lineno))
+
+    def test_attributes_and_methods_have_unlike_names(self):
+        methods, attributes = set(), set()
+        for _, node in self.nodes(ast.ClassDef):
+            for one in node.body:
+                if isinstance(one, ast.FunctionDef):
+                    methods.add(one.name)
+        for _, node in self.nodes(ast.Attribute):
+            if isinstance(node.ctx, ast.Store):
+                attributes.add(node.attr)
+        self.assertFalse(methods & attributes)
+        for kind in (str, int, list, dict, set, bytes, tuple):
+            self.assertFalse((attributes | methods - DOUBLE) & set(dir(kind)) - {"index", "count"}, kind)
+
+
+if __name__ == "__main__":
+    unittest.main()
