@@ -11,7 +11,7 @@ from proofsizes.unfolding import Needless, Unfolded
 # Nothing of this is a term, a name, a number, a step, a tree or the like.
 WRONG = [
     None, True, False, "", "A", "a b", "ninesigns", (None,), (True, ()), (False, ()), ("?", True), ("?", -1),
-    ("f", ()), ("f", (True,)), ("f", ["a"]), ("given", True), ("given", None), ("part", 0), ("joined", 0, None),
+    ("f", ()), ("f", (True,)), ("f", ["a"]), ("given", True), ("given", None), ("joined", 0, None),
     ((),), (((),),), (0, (None,)), (0, ((True, ()),)), Spent(0), StillOpen(1), Covered(), Outside(("a",)),
     Solved({}), Unsolved((), ()), Valued({}), NoValues(0, None), Answer((), ()), Answered(None, None, None),
     Rule(("p", ()), []), Program([]), Question([], []), Needless(0, {}), Unfolded(None, ()), (Spent(0), ()),
@@ -20,7 +20,7 @@ WRONG = [
 # These are well made, but hardly what stands there.
 OTHER = [-1, 0, 1, 2, 99, 10 ** 9, "a", "f", "x", "?", "given", "turned", "joined", "part", (), (0, 1), ("a", "b"),
          ("?", "x"), ("?", 0), ("f", ("a",)), ("given", 0), ("turned", 0), ("part", 0, 0), ("joined", 0, 0), (0, ()),
-         ((0, ()),), (1, ((0, ()),)), ("", 0), ("given", 0, 0), ("given",)]
+         ((0, ()),), (1, ((0, ()),)), ("", 0), ("given", 0, 0), ("given",), ("part", 0)]
 
 
 def is_hashable(thing):

@@ -248,7 +248,7 @@ class CoveringTest(unittest.TestCase):
             judge_covered(answer, seven)
         self.assertEqual(caught.exception.number, 18 * 241)
         # What can't be made the same as the answer's terms doesn't count.
-        apart = [Answer(["b", Y], [[(Y, n)] for n in range(5000)])]
+        apart = [Answer([name, Y], [[(Y, n)] for n in range(70)]) for name in ("b", "c")]
         self.outside(Answer(["a", X], []), apart)
 
     def test_equal_to_the_like_alone(self):
