@@ -243,10 +243,10 @@ class CoveringTest(unittest.TestCase):
                     call(answer, papers)
                 self.assertEqual(caught.exception.number, 8192)
         self.assertFalse(Outside((1, 2)).shows(answer, [answer] + others(6) + [one]))
-        seven = [Answer([X, Y], [[(X, n)] for n in range(17)]), Answer([X, Y], [[(Y, n)] for n in range(240)])]
+        just = [Answer([X, Y], [[(X, n)] for n in range(16)]), Answer([X, Y], [[(Y, n)] for n in range(240)])]
         with self.assertRaises(TooLarge) as caught:
-            judge_covered(answer, seven)
-        self.assertEqual(caught.exception.number, 18 * 241)
+            judge_covered(answer, just)
+        self.assertEqual(caught.exception.number, 4097)
         # What can't be made the same as the answer's terms doesn't count.
         apart = [Answer([name, Y], [[(Y, n)] for n in range(70)]) for name in ("b", "c")]
         self.outside(Answer(["a", X], []), apart)

@@ -38,6 +38,12 @@ class CompleteTest(unittest.TestCase):
         self.assertEqual([one.answer for one in paper.answers], [Answer([X], [])])
         self.assertEqual(len(proofs_of_levels(program, question, paper.levels)), 2)
 
+    def test_answers_of_one_size_ascend(self):
+        program = Program([Rule(("p", (name,)), []) for name in ("c", ("f", ("a",)), "b", 3)])
+        paper = complete(program, Question([X], [("p", (X,))]), 2)
+        self.assertEqual([one.answer.terms[0] for one in paper.answers], [3, "b", "c", ("f", ("a",))])
+        self.assertEqual([one.proofs for one in paper.answers], [((n, ()),) for n in (3, 2, 0, 1)])
+
     def test_the_same_as_by_sizes(self):
         source = random.Random(41)
         some = 0

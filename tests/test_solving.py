@@ -178,6 +178,18 @@ class UnsolvedTest(unittest.TestCase):
             self.assertFalse(Unsolved(wrong, ()).shows(equations), wrong)
         self.assertFalse(Unsolved(steps, (0,)).shows(equations))
 
+    def test_compounds_that_are_alike_are_no_clash(self):
+        equations = [(("f", ("a", X)), ("f", ("b", X))), (("f", ("a", "b")), ("g", ("a", "c"))), ("a", "a"), (1, X)]
+        for number in (0, 2, 3):
+            self.assertFalse(Unsolved((("given", number),), ()).shows(equations))
+        self.assertTrue(Unsolved((("given", 0), ("part", 0, 0)), ()).shows(equations))
+        self.assertTrue(Unsolved((("given", 1),), ()).shows(equations))
+        # Parts are those of compounds that are alike alone.
+        self.assertFalse(Unsolved((("given", 1), ("part", 0, 1)), ()).shows(equations))
+        self.assertFalse(Unsolved((("given", 3), ("part", 0, 0)), ()).shows(equations))
+        self.assertFalse(Unsolved((("given", 0),), ()).shows([(X, "a")]))
+        self.assertFalse(Unsolved((("given", 0),), ()).shows([("a", X)]))
+
     def test_rings_that_shows_takes(self):
         ring = [(X, ("f", (Y,))), (Y, Z), (Z, ("g", (X,)))]
         given = tuple(("given", n) for n in range(3))

@@ -235,6 +235,12 @@ class NeedlessTest(unittest.TestCase):
         self.check([Rule(("p", ()), goals), Rule(("p", ()), steps)], 1, 0, {"x": 0, "y": 3, "z": 4})
         self.needed([Rule(("p", ()), goals + [("q", (Z, X))]), Rule(("p", ()), steps)], 1)
 
+    def test_every_choice_is_tried(self):
+        goals = [("q", (X, Y)), ("s", (Y, X))]
+        for right in (1, 2, 3):
+            steps = [("q", (0, 1)), ("q", (0, 2)), ("q", (0, 3)), ("s", (8, 8)), ("s", (right, 0)), ("s", (9, 9))]
+            self.check([Rule(("p", ()), goals), Rule(("p", ()), steps)], 1, 0, {"x": 0, "y": right})
+
     def test_what_shows_takes(self):
         rules = [Rule(("p", (X,)), [("unlike", (X, Y))]), Rule(("p", (1,)), [("unlike", (2, 1))])]
         rules += [Rule(("p", (1,)), []), Rule(("p", (Z,)), [("unlike", (Z, W))])]
