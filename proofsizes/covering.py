@@ -87,13 +87,15 @@ def row_outside(answer, others):
     those of this one as instances, and no inequation of it always fails: then one of
     them is to fail, which asks more equations of this answer's unknowns.
     """
+    # Those with few inequations leave few ways to go on, so they are asked first.
+    ascending = sorted(others, key=lambda other: len(other.inequations))
     waiting = [()]
     while waiting:
         equations = waiting.pop()
         bound = bound_by(equations)
         if bound is None or fails_always(answer.inequations, bound):
             continue
-        failing = ways_to_fail(put_in_row(answer.terms, bound), others)
+        failing = ways_to_fail(put_in_row(answer.terms, bound), ascending)
         if failing is None:
             return ground_row(answer, others, bound)
         waiting.extend([equations + pairs for pairs in failing])
@@ -106,14 +108,12 @@ def fails_always(inequations, worth):
 
 
 def ways_to_fail(terms, others):
-    """For one of the others that have all instances of terms, the pairs of its inequations; None without any."""
-    fewest = None
+    """For the first other that has all instances of terms, the pairs of its inequations; None without any."""
     for other in others:
         worth = matched(other.terms, terms, {})
         if worth is not None and not fails_always(other.inequations, worth):
-            if fewest is None or len(other.inequations) < len(fewest):
-                fewest = [tuple(put_in_pairs(pairs, worth)) for pairs in other.inequations]
-    return fewest
+            return [tuple(put_in_pairs(pairs, worth)) for pairs in other.inequations]
+    return None
 
 
 def ground_row(answer, others, bound):
