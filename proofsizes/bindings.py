@@ -18,6 +18,11 @@ class Bindings:
         """How much is bound; undo leaves so much."""
         return len(self.trail)
 
+    def begin(self, bound):
+        """Goes on with what a dict tells; none of that can be taken back."""
+        self.bound = bound
+        self.trail = []
+
     def undo(self, mark):
         """Takes back all that was bound behind a mark."""
         while len(self.trail) > mark:
@@ -71,6 +76,22 @@ class Bindings:
             elif is_compound(one) and have_like_heads(one, other):
                 waiting.extend(list(zip(one[1], other[1])))
             elif is_compound(one) or one != other:
+                return False
+        return True
+
+    def may_be_same(self, patterns, terms):
+        """Whether patterns have no sign that is unlike the terms'; unknowns are passed over."""
+        waiting = list(zip(patterns, terms))
+        while waiting:
+            one, other = waiting.pop()
+            other = self.walk(other)
+            if is_unknown(one) or is_unknown(other):
+                continue
+            if is_compound(one):
+                if not have_like_heads(one, other):
+                    return False
+                waiting.extend(list(zip(one[1], other[1])))
+            elif one != other:
                 return False
         return True
 

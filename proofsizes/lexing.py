@@ -30,12 +30,15 @@ class Word:
         self.column = column
 
 
-def words_of(text):
-    """The list of a text's words up to its end, or up to the first thing that is no word."""
+def words_of(text, line=1):
+    """The list of a text's words up to its end, or up to the first thing that is no word.
+
+    The text may be one line of several, with a number.
+    """
     if not isinstance(text, str):
         raise BadText(0, 0)
     words = []
-    line, start = 1, 0
+    start = 0
     at = 0
     while at < len(text):
         if text[at] == "#":

@@ -3,7 +3,7 @@
 from proofsizes.answers import answer_to
 from proofsizes.bindings import Bindings
 from proofsizes.programs import own_pairs, relation_goals, relation_of, terms_in_goals
-from proofsizes.terms import have_like_heads, is_compound, is_unknown, names_in, numbered
+from proofsizes.terms import is_unknown, names_in, numbered
 from proofsizes.terms import put_in_pairs, put_in_row, sides_of
 
 
@@ -102,20 +102,8 @@ class Ways:
         return [number for number in self.numbers.get(goal.relation, []) if self.may_take(goal, number)]
 
     def may_take(self, goal, number):
-        """Whether a rule's head has no sign that is unlike the goal's; unknowns are passed over."""
-        waiting = list(zip(self.rules[number].terms, goal.terms))
-        while waiting:
-            one, other = waiting.pop()
-            other = self.bindings.walk(other)
-            if is_unknown(one) or is_unknown(other):
-                continue
-            if is_compound(one):
-                if not have_like_heads(one, other):
-                    return False
-                waiting.extend(list(zip(one[1], other[1])))
-            elif one != other:
-                return False
-        return True
+        """Whether a rule's head has no sign that is unlike the goal's."""
+        return self.bindings.may_be_same(self.rules[number].terms, goal.terms)
 
     def narrowest(self, way):
         """The place of an open goal for which the fewest rules may be taken, and their numbers."""
