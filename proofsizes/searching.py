@@ -104,6 +104,12 @@ def answered(program, question, most):
     return told
 
 
+def told_at(program, question, size, told):
+    """The list of what is told of one size behind what is told of all smaller ones."""
+    ways = Ways(program, question)
+    return told_newly(found_proofs(ways, OfSize(Sizes(ways, size), size)), told)
+
+
 def told_newly(rows, told):
     """The list of what is told of proofs of one size behind what is told ahead."""
     first = {}

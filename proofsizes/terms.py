@@ -23,6 +23,11 @@ def is_name(thing):
     return thing[0] in LETTERS and all([sign in LETTERS or sign in FIGURES for sign in thing])
 
 
+def is_constant(thing):
+    """Whether a thing is a constant."""
+    return is_name(thing) or is_integer(thing)
+
+
 def is_unknown_name(thing):
     """Whether an unknown can be called so."""
     return is_name(thing) or is_integer(thing) and thing >= 0
@@ -51,7 +56,7 @@ def is_term_within(thing, most):
         if most is not None and level > most:
             return False
         if not isinstance(part, tuple):
-            if not is_name(part) and not is_integer(part):
+            if not is_constant(part):
                 return False
         elif is_compound_shape(part):
             waiting.extend([(inner, level + 1) for inner in part[1]])
