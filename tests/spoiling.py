@@ -1,11 +1,17 @@
 """Evidence with other things in the places of what it is made of."""
 
 from proofsizes.answers import Answer
+from proofsizes.closed import AllMet, Signature, Unmet
+from proofsizes.congruence import Apart, Equal
 from proofsizes.covering import Covered, Outside
+from proofsizes.following import Against, Follows
+from proofsizes.gaps import Placed, Round
 from proofsizes.programs import Program, Question, Rule
 from proofsizes.searching import Answered, Spent, StillOpen
+from proofsizes.sessions import Desk
 from proofsizes.solving import Solved, Unsolved
 from proofsizes.stores import NoValues, Valued
+from proofsizes.streams import Came
 from proofsizes.unfolding import Needless, Unfolded
 
 # Nothing of this is a term, a name, a number, a step, a tree or the like.
@@ -15,7 +21,9 @@ WRONG = [
     ((),), (((),),), (0, (None,)), (0, ((True, ()),)), Spent(0), StillOpen(1), Covered(), Outside(("a",)),
     Solved({}), Unsolved((), ()), Valued({}), NoValues(0, None), Answer((), ()), Answered(None, None, None),
     Rule(("p", ()), []), Program([]), Question([], []), Needless(0, {}), Unfolded(None, ()), (Spent(0), ()),
-    ("given", Spent(0)), (Spent(0), 0), (Answer((), ()),),
+    ("given", Spent(0)), (Spent(0), 0), (Answer((), ()),), Follows(0), Against({}), Placed({}), Round((0,)), AllMet(),
+    Unmet(("a",)), Signature(["a"], {"f": 1}), Equal(()), Apart({}, {}, 0), Came((), 0, True), Desk(Program([])),
+    ("same", Follows(0)), ("inside", "f", (Round(()),)), ("inside", Equal(()), (0,)), ("f", (Placed({}),)),
 ]
 # These are well made, but hardly what stands there.
 OTHER = [-1, 0, 1, 2, 99, 10 ** 9, "a", "f", "x", "?", "given", "turned", "joined", "part", (), (0, 1), ("a", "b"),
