@@ -1,5 +1,7 @@
 """Integers with bounds on how far they are apart: integers that keep all, or why there are none."""
 
+from heapq import heappop, heappush
+
 from proofsizes.errors import RelationError
 from proofsizes.terms import as_dict, as_tuple, is_integer, is_name, is_number_below, is_row
 
@@ -97,12 +99,47 @@ def judge_gaps(bounds):
 def closed(bounds):
     """The dict from pairs of unlike sides to the least numbers with which bounds of them follow; or None."""
     check_bounds(bounds)
-    if settled(bounds)[0] is None:
+    places = settled(bounds)[0]
+    if places is None:
         return None
     sides = sides_of_bounds(bounds)
-    sums = {side: least_sums(bounds, side)[0] for side in sides}
+    nearest = Nearest(bounds, sides, places)
+    sums = {side: nearest.sums_from(side) for side in sides}
     pairs = [(one, other) for one in sides for other in sides if one != other and other in sums[one]]
     return {(one, other): sums[one][other] for one, other in pairs}
+
+
+class Nearest:
+    """Least sums of bounds that lead from a side to others, where some integers keep all bounds.
+
+    What a bound leaves between these integers is never below 0, so the sides that are led to
+    with the least of it come first, and are done with then.
+    """
+
+    def __init__(self, bounds, sides, places):
+        self.sides = sides
+        self.numbers = {side: at for at, side in enumerate(sides)}
+        self.heights = [place_of(side, places) for side in sides]
+        self.leading = [{} for _ in sides]
+        for one, other, more in bounds:
+            start, end = self.numbers[one], self.numbers[other]
+            room = more + self.heights[end] - self.heights[start]
+            self.leading[start][end] = min(room, self.leading[start].get(end, room))
+
+    def sums_from(self, side):
+        """The dict from all sides that bounds lead to, from a side, to their least sums."""
+        start = self.numbers[side]
+        done = {}
+        waiting = [(0, start)]
+        while waiting:
+            room, at = heappop(waiting)
+            if at in done:
+                continue
+            done[at] = room
+            for end, more in self.leading[at].items():
+                if end not in done:
+                    heappush(waiting, (room + more, end))
+        return {self.sides[at]: done[at] + self.heights[start] - self.heights[at] for at in done}
 
 
 def judge_bound(bounds, bound):

@@ -1,5 +1,6 @@
 """Sets of integers that keep bounds: the same ones, without a name, within others together, how many."""
 
+from proofsizes.counted import counted, ranges_of
 from proofsizes.errors import TooLarge
 from proofsizes.gaps import BadBound, are_kept, are_places, check_bounds, closed, is_following, names_of_bounds
 from proofsizes.gaps import settled
@@ -137,55 +138,12 @@ def least_bounds(bounds):
 def count_places(bounds, most):
     """How many rows of integers for the names keep all bounds; None for more than most."""
     check_bounds(bounds)
-    table = closed(bounds)
-    names = names_of_bounds(bounds)
-    many = 0
-    if table is not None:
-        if any([(name, None) not in table or (None, name) not in table for name in names]):
+    places = settled(bounds)[0]
+    if places is None:
+        many = 0
+    else:
+        ranges = ranges_of(bounds, places)
+        if ranges is None:
             return None
-        many = Counting(table, names, most).counted()
+        many = counted(bounds, ranges, places, most)
     return many if many <= most else None
-
-
-class Counting:
-    """Counts integers for names, each with a least and a greatest one; no further than one above most."""
-
-    def __init__(self, table, names, most):
-        self.table = table
-        # What lies far apart comes last, where it is counted at once.
-        self.names = sorted(names, key=lambda name: table[name, None] + table[None, name])
-        self.most = most
-        self.known = {}
-
-    def counted(self):
-        """How many rows of integers there are."""
-        return self.behind(0, tuple([(-self.table[None, name], self.table[name, None]) for name in self.names]))
-
-    def behind(self, at, ranges):
-        """How many rows of integers there are for the names from a place on, within ranges."""
-        if at == len(self.names):
-            return 1
-        low, high = ranges[0]
-        if at == len(self.names) - 1:
-            return min(high - low + 1, self.most + 1)
-        key = (at, ranges)
-        if key not in self.known:
-            total = 0
-            worth = low
-            while worth <= high and total <= self.most:
-                total += self.behind(at + 1, self.narrowed(at, worth, ranges))
-                worth += 1
-            self.known[key] = total
-        return self.known[key]
-
-    def narrowed(self, at, worth, ranges):
-        """The ranges of the names behind one that has an integer."""
-        name = self.names[at]
-        found = []
-        for other, (low, high) in zip(self.names[at + 1:], ranges[1:]):
-            if (name, other) in self.table:
-                low = max(low, worth - self.table[name, other])
-            if (other, name) in self.table:
-                high = min(high, worth + self.table[other, name])
-            found.append((low, high))
-        return tuple(found)

@@ -299,6 +299,35 @@ class CountTest(unittest.TestCase):
             if many:
                 self.assertIsNone(count_places(bounds, many - 1))
 
+    def test_random_with_more_names(self):
+        source = random.Random(151)
+        names = ["a", "b", "c", "d", "e"]
+        for _ in range(120):
+            bounds = random_bounds(source, names, 7, 2)
+            for name in names:
+                bounds += [(name, None, source.randrange(0, 3)), (None, name, source.randrange(-1, 2))]
+            source.shuffle(bounds)
+            many = len(list(kept_rows(bounds, names, 2)))
+            for most in (many, many + 1, 5000):
+                self.assertEqual(count_places(bounds, most), many)
+            if many:
+                self.assertIsNone(count_places(bounds, many - 1))
+                self.assertIsNone(count_places(bounds, -1))
+
+    def test_a_thousand_names(self):
+        names = ["n" + str(number) for number in range(1000)]
+        none = [bound for name in names for bound in ((name, None, 0), (None, name, 0))]
+        chain = [(one, other, 0) for one, other in zip(names, names[1:])]
+        ends = [(names[-1], None, 1), (None, names[0], 0)]
+        self.assertEqual(count_places(none, 1), 1)
+        self.assertEqual(count_places(none + chain, 1), 1)
+        self.assertEqual(count_places(chain[:200] + [(names[200], None, 1), (None, names[0], 0)], 10 ** 6), 202)
+        for bounds in (chain + ends, chain[::-1] + ends):
+            self.assertIsNone(count_places(bounds, 20))
+        self.assertIsNone(count_places([(name, None, 1) for name in names] + none[1::2], 10 ** 300))
+        self.assertEqual(count_places([(name, None, 1) for name in names] + none[1::2], 2 ** 1000), 2 ** 1000)
+        self.assertEqual(count_places(none + [(names[5], None, -1)], 1), 0)
+
 
 class TogetherTest(unittest.TestCase):
     def test_one_row_within_is_what_follows(self):

@@ -16,6 +16,7 @@ METHODS = set(
     "rsplit rstrip setdefault split splitlines startswith strip update upper values zfill bit_length add "
     "discard".split()
 )
+LIBRARY = {"heapq": {"heappush", "heappop"}}
 BARRED = set("mro elements open input law version_info with_traceback add_note register type typing".split())
 DOUBLE = {"__init__", "__eq__", "__bool__"}
 
@@ -51,6 +52,11 @@ class LanguageTest(unittest.TestCase):
             for node in ast.walk(tree):
                 if isinstance(node, kinds):
                     yield name, node
+
+    def own_imports(self, name):
+        """What a file imports of the package; the library is asked by itself."""
+        found = [node for node in self.trees[name][1].body if isinstance(node, ast.ImportFrom)]
+        return [node for node in found if node.module not in LIBRARY]
 
     def test_lines_files_and_characters(self):
         self.assertLessEqual(len(self.trees), 100)
@@ -93,7 +99,11 @@ class LanguageTest(unittest.TestCase):
             taken = [node.name for node in tree.body if isinstance(node, ast.ClassDef)]
             for node in tree.body:
                 if isinstance(node, ast.ImportFrom):
-                    self.assertTrue(node.module.startswith("proofsizes."), name)
+                    if node.module in LIBRARY:
+                        self.assertLessEqual({alias.name for alias in node.names}, LIBRARY[node.module], name)
+                    else:
+                        self.assertTrue(node.module.startswith("proofsizes."), name)
+                    self.assertFalse([alias for alias in node.names if alias.asname], name)
                     taken.extend(alias.name for alias in node.names)
             functions = [node.name for node in tree.body if isinstance(node, ast.FunctionDef)]
             self.assertEqual(len(taken + functions), len(set(taken + functions)), name)
@@ -106,22 +116,33 @@ class LanguageTest(unittest.TestCase):
     def test_all_that_is_imported_is_used(self):
         for name, (_, tree) in self.trees.items():
             used = {node.id for node in ast.walk(tree) if isinstance(node, ast.Name)}
+            for node in self.own_imports(name):
+                source = self.trees[node.module.split(".")[1]][1].body
+                names = {one.name for one in source if isinstance(one, (ast.FunctionDef, ast.ClassDef))}
+                for one in source:
+                    if isinstance(one, ast.Assign):
+                        names.update(target.id for target in one.targets)
+                for alias in node.names:
+                    self.assertIn(alias.name, names, name)
             for node in tree.body:
-                if isinstance(node, ast.ImportFrom):
-                    defined = ast.walk(self.trees[node.module.split(".")[1]][1])
-                    names = {one.name for one in defined if isinstance(one, (ast.FunctionDef, ast.ClassDef))}
-                    source = self.trees[node.module.split(".")[1]][1].body
-                    for one in source:
-                        if isinstance(one, ast.Assign):
-                            names.update(target.id for target in one.targets)
-                    for alias in node.names:
-                        self.assertIn(alias.name, used, name)
-                        self.assertIn(alias.name, names, name)
+                for alias in node.names if isinstance(node, ast.ImportFrom) else []:
+                    self.assertIn(alias.name, used, name)
+
+    def test_nothing_calls_itself(self):
+        for name, function in self.nodes(ast.FunctionDef):
+            for node in ast.walk(function):
+                if isinstance(node, ast.Call):
+                    called = node.func
+                    if isinstance(called, ast.Attribute) and isinstance(called.value, ast.Name):
+                        self.assertNotEqual((called.value.id, called.attr), ("self", function.name), name)
+                    elif isinstance(called, ast.Name):
+                        is_method = bool(function.args.args) and function.args.args[0].arg == "self"
+                        self.assertTrue(is_method or called.id != function.name, (name, function.name))
 
     def test_no_imports_in_a_circle(self):
         asked = {}
-        for name, (_, tree) in self.trees.items():
-            asked[name] = {node.module.split(".")[1] for node in tree.body if isinstance(node, ast.ImportFrom)}
+        for name in self.trees:
+            asked[name] = {node.module.split(".")[1] for node in self.own_imports(name)}
         while asked:
             free = [name for name in asked if not asked[name]]
             self.assertTrue(free, asked)
