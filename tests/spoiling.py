@@ -1,16 +1,24 @@
 """Evidence with other things in the places of what it is made of."""
 
+from proofsizes import uniform
 from proofsizes.answers import Answer
 from proofsizes.closed import AllMet, Signature, Unmet
 from proofsizes.congruence import Apart, Equal
 from proofsizes.covering import Covered, Outside
+from proofsizes.differing import OnlyOne, SameTerms
+from proofsizes.flat import Held
 from proofsizes.following import Against, Follows
 from proofsizes.gaps import Placed, Round
+from proofsizes.models import Model
+from proofsizes.patterns import AllIn, NotIn
 from proofsizes.programs import Program, Question, Rule
+from proofsizes.regular import Fewest, InOne, SameSet, TermSet
 from proofsizes.searching import Answered, Spent, StillOpen
 from proofsizes.sessions import Desk
+from proofsizes.shallow import Has
 from proofsizes.solving import Solved, Unsolved
 from proofsizes.stores import NoValues, Valued
+from proofsizes.strata import Barred, Ringed, Strata
 from proofsizes.streams import Came
 from proofsizes.unfolding import Needless, Unfolded
 
@@ -24,6 +32,10 @@ WRONG = [
     ("given", Spent(0)), (Spent(0), 0), (Answer((), ()),), Follows(0), Against({}), Placed({}), Round((0,)), AllMet(),
     Unmet(("a",)), Signature(["a"], {"f": 1}), Equal(()), Apart({}, {}, 0), Came((), 0, True), Desk(Program([])),
     ("same", Follows(0)), ("inside", "f", (Round(()),)), ("inside", Equal(()), (0,)), ("f", (Placed({}),)),
+    Model(1, {}, 0, {}, 0, {}), Has({}), Held(Program([])), uniform.Follows((0, ())), uniform.Apart(()), SameTerms(),
+    OnlyOne("a"), TermSet(1, {}, {}, 0, (0,)), SameSet(), InOne("a"), Fewest({0: "a"}, {}), Barred(("p", ()), [], []),
+    Strata({}), Ringed(()), AllIn(), NotIn({}), (Model(1, {}, 0, {}, 0, {}),), ("p", (TermSet(1, {}, {}, 0, ()),)),
+    ("f", (Has({}),)), (SameSet(), 0), (0, (Strata({}),)), (Barred(("p", ()), [], []), ()), ("given", InOne("a")),
 ]
 # These are well made, but hardly what stands there.
 OTHER = [-1, 0, 1, 2, 99, 10 ** 9, "a", "f", "x", "?", "given", "turned", "joined", "part", (), (0, 1), ("a", "b"),

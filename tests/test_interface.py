@@ -2,9 +2,14 @@
 
 import importlib
 import inspect
+import pathlib
 import unittest
 
+import proofsizes
+from proofsizes import congruence, following, uniform
 from proofsizes.errors import RelationError
+from proofsizes.flat import NoFact
+from proofsizes.programs import Program
 
 # For each file: errors, classes with their methods, and functions, each with the names of its arguments.
 ERRORS = {
@@ -13,6 +18,11 @@ ERRORS = {
     "sessions": ["NoStep()"],
     "gaps": ["BadBound(number)"],
     "closed": ["BadSignature(part)"],
+    "models": ["BadModel(part)"],
+    "shallow": ["NotShallow(number)"],
+    "flat": ["NotFlat(number)", "NoFact(fact)"],
+    "uniform": ["NotPlain(number)"],
+    "strata": ["BadBarred(number)", "NoStrata(ring)"],
 }
 EVIDENCE = {
     "solving": ["shows(equations)", "Solved(bound)", "Unsolved(steps, ring)"],
@@ -25,6 +35,12 @@ EVIDENCE = {
     "gapsets": ["shows(bounds, lots)", "Within()", "Beside(places)"],
     "congruence": ["shows(equations, pair)", "Equal(steps)", "Apart(constants, compounds, beyond)"],
     "closed": ["shows(signature, equations, inequations)", "Filled(ground)", "Unfilled()"],
+    "shallow": ["shows(program, question)", "Has(terms)"],
+    "uniform": ["shows(program, rule)", "Follows(proof)", "Apart(facts)"],
+    "differing": ["shows(one, other, name)", "SameTerms()", "OnlyOne(term)"],
+    "regular": ["shows(one, other)", "SameSet()", "InOne(term)"],
+    "strata": ["shows(rules)", "Strata(numbers)", "Ringed(ring)"],
+    "patterns": ["shows(one, pattern)", "AllIn()", "NotIn(terms)"],
 }
 MORE_EVIDENCE = {
     "completing": ["shows(program, question)", "Complete(levels, answers)"],
@@ -39,6 +55,14 @@ CLASSES = {
     "streams": ["Came(proofs, steps, is_over)"],
     "closed": ["Signature(constants, compounds) has(term)"],
     "congruence": ["Apart(constants, compounds, beyond) state(term)"],
+    "models": [
+        "Model(many, constants, other, compounds, beyond, relations) __bool__() state(term, values) holds(program) "
+        "bars(question) shows(program, question)"
+    ],
+    "regular": [
+        "TermSet(many, constants, compounds, other, good) state(term) has(term)", "Fewest(terms, parting) shows(one)"
+    ],
+    "strata": ["Barred(head, goals, nots)"],
 }
 FUNCTIONS = {
     "solving": "solve(equations)",
@@ -69,6 +93,20 @@ FUNCTIONS = {
     "equal_terms(equations, term, signs); are_endless(equations, term)",
     "closed": "judge_filled(signature, equations, inequations); judge_patterns(signature, terms, patterns); "
     "needless_patterns(signature, patterns)",
+    "prooftexts": "write_proofs(program, question, proofs); read_proofs(program, question, text)",
+    "tabling": "tabled(program, question, most)",
+    "models": "least_rows(model, program); with_rows(model, relations)",
+    "shallow": "types(program); type_of(program, term); model_of(program); judge_shallow(program, question); "
+    "least_terms(program); is_within(program, name, other); is_empty(program, name); all_terms(program, name)",
+    "counting": "count_terms(program, name, most); proof_of(program, name, term)",
+    "flat": "facts(program); least_sizes(program); least_proof(program, fact); count_proofs(program, fact)",
+    "uniform": "judge_follows(program, rule); is_same(one, other); shrunk(program)",
+    "supports": "supports(program, fact); survives(program, fact, gone); must_have(program, fact)",
+    "differing": "judge_programs(one, other, name); needless_rules(program)",
+    "regular": "relation_set(program, name); others(one); both(one, other); either(one, other); judge_sets(one, other); "
+    "least_set(one); fewest(one)",
+    "strata": "judge_strata(rules); layered_facts(rules); is_supported(rules, facts)",
+    "patterns": "judge_pattern(one, pattern); some_in(one, pattern); instances_set(pattern)",
 }
 
 
@@ -116,8 +154,10 @@ class InterfaceTest(unittest.TestCase):
                     self.method(kind, shows)
                     self.method(kind, "__eq__(other)")
                     self.method(kind, "__bool__()")
-                    for name in parted(text)[1]:
-                        self.assertTrue(hasattr(kind(*[None] * len(parted(text)[1])), name))
+                    made = kind(*[None] * len(parted(text)[1]))
+                    self.assertEqual(list(vars(made)), parted(text)[1])
+                    self.assertEqual(made, kind(*[None] * len(parted(text)[1])))
+                    self.assertIn(bool(made), (True, False))
 
     def test_classes(self):
         for module, texts in CLASSES.items():
@@ -125,7 +165,7 @@ class InterfaceTest(unittest.TestCase):
                 made, *methods = text.split(") ")
                 kind = self.defined(module, made + ")")
                 self.method(kind, "__eq__(other)")
-                for one in methods:
+                for one in methods[0].replace(") ", ")|").split("|") if methods else []:
                     self.method(kind, one)
 
     def test_desk(self):
@@ -134,6 +174,28 @@ class InterfaceTest(unittest.TestCase):
             self.method(desk, text)
         for name in ("program", "question", "size", "told"):
             self.assertTrue(hasattr(desk(None), name))
+
+    def test_held(self):
+        held = self.defined("flat", "Held(program)")
+        for text in ("put(fact)", "take(fact)"):
+            self.method(held, text)
+        self.assertEqual(held(Program([])).facts, ())
+
+    def test_bad_numbers(self):
+        kind = self.defined("supports", "BadNumbers(gone)")
+        self.assertEqual((kind.__bases__, vars(kind([1]))), ((NoFact,), {"fact": [1]}))
+
+    def test_all_errors_are_relation_errors(self):
+        for path in sorted(pathlib.Path(proofsizes.__file__).parent.glob("*.py")):
+            module = importlib.import_module("proofsizes." + path.stem)
+            for thing in vars(module).values():
+                if isinstance(thing, type) and issubclass(thing, Exception):
+                    self.assertTrue(issubclass(thing, RelationError), thing)
+
+    def test_classes_of_one_name_are_unlike(self):
+        self.assertNotEqual(following.Follows(0), uniform.Follows(0))
+        self.assertNotEqual(uniform.Follows(0), following.Follows(0))
+        self.assertNotEqual(congruence.Apart({}, {}, 0), uniform.Apart(()))
 
     def test_functions(self):
         for module, texts in FUNCTIONS.items():
