@@ -1,9 +1,9 @@
 """Sets of integers that keep bounds: the same ones, without a name, within others together, how many."""
 
-from proofsizes.counted import counted, ranges_of
 from proofsizes.errors import TooLarge
 from proofsizes.gaps import BadBound, are_kept, are_places, check_bounds, closed, is_following, names_of_bounds
 from proofsizes.gaps import settled
+from proofsizes.placing import counted_rows, ranges_of
 from proofsizes.terms import as_dict, is_name, is_row
 
 MOST_LOTS = 60
@@ -145,5 +145,5 @@ def count_places(bounds, most):
         ranges = ranges_of(bounds, places)
         if ranges is None:
             return None
-        many = counted(bounds, ranges, places, most)
+        many = counted_rows(bounds, ranges, places, most)
     return many if many <= most else None

@@ -2,7 +2,7 @@
 
 from proofsizes.errors import TooLarge
 from proofsizes.programs import own_pairs, relation_goals, relation_of
-from proofsizes.terms import is_unknown, terms_key
+from proofsizes.terms import is_unknown, names_in, terms_key
 
 MOST_FACTS = 2000
 MOST_ROWS = 200000
@@ -38,7 +38,7 @@ class Facts:
         relation = relation_of(fact)
         self.known[fact] = True
         self.rows.setdefault(relation, []).append(fact[1])
-        for shape in self.tables.get(relation, {}):
+        for shape in list(self.tables.get(relation, {})):
             enter(self.tables[relation][shape], shape, fact[1])
         return True
 
@@ -108,7 +108,7 @@ class FlatRule:
 
     def __init__(self, rule, nots):
         columns = {}
-        self.asked = [Asked(goal, columns) for goal in relation_goals(rule.goals)]
+        self.asked = [Asked(goal, columns) for goal in narrow_first(relation_goals(rule.goals))]
         self.head = looked(rule.head, columns)
         self.goals = [looked(goal, columns) for goal in relation_goals(rule.goals)]
         self.nots = [looked(goal, columns) for goal in nots]
@@ -144,6 +144,29 @@ class FlatRule:
     def heads_by(self, facts):
         """The list of the facts that the rule makes."""
         return [fact_by(self.head, row) for row in self.rows_by(facts)]
+
+
+def narrow_first(goals):
+    """The list of goals, next each time the one with the fewest new unknowns, then the most terms that are known.
+
+    So there are few rows on the way to those by which all goals are so.
+    """
+    rest = list(goals)
+    known = {}
+    found = []
+    while rest:
+        keys = [(len(new_names(goal, known)), -len(goal[1]), at) for at, goal in enumerate(rest)]
+        goal = rest[min(keys)[2]]
+        del rest[min(keys)[2]]
+        for name in new_names(goal, known):
+            known[name] = True
+        found.append(goal)
+    return found
+
+
+def new_names(goal, known):
+    """The names of the unknowns of a goal that are not known."""
+    return [name for name in names_in(goal[1]) if name not in known]
 
 
 def lookups_of(terms, columns):

@@ -7,6 +7,8 @@ from proofsizes.errors import TooLarge
 from proofsizes.states import MOST_STATES, States, power, rows_of
 
 MOST_ROWS = 5000
+# So many ways that parts let come of far more rows of types than may be.
+FAR_TOO_MANY = 50000
 
 
 class Clause:
@@ -100,7 +102,8 @@ class Round:
         while len(found) > before:
             before = len(found)
             for key in self.compounds:
-                for mask in self.made_of_any(key, list(found)):
+                masks = self.made_of_any(key, list(found))
+                for mask in masks:
                     found[mask] = True
         return list(found)
 
@@ -110,6 +113,8 @@ class Round:
         for part in range(key[1]):
             lets = {self.lets_at(key, part, mask): True for mask in masks}
             rows = {one & other: True for one in rows for other in lets}
+            if len(rows) > FAR_TOO_MANY:
+                raise TooLarge(power(len(masks), key[1]))
         return [self.made_by(key, one) for one in rows]
 
     def check_size(self):

@@ -38,10 +38,15 @@ def least_of(states):
         inner = tuple([found[other].term for other in least.inner])
         least.term = (least.name, inner) if inner else least.name
         found[state] = least
-        keys = {other: found[other].order_key(ranks) for other in found}
-        ranks = {other: at for at, other in enumerate(sorted(keys, key=lambda other: keys[other]))}
+        ranks = ranked({one: found[one].order_key(ranks) for one in found})
         state, least = least_left(states, constants, found, ranks)
     return found
+
+
+def ranked(keys):
+    """The dict from states to their places in the order of their keys."""
+    ascending = sorted(keys, key=lambda state: keys[state])
+    return {state: at for at, state in enumerate(ascending)}
 
 
 def constants_told(states):

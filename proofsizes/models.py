@@ -152,7 +152,8 @@ def least_rows(model, program):
                 behind[number] = seen
                 rows = relations.setdefault(relation_of(rule.head), {})
                 many = len(rows)
-                for row in asked_rows(model, relations, rule):
+                asked = asked_rows(model, relations, rule)
+                for row in asked:
                     rows[row] = True
                 is_over = is_over and len(rows) == many
     found = {key: list(relations[key]) for key in relations}

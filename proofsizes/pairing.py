@@ -63,7 +63,8 @@ class Pairs:
         while before < len(self.terms):
             before = len(self.terms)
             for name, parts, first, second in tables:
-                for pair, row in self.made(parts, first, second):
+                made = self.made_of_any(parts, first, second)
+                for pair, row in made:
                     if pair not in self.terms:
                         self.terms[pair] = (name, tuple([self.terms[inner] for inner in row]))
 
@@ -78,7 +79,7 @@ class Pairs:
         constants = constants_told(states)
         return {constants[constant]: constant for constant in reversed(list(constants))}
 
-    def made(self, parts, first, second):
+    def made_of_any(self, parts, first, second):
         """Pairs of a compound, as two tables tell them, each with a row of pairs that its parts may have."""
         rows = {(0, 0): ()}
         for part in range(parts):

@@ -309,6 +309,15 @@ class HeldTest(unittest.TestCase):
         self.assertEqual(len(held.take(("q", (3,)))), 2)
         self.assertEqual(len(held.put(("q", (7,)))), 2)
 
+    def test_few_rows_of_many_facts(self):
+        # 60 * 60 * 60 rows of the first goals have few rows of all goals within them.
+        unknowns = (X, Y, Z)
+        held = Held(Program([Rule(("p", unknowns), [("q", (one,)) for one in unknowns] + [("link", unknowns)])]))
+        for at in range(60):
+            held.put(("q", (at,)))
+        self.assertEqual(held.put(("link", (3, 4, 5))), [("link", (3, 4, 5)), ("p", (3, 4, 5))])
+        self.assertEqual(held.put(("link", (3, 4, 60))), [("link", (3, 4, 60))])
+
     def large(self, number, held, fact):
         with self.assertRaises(TooLarge) as caught:
             held.put(fact)

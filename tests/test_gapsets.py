@@ -314,6 +314,20 @@ class CountTest(unittest.TestCase):
                 self.assertIsNone(count_places(bounds, many - 1))
                 self.assertIsNone(count_places(bounds, -1))
 
+    def test_wide_and_narrow_names(self):
+        wide = [("x", None, 10 ** 9), (None, "x", 0)]
+        for name in ("y", "z"):
+            wide += [(name, None, 5), (None, name, 0), (name, "x", 0)]
+        self.assertEqual(count_places(wide, 10 ** 12), 36 * (10 ** 9 + 1) - sum(max(one, other) for one in range(6) for other in range(6)))
+        narrow, star = [("x", None, 5), (None, "x", 0)], [("x", None, 10 ** 9), (None, "x", 0)]
+        for at in range(20):
+            name = "l" + str(at)
+            narrow += [(name, None, 10 ** 9), (None, name, 0), ("x", name, 0)]
+            star += [(name, None, 5), (None, name, 0), (name, "x", 0)]
+        self.assertEqual(count_places(narrow, 10 ** 200), sum((10 ** 9 + 1 - worth) ** 20 for worth in range(6)))
+        greatest = [(worth + 1) ** 20 - worth ** 20 for worth in range(6)]
+        self.assertEqual(count_places(star, 10 ** 200), sum(many * (10 ** 9 + 1 - worth) for worth, many in enumerate(greatest)))
+
     def test_a_thousand_names(self):
         names = ["n" + str(number) for number in range(1000)]
         none = [bound for name in names for bound in ((name, None, 0), (None, name, 0))]

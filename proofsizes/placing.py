@@ -16,7 +16,7 @@ def ranges_of(bounds, places):
     return {name: (-above[name], below[name]) for name in names}
 
 
-def counted(bounds, ranges, places, most):
+def counted_rows(bounds, ranges, places, most):
     """How many rows of integers there are; some number above most if they are more than that.
 
     A name with one integer alone asks no more of others than their ranges tell.
@@ -57,15 +57,16 @@ def groups_of(beside):
 class Counting:
     """Counts the rows of integers for a group of names, name by name.
 
-    Of the names that have their integers those alone are kept that stand beside one without:
-    what they ask of the others is all that is asked of these, and it can be met.
+    What the integers of some names ask of all others is told by the ranges that they leave to
+    those beside them, the border. Each integer within these ranges stands in some row.
     """
 
     def __init__(self, bounds, ranges, group, beside, places, most):
         self.ranges = ranges
         self.beside = beside
         self.most = most
-        self.rest = dict(group)
+        ascending = sorted([(width_of(ranges[name]), name) for name in group])
+        self.rest = {name: True for _, name in ascending}
         edges = []
         for name in group:
             edges.extend([(name, None, ranges[name][1]), (None, name, -ranges[name][0])])
@@ -74,59 +75,77 @@ class Counting:
 
     def counted(self):
         """How many rows there are, or some number above most."""
-        kept = []
+        border = []
         rows = {(): 1}
         many = 1
         while self.rest and many <= self.most:
-            name = self.following(kept)
-            self.least[name] = self.nearest.sums_from(name)
+            name = self.following(border)
             del self.rest[name]
-            others = [one for one in kept + [name] if self.is_asked(one)]
-            rows = self.behind(rows, kept, name, others)
+            behind = self.border_behind(border, name)
+            rows = self.rows_behind(rows, border, name, behind)
             many = sum(list(rows.values()))
-            kept = others
+            border = behind
         return many
 
-    def following(self, kept):
-        """The name to go on with: one that leaves few to be kept, then one with few integers."""
-        near = [name for one in kept for name in self.beside[one] if name in self.rest]
-        keys = {}
-        for name in near if near else list(self.rest):
-            if name not in keys:
-                keys[name] = self.key_of(name, kept)
-        return min([(keys[name], name) for name in keys])[1]
+    def following(self, border):
+        """The name to go on with: one of the border, or the one with the fewest integers, that leaves few rows."""
+        near = border + list(self.rest)[:1]
+        return min([(self.rows_with(border, name), name) for name in near])[1]
 
-    def key_of(self, name, kept):
-        """How many names are kept behind one, and how many integers it has."""
-        others = [one for one in kept if any([other in self.rest and other != name for other in self.beside[one]])]
-        asked = any([other in self.rest for other in self.beside[name]])
-        low, high = self.ranges[name]
-        return (len(others) + (1 if asked else 0), high - low)
+    def rows_with(self, border, name):
+        """How many rows there may be to be gone through, if a name is the next one."""
+        many = width_of(self.ranges[name]) if self.is_asked(name) else 1
+        for other in self.border_behind(border, name):
+            left = width_of(self.ranges[other])
+            lets = 1
+            for one in self.beside[other]:
+                if (one == name or one not in self.rest) and lets < left:
+                    lets = lets * width_of(self.ranges[one])
+            many = many * min(left, lets)
+        return many
 
     def is_asked(self, name):
-        """Whether a name stands beside one without an integer."""
+        """Whether a name stands beside another one without an integer."""
         return any([other in self.rest for other in self.beside[name]])
 
-    def behind(self, rows, kept, name, others):
-        """How many rows there are for each row of the integers of others, when a name has its integers, too."""
-        places = [at for at, one in enumerate(kept) if one in others]
+    def border_behind(self, border, name):
+        """The list of the names beside those that have integers, when a name has one, too."""
+        others = [other for other in self.beside[name] if other in self.rest and other not in border]
+        return [other for other in border if other != name] + others
+
+    def rows_behind(self, rows, border, name, behind):
+        """The dict from ranges left to a border to how many rows leave them, when a name has its integers."""
         found = {}
         for row, ways in rows.items():
-            low, high = self.range_behind(row, kept, name)
-            start = tuple([row[at] for at in places])
-            if name not in others:
-                found[start] = found.get(start, 0) + ways * (high - low + 1)
+            known = {other: left for other, left in zip(border, row)}
+            low, high = self.left_to(name, known)
+            if not self.is_asked(name):
+                key = tuple([known[other] for other in behind])
+                found[key] = found.get(key, 0) + ways * (high - low + 1)
                 continue
-            # There are more rows than asked for, if there are so many integers, so none needs to be told.
+            # If there are more integers than rows are asked for, so many are enough.
             for worth in range(low, min(high, low + max(0, self.most)) + 1):
-                key = start + (worth,)
+                known[name] = (worth, worth)
+                key = tuple([self.left_to(other, known) for other in behind])
                 found[key] = found.get(key, 0) + ways
         return found
 
-    def range_behind(self, row, kept, name):
-        """The least and the greatest integer of a name, when others have theirs."""
-        low, high = self.ranges[name]
-        for one, worth in zip(kept, row):
-            low = max(low, worth - self.least[one][name])
-            high = min(high, worth + self.least[name][one])
+    def left_to(self, name, known):
+        """The range that is left to a name by the ranges of others."""
+        low, high = known.get(name, self.ranges[name])
+        for other in known:
+            if other != name:
+                low = max(low, known[other][0] - self.gap(other, name))
+                high = min(high, known[other][1] + self.gap(name, other))
         return low, high
+
+    def gap(self, one, other):
+        """The least number with which a bound between two names follows."""
+        if one not in self.least:
+            self.least[one] = self.nearest.sums_from(one)
+        return self.least[one][other]
+
+
+def width_of(ends):
+    """How many integers a range has."""
+    return ends[1] - ends[0] + 1
