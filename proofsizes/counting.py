@@ -29,9 +29,10 @@ def counts_by_sizes(found, most):
             for mask in list(found.constants.values()):
                 row[mask] = row.get(mask, 0) + 1
         for key in found.compounds:
-            for lets, many in compounds_of_size(found, key, counts, size).items():
+            made = compounds_of_size(found, key, counts, size)
+            for lets in made:
                 mask = found.made_by(key, lets)
-                row[mask] = row.get(mask, 0) + many
+                row[mask] = row.get(mask, 0) + made[lets]
         counts.append(row)
     return counts
 

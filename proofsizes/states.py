@@ -98,9 +98,11 @@ def has_all_rows(thing, parts, many):
     if not isinstance(thing, dict) or not all([is_row_of_states(row, parts, many) for row in thing]):
         return False
     asked = 1
-    for _ in range(parts):
-        # No more than the rows that there are need to be counted.
-        asked = min(asked * many, len(thing) + 1)
+    part = 0
+    # No more than the rows that there are need to be counted.
+    while part < parts and asked <= len(thing):
+        asked = asked * many
+        part += 1
     return len(thing) == asked
 
 

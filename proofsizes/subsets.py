@@ -25,9 +25,9 @@ class Subsets:
         """The bits for those subsets of some that have no other one of them within, if all larger ones are some."""
         larger = 0
         for at in range(self.many):
-            without = self.every & ~self.with_one(at)
+            without = self.every ^ self.with_one(at)
             larger = larger | (bits & without) << (1 << at)
-        return bits & ~larger
+        return bits ^ (bits & larger)
 
     def rows_of(self, bits):
         """The list of the ascending tuples of the things in each of some subsets."""

@@ -200,7 +200,7 @@ class BadModelTest(unittest.TestCase):
             None, [], {"s": full}, {("s",): full}, {("s", 0): {(): 0}}, {("s", True): full}, {("S", 1): full}, {(None, 1): full}, {("s", 1): None},
             {("s", 1): {(0,): 1}}, {("s", 1): {}}, {("s", 1): {**full, (2,): 0}}, {("s", 1): {(0,): 1, (1, 0): 0}}, {("s", 1): {0: 1, 1: 0}},
             {("s", 2): full}, {("s", 1): {(0,): 1, (1,): 2}}, {("s", 1): {(0,): 1, (1,): True}}, {("s", 1): {(False,): 1, (1,): 0}}, {("s", 1, 1): full},
-            {("s", 1): [((0,), 1)]}, {("s", 10 ** 9): full},
+            {("s", 1): [((0,), 1)]}, {("s", 10 ** 9): full}, {("s", 10 ** 9): {}},
         ):
             self.bad("compounds", compounds=compounds)
         for relations in (
