@@ -143,7 +143,7 @@ class Round:
         lets = [[self.lets_at(key, part, mask) for mask in self.met] for part in range(key[1])]
         made = {}
         table = {}
-        for row in rows_of(range(len(self.met)), key[1]):
+        for row in rows_of(list(range(len(self.met))), key[1]):
             ways = (1 << len(self.compounds[key])) - 1
             for part, state in enumerate(row):
                 ways = ways & lets[part][state]

@@ -11,7 +11,7 @@ class Narrowing:
     """
 
     def __init__(self, table, parts, many):
-        row = [table[key] for key in rows_of(range(many), parts)]
+        row = [table[key] for key in rows_of(list(range(many)), parts)]
         levels = []
         for _ in range(parts):
             numbers = {}

@@ -93,7 +93,7 @@ def context_around(states, pair, found, terms):
     for name, parts in states.compounds:
         table = states.compounds[name, parts]
         for part in range(parts):
-            for rest in rows_of(range(states.many), parts - 1):
+            for rest in rows_of(list(range(states.many)), parts - 1):
                 first = table[rest[:part] + (one,) + rest[part:]]
                 second = table[rest[:part] + (other,) + rest[part:]]
                 outer = found.get((min(first, second), max(first, second)))

@@ -111,7 +111,7 @@ def set_of_pairs(pairs, good):
     compounds = {}
     for name, parts in pairs.keys_told:
         table = {}
-        for row in rows_of(range(len(ascending)), parts):
+        for row in rows_of(list(range(len(ascending))), parts):
             table[row] = numbers[pairs.of_compound(name, [ascending[at] for at in row])]
         compounds[name, parts] = table
     return TermSet(len(ascending), constants, compounds, numbers[pairs.beyond], [numbers[pair] for pair in good])

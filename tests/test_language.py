@@ -17,6 +17,10 @@ METHODS = set(
     "discard".split()
 )
 LIBRARY = {"heapq": {"heappush", "heappop"}}
+# What is walked on the spot, and the calls in which it may stand for that: as the first argument, as any one, alone.
+WALKED = {"zip", "enumerate", "reversed", "range"}
+VIEWS = {"items", "keys", "values"}
+WALKERS = {"list", "tuple", "dict", "sorted", "sum", "any", "all", "enumerate", "zip", "min", "max"}
 BARRED = set("mro elements open input law version_info with_traceback add_note register type typing".split())
 DOUBLE = {"__init__", "__eq__", "__bool__"}
 
@@ -41,6 +45,11 @@ def bound_names(function):
         elif isinstance(node, ast.FunctionDef) and node is not function:
             names.append(node.name)
     return names
+
+
+def is_call_of(node, names):
+    """Whether a node is a call of one of some functions by its bare name."""
+    return isinstance(node, ast.Call) and isinstance(node.func, ast.Name) and node.func.id in names
 
 
 class LanguageTest(unittest.TestCase):
@@ -88,6 +97,24 @@ class LanguageTest(unittest.TestCase):
                 self.assertIn(node.func.id, BUILTINS, (name, node.lineno))
             if isinstance(node.func, ast.Attribute):
                 self.assertIn(node.func.attr, METHODS | own, (name, node.lineno))
+
+    def test_ranges_zips_and_views_are_walked_on_the_spot(self):
+        for name, (_, tree) in self.trees.items():
+            walked = set()
+            for node in ast.walk(tree):
+                if isinstance(node, (ast.For, ast.comprehension)):
+                    walked.add(node.iter)
+                elif isinstance(node, ast.Call) and isinstance(node.func, ast.Name):
+                    many = len(node.args) if node.func.id == "zip" else 1
+                    if node.func.id in WALKERS:
+                        walked.update(node.args[:many])
+                    elif node.func.id in ("reversed", "len"):
+                        walked.update(one for one in node.args if is_call_of(one, {"range"}))
+                elif isinstance(node, ast.Compare) and isinstance(node.ops[0], ast.In):
+                    walked.update(one for one in node.comparators if is_call_of(one, {"range"}))
+            for node in ast.walk(tree):
+                if is_call_of(node, WALKED) or isinstance(node, ast.Call) and isinstance(node.func, ast.Attribute) and node.func.attr in VIEWS:
+                    self.assertIn(node, walked, (name, node.lineno))
 
     def test_names(self):
         for name, node in self.nodes(ast.Name, ast.arg, ast.Attribute, ast.FunctionDef, ast.ClassDef):
