@@ -2,10 +2,13 @@
 
 from proofsizes.errors import TooLarge
 from proofsizes.programs import own_pairs, relation_goals, relation_of
+from proofsizes.sifting import sifted
 from proofsizes.terms import is_unknown, names_in, terms_key
 
 MOST_FACTS = 2000
 MOST_ROWS = 200000
+# Up to so many rows are gone on with in the simplest way.
+FEW_ROWS = 10000
 FAR_TOO_MANY = 50000
 
 
@@ -47,16 +50,20 @@ class Facts:
         for fact in facts:
             self.include(fact)
 
+    def all_rows(self, relation):
+        """The list of the rows of a relation's facts."""
+        return self.rows.get(relation, [])
+
     def many_of(self, relation):
         """How many facts of a relation there are."""
-        return len(self.rows.get(relation, []))
+        return len(self.all_rows(relation))
 
     def table_for(self, relation, shape):
         """The dict from what stands in known places to the rows of a relation, for a shape of a goal."""
         tables = self.tables.setdefault(relation, {})
         if shape not in tables:
             tables[shape] = {}
-            for row in self.rows.get(relation, []):
+            for row in self.all_rows(relation):
                 enter(tables[shape], shape, row)
         return tables[shape]
 
@@ -108,7 +115,11 @@ class FlatRule:
 
     def __init__(self, rule, nots):
         columns = {}
+        first = {}
         self.asked = [Asked(goal, columns) for goal in narrow_first(relation_goals(rule.goals))]
+        self.standing = [Asked(goal, first) for goal in relation_goals(rule.goals)]
+        self.names = list(columns)
+        self.rule = rule
         self.head = looked(rule.head, columns)
         self.goals = [looked(goal, columns) for goal in relation_goals(rule.goals)]
         self.nots = [looked(goal, columns) for goal in nots]
@@ -121,17 +132,19 @@ class FlatRule:
 
     def rows_by(self, facts):
         """The list of all rows of constants for the unknowns by which all goals are so."""
-        rows = [()]
-        for asked in self.asked:
-            table = facts.table_for(asked.relation, asked.shape)
-            found = [(row, table.get(looked_up(asked.lookups, row), [])) for row in rows]
-            many = sum([len(behind) for _, behind in found])
-            if many > MOST_ROWS:
-                # Where there are too many facts, these are told first.
-                raise TooLarge(len(facts.known) if len(facts.known) > MOST_FACTS else many)
-            places = asked.places
-            rows = [row + tuple([fact[place] for place in places]) for row, behind in found for fact in behind]
+        rows, _ = joined_rows(self.asked, facts, FEW_ROWS)
+        if rows is None:
+            rows = self.rows_of_many(facts)
         return [row for row in rows if self.is_let(row, facts)]
+
+    def rows_of_many(self, facts):
+        """The same, where some of the goals have many rows; raises TooLarge if all of them have too many."""
+        found = sifted(self.rule.goals, self.names, facts, MOST_ROWS)
+        if found is None:
+            _, many = joined_rows(self.standing, facts, MOST_ROWS)
+            # Where there are too many facts, these are told first.
+            raise TooLarge(len(facts.known) if len(facts.known) > MOST_FACTS else many)
+        return found
 
     def is_let(self, row, facts):
         """Whether by a row equal, unlike and barred goals are so."""
@@ -144,6 +157,20 @@ class FlatRule:
     def heads_by(self, facts):
         """The list of the facts that the rule makes."""
         return [fact_by(self.head, row) for row in self.rows_by(facts)]
+
+
+def joined_rows(row_of_asked, facts, most):
+    """The rows of constants by which goals are so, one after another, and 0; or None, and how many are above most."""
+    rows = [()]
+    for asked in row_of_asked:
+        table = facts.table_for(asked.relation, asked.shape)
+        found = [(row, table.get(looked_up(asked.lookups, row), [])) for row in rows]
+        many = sum([len(behind) for _, behind in found])
+        if many > most:
+            return None, many
+        places = asked.places
+        rows = [row + tuple([fact[place] for place in places]) for row, behind in found for fact in behind]
+    return rows, 0
 
 
 def narrow_first(goals):
