@@ -2,7 +2,6 @@
 
 from proofsizes.leastterms import least_of, least_terms_of
 from proofsizes.states import States, rows_of
-from proofsizes.terms import put_in
 
 
 def contexts_of(states, reached):
@@ -74,21 +73,24 @@ def renumbered(states, numbers):
 def parting_contexts(states, good, terms):
     """The dict from all pairs of states, the lesser first, to contexts that part them; states are the least ones."""
     pairs = [(one, other) for one in range(states.many) for other in range(one + 1, states.many)]
-    found = {pair: ("?", 0) for pair in pairs if (pair[0] in good) != (pair[1] in good)}
+    found = {pair: () for pair in pairs if (pair[0] in good) != (pair[1] in good)}
     while len(found) < len(pairs):
         new = {}
         for pair in pairs:
             if pair not in found:
-                context = context_around(states, pair, found, terms)
-                if context is not None:
-                    new[pair] = context
+                layers = layers_around(states, pair, found)
+                if layers is not None:
+                    new[pair] = layers
         for pair in new:
             found[pair] = new[pair]
-    return {pair: found[pair] for pair in pairs}
+    return {pair: context_of(found[pair], terms) for pair in pairs}
 
 
-def context_around(states, pair, found, terms):
-    """A context that parts a pair by a compound around it, which is parted already; None if there is none."""
+def layers_around(states, pair, found):
+    """The layers of a context that parts a pair by a compound around it, which is parted already; None without any.
+
+    A layer is a compound's name, and the states of its parts ahead of the one within, and behind it.
+    """
     one, other = pair
     for name, parts in states.compounds:
         table = states.compounds[name, parts]
@@ -98,6 +100,14 @@ def context_around(states, pair, found, terms):
                 second = table[rest[:part] + (other,) + rest[part:]]
                 outer = found.get((min(first, second), max(first, second)))
                 if outer is not None:
-                    inner = [terms[state] for state in rest]
-                    return put_in(outer, {0: (name, tuple(inner[:part] + [("?", 0)] + inner[part:]))})
+                    return outer + ((name, rest[:part], rest[part:]),)
     return None
+
+
+def context_of(layers, terms):
+    """The context that has some layers, the outer ones first; terms of states are parts of it as they are."""
+    built = ("?", 0)
+    for name, ahead, behind in layers[::-1]:
+        inner = [terms[state] for state in ahead] + [built] + [terms[state] for state in behind]
+        built = (name, tuple(inner))
+    return built

@@ -7,7 +7,7 @@ from proofsizes.leastterms import least_terms_of
 from proofsizes.regular import set_of_states, states_of_set
 from proofsizes.shallow import is_dict_of_ground_terms
 from proofsizes.states import States, power
-from proofsizes.terms import as_dict, is_compound, is_term, is_unknown, names_in, parts_of, put_in
+from proofsizes.terms import as_dict, is_compound, is_term, is_unknown, names_in, parts_of, put_in, unknown_text
 
 MOST_WAYS = 20000
 
@@ -75,7 +75,7 @@ def terms_by_which(one, pattern, lets):
     worth = fitted(states, [(pattern, {state: True for state in lets})], list(least))
     if worth is None:
         return None
-    return {name: least[worth[name]] for name in sorted(worth, key=str)}
+    return {name: least[worth[name]] for name in sorted(worth, key=unknown_text)}
 
 
 def instances_set(pattern):

@@ -7,9 +7,11 @@ from proofsizes.models import BadModel
 from proofsizes.pairing import Pairs
 from proofsizes.parting import least_states, parting_contexts
 from proofsizes.shallow import rounds_for
+from proofsizes.sharedterms import SharedTerms
+from proofsizes.sharing import are_same_dicts
 from proofsizes.states import MOST_STATES, States, are_states_of_constants, are_tables, copied_tables
 from proofsizes.states import is_dict_of_constants, is_many, lead_to_states, power, rows_of
-from proofsizes.terms import as_dict, is_deep_term, is_ground_term, is_number_below, is_row, is_unknown, parts_of
+from proofsizes.terms import as_dict, is_ground_term, is_number_below, is_row
 
 
 class TermSet:
@@ -171,23 +173,21 @@ class Fewest:
         self.parting = {pair: parting[pair] for pair in parting} if isinstance(parting, dict) else parting
 
     def __eq__(self, other):
-        return isinstance(other, Fewest) and self.terms == other.terms and self.parting == other.parting
+        if not isinstance(other, Fewest) or not are_same_dicts(self.terms, other.terms):
+            return False
+        return are_same_dicts(self.parting, other.parting)
 
     def shows(self, one):
         """Whether it is so of a set that is to have these states."""
-        states = states_of_set(one)
         if not isinstance(self.terms, dict) or not isinstance(self.parting, dict):
             return False
         if not all([is_number_below(state, one.many) for state in self.terms]) or len(self.terms) != one.many:
             return False
-        for state in self.terms:
-            if not is_ground_term(self.terms[state]) or states.of_term(self.terms[state], {}) != state:
-                return False
         if not all([is_pair_of_states(pair, one.many) for pair in self.parting]):
             return False
         if len(self.parting) != one.many * (one.many - 1) // 2:
             return False
-        return all([is_parted(one, states, pair, self.parting[pair]) for pair in self.parting])
+        return have_states(one, self.terms, self.parting)
 
 
 def is_pair_of_states(thing, many):
@@ -197,12 +197,20 @@ def is_pair_of_states(thing, many):
     return thing[0] < thing[1]
 
 
-def is_parted(one, states, pair, context):
-    """Whether a context, with terms of one of two states alone, is in a set."""
-    if not is_deep_term(context) or [part for part in parts_of(context) if is_unknown(part)] != [("?", 0)]:
-        return False
-    first, second = [states.of_term(context, {0: state}) in one.good for state in pair]
-    return first != second
+def have_states(one, terms, parting):
+    """Whether ground terms have their states in a set, and contexts are in it with terms of one of two states alone."""
+    shared = SharedTerms([terms[state] for state in terms] + [parting[pair] for pair in parting])
+    # What stands in a context for its unknown may have any of the states.
+    found = [shared.states_by(states_of_set(one), {0: state}) for state in range(one.many)]
+    numbers = shared.numbers[:len(terms)]
+    for state, number in zip(terms, numbers):
+        if shared.unknowns[number] != {} or found[0][number] != state:
+            return False
+    for pair, number in zip(parting, shared.numbers[len(terms):]):
+        first, second = [found[state][number] in one.good for state in pair]
+        if shared.unknowns[number] != {0: 1} or first == second:
+            return False
+    return True
 
 
 def fewest(one):

@@ -6,6 +6,7 @@ from proofsizes.errors import BadQuestion
 from proofsizes.finding import OfLevels, OfSize, Sizes, found_proofs
 from proofsizes.opening import is_open_behind
 from proofsizes.proofs import answer_of, are_proofs, proofs_size
+from proofsizes.sharing import are_same_rows
 from proofsizes.terms import as_tuple, is_integer
 from proofsizes.ways import Ways
 
@@ -21,7 +22,9 @@ class Answered:
     def __eq__(self, other):
         if not isinstance(other, Answered):
             return False
-        return self.answer == other.answer and self.size == other.size and self.proofs == other.proofs
+        if self.answer != other.answer or self.size != other.size:
+            return False
+        return are_same_rows(self.proofs, other.proofs)
 
     def shows(self, program, question):
         """Whether the proofs are of the size and have the answer."""

@@ -8,7 +8,8 @@ from proofsizes.leastterms import least_terms_of
 from proofsizes.models import Model
 from proofsizes.programs import OWN_NAMES
 from proofsizes.solving import is_dict_of_terms
-from proofsizes.terms import as_dict, is_compound, is_ground_term, is_term, is_unknown, names_in, put_in
+from proofsizes.terms import as_dict, has_unknown, is_compound, is_ground_term, is_term, is_unknown, names_in, put_in
+from proofsizes.terms import unknown_text
 
 
 class NotShallow(RelationError):
@@ -45,7 +46,7 @@ class Has:
 
 def is_dict_of_ground_terms(thing, names):
     """Whether a thing is a dict from just some names of unknowns to ground terms."""
-    if not is_dict_of_terms(thing) or sorted(thing, key=str) != sorted(names, key=str):
+    if not is_dict_of_terms(thing) or len(thing) != len(names) or not all([name in thing for name in names]):
         return False
     return all([is_ground_term(thing[name]) for name in thing])
 
@@ -101,7 +102,7 @@ def rounds_for(program):
 
 def check_ground(term):
     """Raises NotShallow for what is no ground term."""
-    if not is_term(term) or names_in([term]):
+    if not is_term(term) or has_unknown(term):
         raise NotShallow(None)
 
 
@@ -158,7 +159,7 @@ def judge_shallow(program, question):
     if worth is None:
         return model_by(found)
     least = least_terms_of(states)
-    return Has({name: least[worth[name]] for name in sorted(worth, key=str)})
+    return Has({name: least[worth[name]] for name in sorted(worth, key=unknown_text)})
 
 
 def least_terms(program):

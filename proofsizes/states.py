@@ -1,7 +1,10 @@
 """States of all ground terms, by tables, and rows of the states of terms that goals ask."""
 
 from proofsizes.programs import OWN_NAMES, relation_of
+from proofsizes.sharedterms import SharedTerms
+from proofsizes.sharing import FEW_STEPS
 from proofsizes.terms import is_compound, is_constant, is_integer, is_name, is_number_below, is_unknown, parts_of
+from proofsizes.terms import parts_up_to
 
 MOST_STATES = 16
 
@@ -31,8 +34,11 @@ class States:
 
     def of_term(self, term, values):
         """The state of a term, by a dict from its unknowns, or their names, to states."""
+        parts = parts_up_to(term, FEW_STEPS)
+        if parts is None:
+            return self.of_shared_term(term, values)
         built = []
-        for part in reversed(parts_of(term)):
+        for part in reversed(parts):
             if is_compound(part):
                 many = len(part[1])
                 inner = tuple(built[-many:][::-1])
@@ -43,6 +49,13 @@ class States:
             else:
                 built.append(self.of_constant(part))
         return built[0]
+
+
+    def of_shared_term(self, term, values):
+        """The same for a term with many parts, which may be shared."""
+        shared = SharedTerms([term])
+        worth = {key[1] if is_unknown(key) else key: values[key] for key in values}
+        return shared.states_by(self, worth)[shared.numbers[0]]
 
 
 def power(base, many):

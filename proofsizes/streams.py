@@ -2,6 +2,7 @@
 
 from proofsizes.answers import answer_key
 from proofsizes.searching import check_count
+from proofsizes.sharing import are_same_rows
 from proofsizes.terms import as_tuple, sides_of
 from proofsizes.ways import Ways, trees_of
 
@@ -17,7 +18,9 @@ class Came:
     def __eq__(self, other):
         if not isinstance(other, Came):
             return False
-        return self.proofs == other.proofs and self.steps == other.steps and self.is_over == other.is_over
+        if self.steps != other.steps or self.is_over != other.is_over:
+            return False
+        return are_same_rows(self.proofs, other.proofs)
 
 
 def from_left(program, question, steps):

@@ -1,9 +1,14 @@
 """Terms: what is one, what stands in it, its place in the order, terms put in for unknowns."""
 
+from proofsizes.sharing import FEW_STEPS, unlike_parts
+
 LETTERS = "abcdefghijklmnopqrstuvwxyz"
 FIGURES = "0123456789"
 MOST_SIGNS = 8
 MOST_WITHIN = 20
+# Python itself writes no integer that has a few thousand figures, so long ones are written piece by piece.
+PIECE_FIGURES = 64
+PIECE = 10 ** 64
 
 
 def is_integer(thing):
@@ -51,7 +56,11 @@ def is_compound(term):
 def is_term_within(thing, most):
     """Whether a thing is a term with at most so many within one another, None for any number."""
     waiting = [(thing, 1)]
+    made = 0
     while waiting:
+        made += 1
+        if made > FEW_STEPS:
+            return is_shared_term_within(thing, most)
         part, level = waiting.pop()
         if most is not None and level > most:
             return False
@@ -63,6 +72,32 @@ def is_term_within(thing, most):
         elif len(part) != 2 or part[0] != "?" or not is_unknown_name(part[1]):
             return False
     return True
+
+
+def is_shared_term_within(thing, most):
+    """The same of a thing whose parts are gone through once each, as they may be shared."""
+    parts, numbers = unlike_parts([thing], FEW_STEPS)
+    levels = []
+    for inner, leaf in parts:
+        levels.append(levels_of_part(parts, levels, inner, leaf))
+    found = levels[numbers[0]]
+    return found is not None and (most is None or found <= most)
+
+
+def levels_of_part(parts, levels, inner, leaf):
+    """How many terms stand within one another in a part, by what is told of those ahead; None for what is no term."""
+    if inner is None:
+        return 1 if is_constant(leaf) else None
+    if len(inner) != 2:
+        return None
+    name = parts[inner[0]][1]
+    row, called = parts[inner[1]]
+    if name == "?":
+        return 1 if row is None and is_unknown_name(called) else None
+    if not row or not is_name(name):
+        return None
+    within = [levels[part] for part in row]
+    return None if None in within else 1 + max(within)
 
 
 def is_compound_shape(part):
@@ -84,7 +119,13 @@ def is_deep_term(thing):
 
 def is_ground_term(thing):
     """Whether a thing is a term, however deep, in which no unknown stands."""
-    return is_deep_term(thing) and not names_in([thing])
+    return is_deep_term(thing) and not has_unknown(thing)
+
+
+def has_unknown(term):
+    """Whether an unknown stands in a term."""
+    parts, _ = unlike_parts([term], FEW_STEPS)
+    return any([inner is None and leaf == "?" for inner, leaf in parts])
 
 
 def is_row_of_terms(thing):
@@ -114,9 +155,16 @@ def as_dict(thing):
 
 def parts_of(term):
     """All that stands in a term, itself too, each thing ahead of its own parts, from the left."""
+    return parts_up_to(term, None)
+
+
+def parts_up_to(term, most):
+    """The same, if there are at most so many, None for any number; None if there are more."""
     found = []
     waiting = [term]
     while waiting:
+        if most is not None and len(found) == most:
+            return None
         part = waiting.pop()
         found.append(part)
         if is_compound(part):
@@ -137,6 +185,22 @@ def names_in(terms):
 def sides_of(pairs):
     """The terms of a row of pairs, in order."""
     return [term for pair in pairs for term in pair]
+
+
+def integer_text(number):
+    """An integer with all its figures, however many there are."""
+    rest = abs(number)
+    pieces = []
+    while rest >= PIECE:
+        rest, piece = divmod(rest, PIECE)
+        pieces.append(str(piece).zfill(PIECE_FIGURES))
+    pieces.append(str(rest))
+    return ("-" if number < 0 else "") + "".join(pieces[::-1])
+
+
+def unknown_text(name):
+    """The name of an unknown as a text."""
+    return integer_text(name) if is_integer(name) else name
 
 
 def name_key(name):

@@ -3,7 +3,7 @@
 from proofsizes.lexing import OWN_WORDS, words_of
 from proofsizes.programs import MOST_RULES, OWN_NAMES, Program
 from proofsizes.reading import Reader, refuse
-from proofsizes.terms import is_compound, is_integer, is_unknown, parts_of
+from proofsizes.terms import integer_text, is_compound, is_integer, is_unknown, parts_of, unknown_text
 
 
 def read_program(text):
@@ -93,9 +93,9 @@ def term_text(term):
             del built[-many:]
             built.append(name_text(part[0]) + "(" + inner + ")")
         elif is_unknown(part):
-            built.append("?" + str(part[1]))
+            built.append("?" + unknown_text(part[1]))
         else:
-            built.append(str(part) if is_integer(part) else name_text(part))
+            built.append(integer_text(part) if is_integer(part) else name_text(part))
     return built[0]
 
 

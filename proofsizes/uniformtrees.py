@@ -1,33 +1,36 @@
 """What trees of flat programs without equal and unlike goals prove."""
 
-from proofsizes.programs import Question
-from proofsizes.proofs import are_proofs, trees_in
-from proofsizes.terms import is_unknown, matched
+from proofsizes.programs import relation_of
+from proofsizes.sharing import MOST_STEPS, unlike_parts
+from proofsizes.terms import is_number_below, is_unknown, matched
 
 
 def proves(program, proof, fact):
     """Whether a thing is a tree of a program that proves a fact."""
-    return are_proofs(program, Question([], [fact]), (proof,)) and fact_of_tree(program, proof) == fact
+    parts, numbers = unlike_parts([proof], MOST_STEPS)
+    found = []
+    for inner, _ in parts:
+        found.append(None if inner is None else fact_of_part(program, parts, found, inner))
+    return found[numbers[0]] == fact
 
 
-def fact_of_tree(program, proof):
-    """The fact that a tree of a flat program without equal and unlike goals proves; None if it proves none."""
-    built = []
-    for number, trees in reversed(trees_in((proof,))):
-        many = len(trees)
-        inner = built[len(built) - many:][::-1]
-        del built[len(built) - many:]
-        built.append(None if None in inner else fact_of_rule(program.rules[number], inner))
-    return built[0]
-
-
-def fact_of_rule(rule, found):
-    """The fact that a rule makes of a fact for each of its goals; None if these don't fit."""
-    patterns = [term for goal in rule.goals for term in goal[1]]
-    terms = [term for fact in found for term in fact[1]]
-    if len(patterns) != len(terms):
+def fact_of_part(program, parts, found, inner):
+    """The fact that a tuple of numbered parts proves, by what those ahead prove; None if it proves none."""
+    if len(inner) != 2:
         return None
-    worth = matched(patterns, terms, {})
+    number = parts[inner[0]][1]
+    row = parts[inner[1]][0]
+    if row is None or not is_number_below(number, len(program.rules)):
+        return None
+    return fact_of_rule(program.rules[number], [found[part] for part in row])
+
+
+def fact_of_rule(rule, facts):
+    """The fact that a rule makes of a fact for each of its goals; None if these don't fit."""
+    if None in facts or [relation_of(fact) for fact in facts] != [relation_of(goal) for goal in rule.goals]:
+        return None
+    patterns = [term for goal in rule.goals for term in goal[1]]
+    worth = matched(patterns, [term for fact in facts for term in fact[1]], {})
     if worth is None:
         return None
     return rule.head[0], tuple([worth[term[1]] if is_unknown(term) else term for term in rule.head[1]])

@@ -1,0 +1,275 @@
+"""[2], [10], [20], [36], [40]: papers with deep proofs, and with proofs and terms whose parts are shared."""
+
+import itertools
+import random
+import unittest
+
+from proofsizes.answers import Answer
+from proofsizes.completing import Complete
+from proofsizes.flat import least_proof, least_sizes
+from proofsizes.programs import Program, Rule
+from proofsizes.searching import Answered, Spent
+from proofsizes.sharing import are_same, are_same_dicts, are_same_rows, unlike_parts
+from proofsizes.streams import Came, from_left, in_turns
+from proofsizes.terms import has_unknown, is_deep_term, is_ground_term, is_term
+from proofsizes.texts import read_program, read_question
+from proofsizes.uniform import Apart, Follows, judge_follows
+from tests.samples import X, Y
+
+UNKNOWNS = [("?", sign) for sign in "abcdef"]
+CHAIN = read_program("p(a). p(?x) if p(?x).")
+ASKED = read_question("ask ?x if p(?x).")
+
+
+def counter(places, last, times):
+    """A program that counts up, place by place, from 0 to a last figure, each number asked so many times; its last number."""
+    rules = [Rule(("s", (one, one + 1)), []) for one in range(last)] + [Rule(("c", (0,) * places), [])]
+    for at in range(places):
+        ahead = tuple(UNKNOWNS[:places - 1 - at])
+        less, more = ahead + (X,) + (last,) * at, ahead + (Y,) + (0,) * at
+        rules.append(Rule(("c", more), [("c", less)] * times + [("s", (X, Y))]))
+    return Program(rules), Rule(("c", (last,) * places), [])
+
+
+def doubled(places):
+    """The same in twos, where each number asks the one ahead twice, and nothing else."""
+    rules = [Rule(("c", (0,) * places), [])]
+    for at in range(places):
+        ahead = tuple(UNKNOWNS[:places - 1 - at])
+        rules.append(Rule(("c", ahead + (1,) + (0,) * at), [("c", ahead + (0,) + (1,) * at)] * 2))
+    return Program(rules), Rule(("c", (1,) * places), [])
+
+
+def changed(tree, path, other):
+    """A tree with another one in place of that behind a path; all else is shared with it."""
+    steps = []
+    for at in path:
+        steps.append((tree[0], tree[1][:at], tree[1][at + 1 :]))
+        tree = tree[1][at]
+    for number, ahead, behind in reversed(steps):
+        other = (number, ahead + (other,) + behind)
+    return other
+
+
+def depth(tree):
+    many = 0
+    while tree[1]:
+        tree, many = tree[1][0], many + 1
+    return many
+
+
+def chained(many, end):
+    tree = (end, ())
+    for _ in range(many):
+        tree = (1, (tree,))
+    return tree
+
+
+class DeepTest(unittest.TestCase):
+    """More rules within one another than Python itself compares."""
+
+    def test_follows(self):
+        program, rule = counter(5, 3, 1)
+        one, other = judge_follows(program, rule), judge_follows(program, rule)
+        self.assertEqual(depth(one.proof), 1023)
+        self.assertIs(one.shows(program, rule), True)
+        self.assertIs(one == other, True)
+        for path in ([0] * 1023, [0] * 600, [0]):
+            wrong = Follows(changed(one.proof, path, (2, ())))
+            self.assertIs(one == wrong, False)
+            self.assertIs(wrong.shows(program, rule), False)
+        self.assertIs(one == Apart(()), False)
+
+    def test_came(self):
+        for call in (from_left, in_turns):
+            one, other = call(CHAIN, ASKED, 700), call(CHAIN, ASKED, 700)
+            self.assertEqual(len(one.proofs), 700)
+            self.assertIs(one == other, True)
+            for proofs in (one.proofs[:-1], one.proofs[:-1] + ((chained(699, 1),),), one.proofs + (one.proofs[-1],), one.proofs[::-1], None, 7, (), (None,) * 700):
+                self.assertIs(one == Came(proofs, 700, False), False)
+            self.assertIs(one == Came(list(one.proofs), 700, False), True)
+            self.assertIs(one == Came(one.proofs, 701, False), False)
+            self.assertIs(one == Came(one.proofs, 700, True), False)
+            self.assertIs(one == one.proofs, False)
+
+    def test_answered(self):
+        answer = Answer(["a"], [])
+        one = Answered(answer, 701, (chained(700, 0),))
+        self.assertIs(one.shows(CHAIN, ASKED), True)
+        self.assertIs(one == Answered(answer, 701, [chained(700, 0)]), True)
+        for other in (Answered(answer, 701, (chained(700, 1),)), Answered(answer, 701, (chained(699, 0),)), Answered(answer, 702, one.proofs), Answered(Answer(["b"], []), 701, one.proofs),
+                      Answered(answer, 701, one.proofs * 2), Answered(answer, 701, None), Answered(None, 701, one.proofs), Spent(0), None):
+            self.assertIs(one == other, False)
+        # Two trees side by side, which are the same, but not one.
+        both = Answered(answer, 1402, (chained(700, 0), chained(700, 0)))
+        self.assertIs(both == Answered(answer, 1402, (chained(700, 0),) * 2), True)
+        self.assertIs(both == Answered(answer, 1402, (chained(700, 0), chained(700, 1))), False)
+        self.assertIs(both.shows(CHAIN, read_question("ask ?x if p(?x), p(?x).")), True)
+
+    def test_complete(self):
+        answer = Answer(["a"], [])
+        one, other = [Complete(701, [Answered(answer, 701, (chained(700, 0),))]) for _ in range(2)]
+        self.assertIs(one == other, True)
+        self.assertIs(one == Complete(701, [Answered(answer, 701, (chained(700, 1),))]), False)
+
+
+class SharedTest(unittest.TestCase):
+    """Proofs in which few parts are unlike."""
+
+    def test_doubled(self):
+        program, rule = doubled(6)
+        paper = judge_follows(program, rule)
+        self.assertEqual(depth(paper.proof), 63)
+        self.assertIs(paper.shows(program, rule), True)
+        self.assertIs(paper == judge_follows(program, rule), True)
+        self.assertIs(paper.shows(program, Rule(("c", (1, 1, 1, 1, 1, 0)), [])), False)
+
+    def test_another_part(self):
+        program, rule = doubled(6)
+        proof = judge_follows(program, rule).proof
+        source = random.Random(941)
+        for path in ([0] * 63, [1] * 63, [0, 1] * 31 + [0], [1, 0] * 31 + [1], [source.randrange(2) for _ in range(63)], [0]):
+            for other in ((1, ()), source.choice([None, (), 0, (7, ()), (0, ((0, ()),)), proof, Spent(0)])):
+                # No text tells which one failed: it would be as long as the proof.
+                self.assertFalse(bool(Follows(changed(proof, path, other)).shows(program, rule)))
+        for path in ([0] * 63, [1] * 63, [0, 1] * 31 + [0], [1, 0] * 31 + [1]):
+            self.assertIs(Follows(changed(proof, path, (0, ()))).shows(program, rule), True)
+            self.assertIs(Follows(changed(proof, path, (False, ()))).shows(program, rule), False)
+        self.assertIs(Follows(proof) == Follows(changed(proof, [1] * 63, (1, ()))), False)
+        self.assertIs(Follows(changed(proof, [0, 1] * 20, None)) == Follows(proof), False)
+
+    def test_the_same_part_again(self):
+        program, rule = doubled(6)
+        proof = judge_follows(program, rule).proof
+        again = changed(proof, [1, 0, 1], proof[1][0][1][0][1][0])
+        self.assertIs(Follows(again).shows(program, rule), True)
+        self.assertIs(Follows(again) == Follows(proof), True)
+        # The lower part is made anew, apart from that which the others share.
+        small = doubled(4)
+        low = judge_follows(*small).proof
+        made = judge_follows(*small).proof
+        self.assertIs(Follows(changed(low, [0, 1], made[1][0][1][1])) == Follows(made), True)
+        self.assertIs(Follows(changed(low, [0, 1], made[1][0][1][1])).shows(*small), True)
+
+    def test_deep_and_shared(self):
+        program, rule = counter(4, 4, 2)
+        paper = judge_follows(program, rule)
+        last = depth(paper.proof)
+        self.assertEqual(last, 624)
+        self.assertIs(paper.shows(program, rule), True)
+        self.assertIs(paper == judge_follows(program, rule), True)
+        for path in ([0] * last, [1] * last, [0, 1] * 300):
+            self.assertIs(Follows(changed(paper.proof, path, (8, ()))).shows(program, rule), False)
+
+    def test_parts_shared_farther_away(self):
+        # Each number asks the one ahead, and the one ahead of that.
+        rules = [Rule(("f", (0,)), []), Rule(("f", (1,)), [])] + [Rule(("s", (at, at + 1)), []) for at in range(6)]
+        step = Rule(("f", (X,)), [("f", (Y,)), ("s", (Y, X)), ("s", (("?", "z"), Y)), ("f", (("?", "z"),))])
+        program = Program(rules + [step])
+        paper = judge_follows(program, Rule(("f", (6,)), []))
+        self.assertIs(paper.shows(program, Rule(("f", (6,)), [])), True)
+        tree = (0, ())
+        ahead = tree
+        for _ in range(90):
+            tree, ahead = (1, (tree, ahead)), tree
+        fall = Program([Rule(("g", ()), []), Rule(("g", ()), [("g", ()), ("g", ())])])
+        self.assertIs(Follows(tree).shows(fall, Rule(("g", ()), [])), True)
+        self.assertIs(Follows(changed(tree, [1, 0, 0, 1], (1, ()))).shows(fall, Rule(("g", ()), [])), False)
+        self.assertIs(Follows(tree) == Follows(changed(tree, [0, 1, 1, 0], (1, ()))), False)
+
+    def test_relations_and_goals(self):
+        program = Program([Rule(("p", ("a",)), []), Rule(("q", ("a",)), []), Rule(("r", (X,)), [("p", (X,)), ("q", (X,))])])
+        rule = Rule(("r", ("a",)), [])
+        self.assertIs(Follows((2, ((0, ()), (1, ())))).shows(program, rule), True)
+        for proof in ((2, ((1, ()), (0, ()))), (2, ((0, ()),)), (2, ((0, ()), (1, ()), (0, ()))), (2, ((0, ()), (0, ()))), (2, ((0, ()), (1, ((0, ()),)))), (2, ((0, ()), 1)), (2, 0), ((2,), ()), (2, ((0, ()), (1, ())), 0)):
+            self.assertIs(Follows(proof).shows(program, rule), False, proof)
+
+    def test_least_proofs(self):
+        program, rule = doubled(6)
+        self.assertEqual(least_sizes(program)[rule.head], 2 ** 64 - 1)
+        self.assertIs(Follows(least_proof(program, rule.head)) == judge_follows(program, rule), True)
+
+
+def random_nest(source, known):
+    """A nest that shares parts of others mostly."""
+    if source.random() < 0.3:
+        return source.choice([0, 1, "a", "?", None, -1])
+    row = tuple(source.choice(known) if known and source.random() < 0.8 else random_nest(source, known) for _ in range(source.choice([0, 1, 2, 2, 3])))
+    known.append(row)
+    return row
+
+
+def copied(nest):
+    return tuple(copied(part) for part in nest) if isinstance(nest, tuple) else nest
+
+
+def parts_in(nest):
+    return {(type(nest), nest)}.union(*[parts_in(part) for part in nest]) if isinstance(nest, tuple) else {(type(nest), nest)}
+
+
+class NestTest(unittest.TestCase):
+    def test_unlike_parts(self):
+        source = random.Random(947)
+        for _ in range(300):
+            nests = [random_nest(source, []) for _ in range(source.randrange(1, 4))]
+            nests += [copied(source.choice(nests))]
+            expected = set().union(*[parts_in(nest) for nest in nests])
+            for steps in (0, 3, 10 ** 6):
+                parts, numbers = unlike_parts(nests, steps)
+                self.assertEqual(len(parts), len(expected))
+                built = []
+                for inner, leaf in parts:
+                    built.append(leaf if inner is None else tuple(built[part] for part in inner))
+                self.assertEqual([built[number] for number in numbers], nests)
+                self.assertEqual((parts, numbers), unlike_parts([copied(nest) for nest in nests], steps))
+
+    def test_true_is_not_1(self):
+        parts, numbers = unlike_parts([(True, 1), (1, True), (False, 0, None)], 0)
+        self.assertEqual(numbers, [2, 3, 7])
+        self.assertEqual([leaf for inner, leaf in parts if inner is None], [True, 1, False, 0, None])
+
+    def test_what_is_no_nest(self):
+        spent, other = Spent(0), Spent(1)
+        parts, numbers = unlike_parts([(spent, [1]), (Spent(0), [1]), (other, [2]), {}], 0)
+        self.assertEqual(numbers[0], numbers[1])
+        self.assertNotEqual(numbers[0], numbers[2])
+        self.assertEqual(parts[numbers[3]], (None, {}))
+
+    def test_are_same(self):
+        source = random.Random(953)
+        nests = [random_nest(source, []) for _ in range(60)]
+        for one, other in itertools.product(nests, repeat=2):
+            self.assertIs(are_same([(one, copied(other))]), one == other)
+            self.assertIs(are_same_rows(one, copied(other)), one == other)
+        for one, other in ((None, None), (1, True), ("a", "b"), ((), []), ([], []), (Spent(0), Spent(0)), (Spent(0), (Spent(0),)), ((Spent(0),), (Spent(1),))):
+            self.assertIs(are_same([(one, other)]), one == other)
+            self.assertIs(are_same_rows(one, other), one == other)
+            self.assertIs(are_same_dicts({0: one}, {0: other}), one == other)
+        for one, other in (({}, {}), ({0: 1}, {}), ({0: 1}, {1: 1}), ({0: 1}, None), (None, None), ({0: (1, 2)}, {0: (1, 2)}), ({0: 1, 1: 2}, {1: 2, 0: 1})):
+            self.assertIs(are_same_dicts(one, other), one == other)
+
+    def test_terms(self):
+        shared, other = "a", X
+        for _ in range(60):
+            shared, other = ("f", (shared, shared)), ("f", (shared, other))
+        self.assertIs(is_deep_term(shared), True)
+        self.assertIs(is_ground_term(shared), True)
+        self.assertIs(has_unknown(shared), False)
+        self.assertIs(is_deep_term(other), True)
+        self.assertIs(is_ground_term(other), False)
+        self.assertIs(is_term(shared), False)
+        for wrong in (None, "A", ("f", ()), ("f", [1]), ("?", -1), ("?", ("a",)), ("F", ("a",)), (("f",), ("a",)), ("f", ("a",), 0), True, ("f", (None, "a")), ("f", "a")):
+            self.assertIs(is_deep_term(changed(other, [0] * 60, wrong)), False, wrong)
+        wide = ("f", tuple(("g", (at, X)) for at in range(30000)))
+        self.assertIs(is_term(wide), True)
+        self.assertIs(has_unknown(wide), True)
+        self.assertIs(is_term(("f", wide[1] + (None,))), False)
+        low = "a"
+        for _ in range(19):
+            low = ("f", (low, low))
+        self.assertIs(is_term(low), True)
+        self.assertIs(is_term(("f", (low, 0))), False)
+
+
+if __name__ == "__main__":
+    unittest.main()
