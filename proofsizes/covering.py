@@ -116,6 +116,13 @@ def ways_to_fail(terms, others):
     return None
 
 
+def is_inside(answer, other):
+    """Whether all instances of an answer are another one's."""
+    if matched(other.terms, answer.terms, {}) is None:
+        return False
+    return not other.inequations or row_outside(answer, [other]) is None
+
+
 def ground_row(answer, others, bound):
     """The row of an answer's terms with unlike constants that stand nowhere for all that isn't bound."""
     terms = put_in_row(answer.terms, bound)

@@ -1,17 +1,31 @@
 """All proofs of a question within a bound, with their answers."""
 
+from proofsizes.opening import is_soon_spent
+
 from proofsizes.proofs import numbers_in
 from proofsizes.ways import trees_of
+
+
+# Up to this size each one is gone through; of greater ones that alone which can be told of all of them.
+MOST_IN_TURN = 1000
+FIRST_ALIKE = 240
+PERIOD = 60
+# Questions are mostly spent behind fewer levels, if they are spent at all.
+MOST_LEVELS = 1024
 
 
 class Sizes:
     """Which sizes the trees of relations can have, as far as the goals of rules tell.
 
-    Sizes are kept as bits of an integer: the bit with a number stands for that size.
+    Sizes are kept as bits of an integer: the bit with a number stands for that size. If there
+    is no bound to them in reach, a bit from FIRST_ALIKE on stands for all sizes that are as much
+    above it as some periods: sums of sizes that stand for others stand for the sums of these.
     """
 
     def __init__(self, ways, most):
-        self.limit = (1 << (most + 1)) - 1
+        self.is_bounded = most <= MOST_IN_TURN
+        self.width = most + 1 if self.is_bounded else FIRST_ALIKE + PERIOD
+        self.limit = (1 << self.width) - 1
         self.known = {}
         self.sizes = {relation: 0 for relation in ways.numbers}
         before = None
@@ -24,6 +38,12 @@ class Sizes:
         found = 0
         for number in ways.numbers[relation]:
             found |= self.together([inner for inner, _ in ways.rules[number].asked]) << 1
+        return self.within(found)
+
+    def within(self, found):
+        """The bits of sizes that are kept, for all bits of sizes."""
+        while not self.is_bounded and found > self.limit:
+            found = found & self.limit | found >> self.width << FIRST_ALIKE
         return found & self.limit
 
     def together(self, relations):
@@ -39,13 +59,15 @@ class Sizes:
         for size in range(one.bit_length()):
             if one >> size & 1:
                 found |= other << size
-        return found & self.limit
+        return self.within(found)
 
     def can_be(self, relations, size):
         """Whether trees of some relations can have a size together."""
         key = tuple(sorted(relations))
         if key not in self.known:
             self.known[key] = self.together(relations)
+        if size >= self.width:
+            size = FIRST_ALIKE + (size - FIRST_ALIKE) % PERIOD
         return self.known[key] >> size & 1 == 1
 
 
@@ -60,6 +82,16 @@ class OfSize:
         """Whether a way may come to so many rules."""
         left = self.size - len(way.taken)
         return left >= 0 and self.sizes.can_be([goal.relation for goal in way.goals], left)
+
+
+def spent_behind(program, question):
+    """A number of levels behind which no goals are open in any way; None if that isn't found in few steps."""
+    levels = 1
+    while levels <= MOST_LEVELS:
+        if is_soon_spent(program, question, levels):
+            return levels
+        levels = 2 * levels
+    return None
 
 
 class OfLevels:

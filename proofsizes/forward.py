@@ -3,8 +3,7 @@
 from proofsizes.answers import answer_key
 from proofsizes.bindings import Bindings
 from proofsizes.meeting import resolved_answer
-from proofsizes.programs import relation_of
-from proofsizes.searching import check_count
+from proofsizes.programs import check_count, relation_of
 from proofsizes.terms import names_in, numbered, put_in_pairs, put_in_row
 from proofsizes.ways import Ready
 

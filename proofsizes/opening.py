@@ -2,6 +2,8 @@
 
 from proofsizes.ways import Way, Ways
 
+FEW_STEPS = 2000
+
 
 class Opening:
     """A search for a way with an open goal behind some levels.
@@ -34,8 +36,8 @@ class Opening:
         # Behind the last levels that are kept the relations stay the same.
         return relation in self.lasting[min(levels, len(self.lasting) - 1)]
 
-    def finds(self):
-        """Whether there is such a way."""
+    def finds(self, most):
+        """Whether there is such a way; None if that isn't found in most steps, which are None for any number."""
         way = self.ways.first()
         if way is None or self.levels == 0:
             return way is not None and len(way.goals) > 0
@@ -43,7 +45,11 @@ class Opening:
         for goal in way.goals:
             if self.lasts(goal.relation, self.levels):
                 waiting.extend(self.choices(way, goal.node))
+        steps = 0
         while waiting:
+            if steps == most:
+                return None
+            steps += 1
             mark, before, place, number, followed = waiting.pop()
             self.ways.bindings.undo(mark)
             way = self.ways.behind(before, place, number)
@@ -106,4 +112,9 @@ def has_lenient_rule(ways, relation, lenient):
 
 def is_open_behind(program, question, levels):
     """Whether goals are open behind so many levels in some way."""
-    return Opening(Ways(program, question), levels).finds()
+    return Opening(Ways(program, question), levels).finds(None)
+
+
+def is_soon_spent(program, question, levels):
+    """Whether few steps tell that no goals are open behind so many levels."""
+    return Opening(Ways(program, question), levels).finds(FEW_STEPS) is False

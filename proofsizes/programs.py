@@ -1,7 +1,7 @@
 """Rules, programs of them, and questions."""
 
 from proofsizes.errors import BadQuestion, BadRule
-from proofsizes.terms import is_name, is_pair, is_row, is_row_of_terms
+from proofsizes.terms import is_integer, is_name, is_pair, is_row, is_row_of_terms
 
 MOST_TERMS = 6
 MOST_GOALS = 6
@@ -52,6 +52,17 @@ class Question:
 
     def __eq__(self, other):
         return isinstance(other, Question) and self.terms == other.terms and self.goals == other.goals
+
+
+def is_count(thing):
+    """Whether a thing is an integer from 0 on."""
+    return is_integer(thing) and thing >= 0
+
+
+def check_count(thing, part):
+    """Raises BadQuestion for what is no integer from 0 on."""
+    if not is_count(thing):
+        raise BadQuestion(part)
 
 
 def is_relation_goal(thing):

@@ -2,9 +2,10 @@
 
 from proofsizes.answers import Answer, answer_key
 from proofsizes.covering import judge_covered
-from proofsizes.errors import BadQuestion
-from proofsizes.finding import OfLevels, OfSize, Sizes, found_proofs
+from proofsizes.finding import MOST_IN_TURN, OfLevels, OfSize, Sizes, found_proofs, spent_behind
+from proofsizes.growing import told_by_sizes
 from proofsizes.opening import is_open_behind
+from proofsizes.programs import check_count, is_count
 from proofsizes.proofs import answer_of, are_proofs, proofs_size
 from proofsizes.sharing import are_same_rows
 from proofsizes.terms import as_tuple, is_integer
@@ -71,22 +72,16 @@ class StillOpen:
         return is_count(self.levels) and is_open_behind(program, question, self.levels)
 
 
-def is_count(thing):
-    """Whether a thing is an integer from 0 on."""
-    return is_integer(thing) and thing >= 0
-
-
-def check_count(thing, part):
-    """Raises BadQuestion for what is no integer from 0 on."""
-    if not is_count(thing):
-        raise BadQuestion(part)
-
-
 def proofs_of_size(program, question, size):
     """The list of all proofs of a size that have an answer, ascending by their rules' numbers."""
     check_count(size, "size")
     ways = Ways(program, question)
-    return [proofs for _, proofs, _ in found_proofs(ways, OfSize(Sizes(ways, size), size))]
+    sizes = Sizes(ways, size)
+    levels = None
+    if size > MOST_IN_TURN and sizes.can_be([relation for relation, _ in ways.question.asked], size):
+        levels = spent_behind(program, question)
+    rows = found_proofs(ways, OfSize(sizes, size) if levels is None else OfLevels(ways, levels))
+    return [proofs for (many, _), proofs, _ in rows if many == size]
 
 
 def proofs_of_levels(program, question, levels):
@@ -102,9 +97,16 @@ def answered(program, question, most):
     ways = Ways(program, question)
     sizes = Sizes(ways, most)
     told = []
-    for size in range(most + 1):
+    for size in sizes_in_turn(program, question, most):
         told.extend(told_newly(found_proofs(ways, OfSize(sizes, size)), told))
     return told
+
+
+def sizes_in_turn(program, question, most):
+    """The list of the sizes up to most, if these are few; otherwise of those alone of which something is told."""
+    if most <= MOST_IN_TURN:
+        return list(range(most + 1))
+    return sorted(set([size for size, _ in told_by_sizes(program, question, most)]))
 
 
 def told_at(program, question, size, told):

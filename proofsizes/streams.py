@@ -1,7 +1,7 @@
 """Answers as they come: ways that are gone from the left, in turns, or so many steps each."""
 
 from proofsizes.answers import answer_key
-from proofsizes.searching import check_count
+from proofsizes.programs import check_count
 from proofsizes.sharing import are_same_rows
 from proofsizes.terms import as_tuple, sides_of
 from proofsizes.ways import Ways, trees_of

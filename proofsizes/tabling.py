@@ -2,18 +2,21 @@
 
 from proofsizes.answers import answer_key
 from proofsizes.bindings import Bindings
-from proofsizes.covering import MOST_WAYS, judge_covered, row_outside
-from proofsizes.finding import Sizes
+from proofsizes.covering import is_inside
+from proofsizes.finding import MOST_IN_TURN, Sizes
 from proofsizes.forward import Stage
+from proofsizes.growing import Telling, told_by_sizes
 from proofsizes.meeting import resolved_answer
-from proofsizes.searching import check_count
-from proofsizes.terms import matched, names_in, numbered, put_in_pairs, put_in_row, terms_key
+from proofsizes.programs import check_count
+from proofsizes.terms import names_in, numbered, put_in_pairs, put_in_row, terms_key
 from proofsizes.ways import Ways
 
 
 def tabled(program, question, most):
     """The list of pairs of a size and an answer of the told list for sizes up to most."""
     check_count(most, "size")
+    if most > MOST_IN_TURN:
+        return told_by_sizes(program, question, most)
     told = told_by(Tables(program, question, most, True), most)
     if told is None:
         # Where covering may be too large, all answers are to be asked in turn, as the told list asks them.
@@ -23,19 +26,10 @@ def tabled(program, question, most):
 
 def told_by(tables, most):
     """The told list by some tables; None if some answers are left out, and covering may be too large."""
-    told = []
-    answers = []
-    ways = 1
+    telling = Telling(tables.is_short)
     for size in range(most + 1):
-        rows = {answer_key(answer): answer for answer in tables.answers_of_size(size)}
-        for key in sorted(rows):
-            if tables.is_short and ways > MOST_WAYS:
-                return None
-            if not judge_covered(rows[key], answers):
-                told.append((size, rows[key]))
-                answers.append(rows[key])
-                ways = ways * (len(rows[key].inequations) + 1)
-    return None if tables.is_short and ways > MOST_WAYS else told
+        telling.tell(size, tables.answers_of_size(size))
+    return telling.all_told()
 
 
 class Call:
@@ -68,13 +62,6 @@ class Call:
     def is_covered(self, key, answer):
         """Whether an answer of a smaller size has all instances of an answer."""
         return key in self.known or any([is_inside(answer, other) for other in self.general])
-
-
-def is_inside(answer, other):
-    """Whether all instances of an answer are another one's."""
-    if matched(other.terms, answer.terms, {}) is None:
-        return False
-    return not other.inequations or row_outside(answer, [other]) is None
 
 
 class Tables:

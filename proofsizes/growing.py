@@ -1,0 +1,264 @@
+"""The told list where sizes may be as great as they like: goals and answers are gone on with by sizes.
+
+A goal that comes up, up to names of unknowns, has a size ahead of it: the least that proofs of the question
+have without its own. With its answers' sizes this makes the sizes by which all is gone on with, the least
+first. So sizes of which nothing comes take no time, and it ends when nothing is left to come.
+"""
+
+from heapq import heappop, heappush
+
+from proofsizes.answers import answer_key
+from proofsizes.bindings import Bindings
+from proofsizes.covering import MOST_WAYS, is_inside, judge_covered
+from proofsizes.meeting import resolved_answer
+from proofsizes.opening import is_soon_spent
+from proofsizes.terms import names_in, numbered, put_in_pairs, put_in_row, sides_of, terms_key
+from proofsizes.ways import Ways
+
+# It is asked whether the question is spent behind 1, 2, 4, .. levels, when so many steps for each level were made.
+STEPS_FOR_LEVEL = 50
+
+
+class Telling:
+    """The told list, size by size.
+
+    If answers of smaller sizes stand for those that they cover, it can't be told where covering may be too large.
+    """
+
+    def __init__(self, is_short):
+        self.is_short = is_short
+        self.told = []
+        self.answers = []
+        self.ways = 1
+
+    def is_in_doubt(self):
+        """Whether an answer that is left out might have been too large to be covered."""
+        return self.is_short and self.ways > MOST_WAYS
+
+    def tell(self, size, answers):
+        """Tells those answers of a size that are not covered."""
+        rows = {answer_key(answer): answer for answer in answers}
+        for key in sorted(rows):
+            if not self.is_in_doubt() and not judge_covered(rows[key], self.answers):
+                self.told.append((size, rows[key]))
+                self.answers.append(rows[key])
+                self.ways = self.ways * (len(rows[key].inequations) + 1)
+
+    def all_told(self):
+        """The list of pairs of a size and an answer; None if it can't be told."""
+        return None if self.is_in_doubt() else self.told
+
+
+class Waiting:
+    """A rule for a goal, or the question, with answers for some of its goals: it waits for those of the next one."""
+
+    def __init__(self, source, size, terms, goals, unlikes):
+        self.source = source
+        self.size = size
+        self.terms = terms
+        self.goals = goals
+        self.unlikes = unlikes
+
+    def behind(self, size, answer):
+        """The same behind an answer for the next goal; None if what is asked can't be so."""
+        names = names_in(self.goals[0][1])
+        standing = self.terms + [term for _, terms in self.goals for term in terms]
+        first = 1 + max([-1] + names_in(standing + [term for pairs in self.unlikes for term in sides_of(pairs)]))
+        worth = numbered(names_in(answer.terms), first)
+        bindings = Bindings()
+        pairs = [(("?", name), term) for name, term in zip(names, put_in_row(answer.terms, worth))]
+        if not bindings.make_same(pairs):
+            return None
+        unlikes = bindings.pending(self.unlikes + [put_in_pairs(row, worth) for row in answer.inequations])
+        if unlikes is None:
+            return None
+        return settled(bindings, self.source, self.size + size, self.terms, self.goals[1:], unlikes)
+
+    def comes_to(self):
+        """The answer that comes of it without goals."""
+        return resolved_answer(Bindings(), self.terms, self.unlikes)
+
+
+def settled(bindings, source, size, terms, goals, unlikes):
+    """A Waiting with all that is bound put in."""
+    rows = [(relation, bindings.resolved(inner, {})) for relation, inner in goals]
+    sides = bindings.resolved([side for pairs in unlikes for side in sides_of(pairs)], {})
+    left = []
+    for pairs in unlikes:
+        many = 2 * len(pairs)
+        left.append(list(zip(sides[:many:2], sides[1:many:2])))
+        sides = sides[many:]
+    return Waiting(source, size, bindings.resolved(terms, {}), rows, left)
+
+
+class Source:
+    """A goal up to names of unknowns, or the question: its answers by size, and what waits for them."""
+
+    def __init__(self, terms, readies, own):
+        self.terms = terms
+        self.readies = readies
+        self.own = own
+        self.ahead = None
+        self.is_begun = False
+        self.found = []
+        self.known = {}
+        self.general = []
+        self.users = []
+
+    def started(self):
+        """The list of its rules, or the question, without answers for their goals."""
+        found = []
+        for ready in self.readies:
+            names = names_in(self.terms)
+            worth = numbered(ready.names, len(names))
+            own = put_in_row(ready.terms, worth)
+            bindings = Bindings()
+            pairs = list(zip(own, self.terms)) if self.own else []
+            unlikes = None
+            if bindings.make_same(pairs + put_in_pairs(ready.equals, worth)):
+                unlikes = bindings.pending([[pair] for pair in put_in_pairs(ready.unlikes, worth)])
+            if unlikes is not None:
+                goals = [(relation, put_in_row(terms, worth)) for relation, terms in ready.asked]
+                terms = [("?", at) for at in range(len(names))] if self.own else own
+                found.append(settled(bindings, self, self.own, terms, goals, unlikes))
+        return found
+
+    def takes(self, size, key, answer, is_short):
+        """Notes an answer, if it is to be gone on with; answers come by their sizes."""
+        if self.known.get(key) == size or is_short and self.is_covered(key, size, answer):
+            return False
+        self.known[key] = size
+        if names_in(answer.terms):
+            self.general.append((size, answer))
+        self.found.append((size, answer))
+        return True
+
+    def is_covered(self, key, size, answer):
+        """Whether an answer of a smaller size has all instances of an answer."""
+        if key in self.known:
+            return True
+        return any([less < size and is_inside(answer, other) for less, other in self.general])
+
+
+class Growing:
+    """Goals that are to be begun, and answers that are to be gone on with, the least size first."""
+
+    def __init__(self, program, question, most, is_short):
+        ways = Ways(program, question)
+        self.rules = ways.rules
+        self.numbers = ways.numbers
+        self.most = most
+        self.is_short = is_short
+        self.sources = {}
+        self.coming = []
+        self.noted = []
+        self.question = Source([], [ways.question], 0)
+        self.demand(self.question, 0)
+
+    def next_size(self):
+        """The least size that proofs of the question come to by what is next; None if that is none up to the most."""
+        return self.coming[0][0] if self.coming and self.coming[0][0] <= self.most else None
+
+    def note(self, size, source, key, answer):
+        """Notes what is to be done when it is the turn of a size."""
+        heappush(self.coming, (size, len(self.noted)))
+        self.noted.append((source, key, answer))
+
+    def demand(self, source, ahead):
+        """Notes that a goal is to be begun, if that wasn't noted with a size ahead that is as small."""
+        if source.ahead is None or not source.is_begun and ahead < source.ahead:
+            source.ahead = ahead
+            self.note(ahead, source, None, None)
+
+    def step(self):
+        """Does what is next: begins a goal, or goes on with an answer."""
+        size, at = heappop(self.coming)
+        source, key, answer = self.noted[at]
+        if answer is None:
+            if not source.is_begun:
+                source.is_begun = True
+                self.go_on(source.started())
+        else:
+            own = size - source.ahead
+            if source.takes(own, key, answer, self.is_short):
+                behind = [one.behind(own, answer) for one in source.users]
+                self.go_on([one for one in behind if one is not None])
+
+    def go_on(self, waiting):
+        """Lets all of a list wait for what it asks; what has no goals left is an answer."""
+        while waiting:
+            one = waiting.pop()
+            size = one.source.ahead + one.size
+            if not one.goals:
+                answer = one.comes_to()
+                key = answer_key(answer)
+                if not self.is_short or key not in one.source.known:
+                    self.note(size, one.source, key, answer)
+            elif size + len(one.goals) <= self.most:
+                source = self.source_for(one.goals[0])
+                self.demand(source, size)
+                source.users.append(one)
+                behind = [one.behind(many, answer) for many, answer in source.found]
+                waiting.extend([other for other in behind if other is not None])
+
+    def source_for(self, goal):
+        """The source of a goal."""
+        terms = put_in_row(goal[1], numbered(names_in(goal[1]), 0))
+        key = (goal[0], terms_key(terms))
+        if key not in self.sources:
+            self.sources[key] = Source(terms, [self.rules[number] for number in self.numbers.get(goal[0], [])], 1)
+        return self.sources[key]
+
+    def most_rules(self, levels):
+        """A number that no proofs of the question with at most so many levels have more rules than."""
+        most = {}
+        before = None
+        done = 0
+        while done < levels and before != most:
+            before = most
+            most = {}
+            for relation in self.numbers:
+                sums = [sum_of(self.rules[number].asked, before) for number in self.numbers[relation]]
+                if max(sums) >= 0:
+                    most[relation] = 1 + max(sums)
+            done += 1
+        return max(0, sum_of(self.question.readies[0].asked, most))
+
+
+def sum_of(asked, most):
+    """The sum of what a dict tells of the relations of goals; -1 if it doesn't tell of one."""
+    if not all([relation in most for relation, _ in asked]):
+        return -1
+    return sum([most[relation] for relation, _ in asked])
+
+
+def told_by_sizes(program, question, most):
+    """The list of pairs of a size and an answer of the told list for sizes up to most, however great that is."""
+    told = told_growing(program, question, Growing(program, question, most, True))
+    if told is None:
+        # Where covering may be too large, all answers are to be asked in turn, as the told list asks them.
+        told = told_growing(program, question, Growing(program, question, most, False))
+    return told
+
+
+def told_growing(program, question, growing):
+    """The told list; None if some answers are left out, and covering may be too large."""
+    telling = Telling(growing.is_short)
+    found = growing.question.found
+    levels = 1
+    steps = 0
+    done = 0
+    while growing.next_size() is not None and not telling.is_in_doubt():
+        growing.step()
+        steps += 1
+        if steps == STEPS_FOR_LEVEL * levels:
+            # Goals by themselves may have ever more proofs, though the question has none behind some levels.
+            if is_soon_spent(program, question, levels):
+                growing.most = min(growing.most, growing.most_rules(levels))
+            levels = 2 * levels
+        after = growing.next_size()
+        while done < len(found) and (after is None or found[done][0] < after):
+            row = [answer for size, answer in found[done:] if size == found[done][0]]
+            telling.tell(found[done][0], row)
+            done += len(row)
+    return telling.all_told()
