@@ -15,9 +15,6 @@ from proofsizes.opening import is_soon_spent
 from proofsizes.terms import names_in, numbered, put_in_pairs, put_in_row, sides_of, terms_key
 from proofsizes.ways import Ways
 
-# It is asked whether the question is spent behind 1, 2, 4, .. levels, when so many steps for each level were made.
-STEPS_FOR_LEVEL = 50
-
 
 class Telling:
     """The told list, size by size.
@@ -246,16 +243,15 @@ def told_growing(program, question, growing):
     telling = Telling(growing.is_short)
     found = growing.question.found
     levels = 1
-    steps = 0
     done = 0
     while growing.next_size() is not None and not telling.is_in_doubt():
-        growing.step()
-        steps += 1
-        if steps == STEPS_FOR_LEVEL * levels:
+        if growing.next_size() > levels:
             # Goals by themselves may have ever more proofs, though the question has none behind some levels.
             if is_soon_spent(program, question, levels):
                 growing.most = min(growing.most, growing.most_rules(levels))
             levels = 2 * levels
+            continue
+        growing.step()
         after = growing.next_size()
         while done < len(found) and (after is None or found[done][0] < after):
             row = [answer for size, answer in found[done:] if size == found[done][0]]

@@ -2,7 +2,7 @@
 
 from proofsizes.ways import Way, Ways
 
-FEW_STEPS = 2000
+FEW_STEPS = 500
 
 
 class Opening:
