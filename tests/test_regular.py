@@ -6,13 +6,15 @@ import unittest
 
 from proofsizes.errors import TooLarge
 from proofsizes.models import BadModel
-from proofsizes.programs import Program, Rule
+from proofsizes.differing import judge_programs
+from proofsizes.patterns import judge_pattern
+from proofsizes.programs import Program, Question, Rule
 from proofsizes.regular import Fewest, InOne, SameSet, TermSet, both, either, fewest, judge_sets, least_set, others
 from proofsizes.regular import relation_set
 from proofsizes.searching import Spent
-from proofsizes.shallow import NotShallow, type_of
-from proofsizes.terms import names_in, parts_of, put_in
-from tests.samples import X, wrapped
+from proofsizes.shallow import Has, NotShallow, judge_shallow, least_terms, model_of, type_of
+from proofsizes.terms import has_unknown, names_in, parts_of, put_in
+from tests.samples import X, Y, Z, wrapped
 from tests.shallows import ALL_TERMS, EVEN, NAMES, order_of, random_set, random_shallow, terms_by_signs
 from tests.spoiling import check_spoilt
 from tests.test_shallow import NOT_SHALLOW, bits, letters
@@ -266,6 +268,88 @@ class LeastTest(unittest.TestCase):
             for term in sorted(row, key=order_of):
                 first.setdefault(least.state(term), term)
         self.assertEqual({state: paper.terms[state] for state in first}, first)
+
+
+def threefold(many, name="f"):
+    """A program with relations in a row, each of the compounds of three terms of the one ahead."""
+    parts = (X, Y, Z)
+    rules = [Rule(("r0", ("a",)), [])]
+    for at in range(many):
+        rules.append(Rule(("r" + str(at + 1), ((name, parts),)), [("r" + str(at), (part,)) for part in parts]))
+    return Program(rules)
+
+
+class SharedTest(unittest.TestCase):
+    """Terms of some millions of signs, which share their parts."""
+
+    def test_fewest(self):
+        least, paper = fewest(relation_set(threefold(14), "r14"))
+        self.assertEqual(least.many, 16)
+        self.assertEqual(list(paper.terms), list(range(16)))
+        self.assertEqual(list(paper.parting), list(itertools.combinations(range(16), 2)))
+        self.assertIs(paper.shows(least), True)
+        self.assertEqual([least.state(paper.terms[state]) for state in range(16)], list(range(16)))
+        for (one, other), context in list(paper.parting.items())[::24]:
+            self.assertNotEqual(*[least.has(put_in_first(context, paper.terms[state])) for state in (one, other)])
+        again = fewest(relation_set(threefold(14), "r14"))
+        self.assertEqual(again[0], least)
+        self.assertIs(again[1] == paper, True)
+        self.check_wrong(least, paper)
+
+    def check_wrong(self, least, paper):
+        terms, parting = paper.terms, paper.parting
+        deepest = max(list(parting)[::9], key=lambda pair: depth_of(parting[pair]))
+        self.assertGreater(depth_of(parting[deepest]), 3)
+        for wrong_terms, wrong_parting in (
+            ({**terms, 15: terms[14]}, parting), ({**terms, 15: ("f", (terms[14], terms[14], X))}, parting), ({**terms, 15: ("f", (terms[14],) * 2)}, parting),
+            ({**terms, 15: ("f", (terms[14], None, terms[14]))}, parting), (terms, {**parting, deepest: ("?", 0)}), (terms, {**parting, deepest: put_in_first(parting[deepest], X)}),
+            (terms, {**parting, deepest: ("f", (parting[deepest],) * 3)}), (terms, {**parting, deepest: terms[15]}),
+        ):
+            self.assertIs(Fewest(wrong_terms, wrong_parting).shows(least), False)
+            self.assertIs(Fewest(wrong_terms, wrong_parting) == paper, False)
+
+    def test_sets(self):
+        one = relation_set(threefold(14), "r14")
+        paper = judge_sets(one, both(one, others(one)))
+        self.assertIs(paper.shows(one, NONE), True)
+        self.assertIs(paper.shows(one, one), False)
+        self.assertIs(one.has(paper.term), True)
+        self.assertIs(InOne(("f", (paper.term, 0, 0))).shows(one, NONE), False)
+        self.assertIs(InOne(("f", (paper.term, X, 0))).shows(one, NONE), False)
+
+    def test_types_and_questions(self):
+        program = threefold(14)
+        deep = least_terms(program)["r14",]
+        self.assertEqual(type_of(program, deep), ("r14",))
+        question = Question([], [("r14", (X,)), ("r14", (("f", (Y, Y, Z)),))])
+        paper = judge_shallow(program, question)
+        self.assertIs(paper.shows(program, question), True)
+        self.assertIs(Has({**paper.terms, "x": 0}).shows(program, question), False)
+        self.assertEqual(model_of(program).state(("f", (X, deep, deep)), {"x": 0, X: 0}), 0)
+        out = judge_programs(threefold(7), threefold(6), "r7")
+        self.assertIs(out.shows(threefold(7), threefold(6), "r7"), True)
+        paper = judge_pattern(others(relation_set(program, "r14")), X)
+        self.assertIs(paper.shows(others(relation_set(program, "r14")), X), True)
+
+
+def depth_of(context):
+    many = 0
+    while context[0] != "?":
+        context = [part for part in context[1] if has_unknown(part)][0]
+        many += 1
+    return many
+
+
+def put_in_first(context, term):
+    """A context with a term in place of its unknown, all else being shared."""
+    path = []
+    while context[0] != "?":
+        at = [has_unknown(part) for part in context[1]].index(True)
+        path.append((context[0], context[1][:at], context[1][at + 1 :]))
+        context = context[1][at]
+    for name, ahead, behind in reversed(path):
+        term = (name, ahead + (term,) + behind)
+    return term
 
 
 class FewestTest(unittest.TestCase):
