@@ -1,7 +1,7 @@
 """Nests of tuples, as proofs and terms are: they may be deep, and what stands in them may be shared.
 
 A nest that shares its parts may be far too large to be gone through place by place, though few of its
-parts are unlike. Nothing here hangs on how deep Python itself can go down.
+parts are unlike. A nest that is deep can't be compared by Python itself, which goes down place by place.
 """
 
 # So many places are gone through one by one, ahead of all care for what is shared: of terms, which are
@@ -69,8 +69,8 @@ def is_row_of_tuples(thing):
 def ends_of(thing):
     """What is met on some ways from a nest into it, down to its ends; it is the same for nests that are the same.
 
-    Nests that have the same ends are hardly ever unlike, so that it takes no time to compare them: they
-    are one and the same tuple, mostly.
+    Nests that have the same ends are one and the same tuple mostly, and Python sees that at once. So those
+    alone are compared: of others it might have to go down far to see that they are unlike.
     """
     met, widest = met_on_way(thing, 0, 0)
     found = [tuple(met)]
