@@ -57,14 +57,16 @@ class Waiting:
         self.unlikes = unlikes
 
     def behind(self, size, answer):
-        """The same behind an answer for the next goal; None if what is asked can't be so."""
-        names = names_in(self.goals[0][1])
+        """The same behind an answer for the unknowns of the next goal; None if what is asked can't be so."""
+        return self.joined([("?", name) for name in names_in(self.goals[0][1])], size, answer)
+
+    def joined(self, sides, size, answer):
+        """The same behind the next goal, if terms are an answer's; None if what is asked can't be so."""
         standing = self.terms + [term for _, terms in self.goals for term in terms]
         first = 1 + max([-1] + names_in(standing + [term for pairs in self.unlikes for term in sides_of(pairs)]))
         worth = numbered(names_in(answer.terms), first)
         bindings = Bindings()
-        pairs = [(("?", name), term) for name, term in zip(names, put_in_row(answer.terms, worth))]
-        if not bindings.make_same(pairs):
+        if not bindings.make_same(list(zip(sides, put_in_row(answer.terms, worth)))):
             return None
         unlikes = bindings.pending(self.unlikes + [put_in_pairs(row, worth) for row in answer.inequations])
         if unlikes is None:

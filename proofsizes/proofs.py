@@ -1,31 +1,48 @@
 """Proofs: trees of rules, their size and levels, and the answer that they have."""
 
+from proofsizes.composing import composed_answer
 from proofsizes.errors import BadQuestion
 from proofsizes.programs import relation_goals, relation_of
-from proofsizes.terms import is_number_below
+from proofsizes.sharing import MOST_STEPS, unlike_parts
+from proofsizes.terms import as_tuple, is_number_below
 from proofsizes.ways import Ways
+
+
+# Proofs with more rules are gone through part by part, as they may share these.
+MOST_STEP_BY_STEP = 1000
 
 
 def proofs_size(proofs):
     """How many rules stand in proofs."""
-    return len(numbers_in(proofs))
+    parts, numbers = unlike_parts([as_tuple(proofs)], MOST_STEPS)
+    sizes = []
+    for inner, _ in parts:
+        within = [] if inner is None else [sizes[part] for part in inner]
+        sizes.append(sum(within) + (1 if is_tree_shape(parts, inner) else 0))
+    return sizes[numbers[0]]
 
 
 def proofs_levels(proofs):
     """How many rules stand within one another at most."""
-    most = 0
-    waiting = [(tree, 1) for tree in proofs]
-    while waiting:
-        (_, trees), level = waiting.pop()
-        most = max(most, level)
-        waiting.extend([(tree, level + 1) for tree in trees])
-    return most
+    parts, numbers = unlike_parts([as_tuple(proofs)], MOST_STEPS)
+    levels = []
+    for inner, _ in parts:
+        within = [] if inner is None else [levels[part] for part in inner]
+        levels.append(max([0] + within) + (1 if is_tree_shape(parts, inner) else 0))
+    return levels[numbers[0]]
+
+
+def is_tree_shape(parts, inner):
+    """Whether a part of proofs begins with a number, as trees do, but not rows of trees."""
+    return inner is not None and len(inner) > 0 and parts[inner[0]][0] is None
 
 
 def answer_of(program, question, proofs):
     """The Answer that proofs of a question have; None if what they ask can't be so."""
     if not are_proofs(program, question, proofs):
         raise BadQuestion("proofs")
+    if proofs_size(proofs) > MOST_STEP_BY_STEP:
+        return composed_answer(program, question, proofs)
     ways = Ways(program, question)
     way = ways.first()
     for number in numbers_in(proofs):
@@ -52,21 +69,28 @@ def numbers_in(proofs):
 
 def are_proofs(program, question, thing):
     """Whether a thing is a tuple with a tree for each relation goal of a question."""
-    waiting = [(question.goals, thing)]
-    while waiting:
-        goals, trees = waiting.pop()
-        asked = relation_goals(goals)
-        if not isinstance(trees, tuple) or len(trees) != len(asked):
-            return False
-        for goal, tree in zip(asked, trees):
-            if not is_rule_for(program, goal, tree):
-                return False
-            waiting.append((program.rules[tree[0]].goals, tree[1]))
-    return True
+    parts, numbers = unlike_parts([thing], MOST_STEPS)
+    relations = []
+    for inner, _ in parts:
+        relations.append(relation_of_part(program, parts, relations, inner))
+    row = parts[numbers[0]][0]
+    return row is not None and [relations[part] for part in row] == relations_asked(question.goals)
 
 
-def is_rule_for(program, goal, tree):
-    """Whether a thing begins as a tree does, with a rule for a goal's relation."""
-    if not isinstance(tree, tuple) or len(tree) != 2 or not is_number_below(tree[0], len(program.rules)):
-        return False
-    return relation_of(program.rules[tree[0]].head) == relation_of(goal)
+def relation_of_part(program, parts, relations, inner):
+    """The relation of a tree of a program, by those of the trees in it; None for what is none."""
+    if inner is None or len(inner) != 2:
+        return None
+    number = parts[inner[0]][1]
+    row = parts[inner[1]][0]
+    if row is None or not is_number_below(number, len(program.rules)):
+        return None
+    rule = program.rules[number]
+    if [relations[part] for part in row] != relations_asked(rule.goals):
+        return None
+    return relation_of(rule.head)
+
+
+def relations_asked(goals):
+    """The list of the relations of those goals that are of relations."""
+    return [relation_of(goal) for goal in relation_goals(goals)]

@@ -6,15 +6,18 @@ import unittest
 
 from proofsizes.answers import Answer
 from proofsizes.completing import Complete
+from proofsizes.composing import composed_answer
+from proofsizes.errors import BadQuestion
 from proofsizes.flat import least_proof, least_sizes
-from proofsizes.programs import Program, Rule
+from proofsizes.programs import Program, Question, Rule
+from proofsizes.proofs import answer_of, proofs_levels, proofs_size
 from proofsizes.searching import Answered, Spent
 from proofsizes.sharing import are_same, are_same_dicts, are_same_rows, unlike_parts
 from proofsizes.streams import Came, from_left, in_turns
 from proofsizes.terms import has_unknown, is_deep_term, is_ground_term, is_term
 from proofsizes.texts import read_program, read_question
 from proofsizes.uniform import Apart, Follows, judge_follows
-from tests.samples import X, Y
+from tests.samples import OWN, X, Y, random_program, random_question
 
 UNKNOWNS = [("?", sign) for sign in "abcdef"]
 CHAIN = read_program("p(a). p(?x) if p(?x).")
@@ -187,7 +190,65 @@ class SharedTest(unittest.TestCase):
     def test_least_proofs(self):
         program, rule = doubled(6)
         self.assertEqual(least_sizes(program)[rule.head], 2 ** 64 - 1)
-        self.assertIs(Follows(least_proof(program, rule.head)) == judge_follows(program, rule), True)
+        proofs = (least_proof(program, rule.head),)
+        self.assertIs(Follows(proofs[0]) == judge_follows(program, rule), True)
+        self.assertEqual((proofs_size(proofs), proofs_levels(proofs)), (2 ** 64 - 1, 64))
+        unknowns = [("?", at) for at in range(6)]
+        question = Question(unknowns, [("c", unknowns)])
+        self.assertEqual(answer_of(program, question, proofs), Answer([1] * 6, []))
+        self.assertIs(Answered(Answer([1] * 6, []), 2 ** 64 - 1, proofs).shows(program, question), True)
+        self.assertIs(Answered(Answer([1] * 6, []), 2 ** 64, proofs).shows(program, question), False)
+        self.assertIs(Answered(Answer([0] * 6, []), 2 ** 64 - 1, proofs).shows(program, question), False)
+        self.assertIsNone(answer_of(program, Question([], [("c", [0] * 6)]), proofs))
+        for wrong in ((changed(proofs[0], [0] * 63, (1, ())),), (changed(proofs[0], [1] * 63, None),), proofs * 2, proofs[0]):
+            self.assertIs(Answered(Answer([1] * 6, []), 2 ** 64 - 1, wrong).shows(program, question), False)
+            with self.assertRaises(BadQuestion):
+                answer_of(program, question, wrong)
+
+
+class ComposedTest(unittest.TestCase):
+    """Answers by those of the trees within."""
+
+    def test_random(self):
+        source = random.Random(991)
+        kinds = {True: 0, False: 0}
+        for _ in range(300):
+            program, question = random_program(source), random_question(source)
+            for proofs in some_proofs(source, program, question):
+                answer = answer_of(program, question, proofs)
+                self.assertEqual(composed_answer(program, question, proofs), answer)
+                kinds[answer is None] += 1
+        self.assertGreater(min(kinds.values()), 100)
+
+    def test_long_proofs(self):
+        steps = read_program("p(0). p(s(?x)) if p(?x). q(?x, ?y) if q(?y, ?x), ?x /= a. q(?x, b).")
+        self.assertEqual(answer_of(steps, read_question("ask if p(?x)."), (chained(1100, 0),)), Answer([], []))
+        question = read_question("ask ?x, ?y if q(?x, ?y).")
+        for many, terms, unlike in ((1500, [X, "b"], [[(X, "a")]]), (1501, ["b", X], [[(X, "a")]])):
+            tree = (3, ())
+            for _ in range(many):
+                tree = (2, (tree,))
+            self.assertEqual(answer_of(steps, question, (tree,)), Answer(terms, unlike))
+            self.assertEqual((proofs_size((tree,)), proofs_levels((tree,))), (many + 1, many + 1))
+
+
+def some_proofs(source, program, question):
+    """Some proofs of a question, whether they have an answer or not."""
+    found = []
+    for _ in range(4):
+        trees = [random_tree(source, program, goal, 3) for goal in question.goals if goal[0] not in OWN]
+        if None not in trees:
+            found.append(tuple(trees))
+    return found
+
+
+def random_tree(source, program, goal, levels):
+    numbers = [number for number, rule in enumerate(program.rules) if (rule.head[0], len(rule.head[1])) == (goal[0], len(goal[1]))]
+    if not numbers or levels == 0:
+        return None
+    number = source.choice(numbers)
+    trees = [random_tree(source, program, one, levels - 1) for one in program.rules[number].goals if one[0] not in OWN]
+    return None if None in trees else (number, tuple(trees))
 
 
 def random_nest(source, known):
