@@ -2,6 +2,7 @@
 
 from proofsizes.bindings import bound_by
 from proofsizes.errors import BadTerm
+from proofsizes.sharing import are_same_dicts
 from proofsizes.stores import Valued, check_store, judge_values
 from proofsizes.terms import are_alike, as_dict, is_number_below, is_row_of_pairs, put_in_pairs
 
@@ -39,7 +40,7 @@ class Against:
         return False
 
     def __eq__(self, other):
-        return isinstance(other, Against) and self.ground == other.ground
+        return isinstance(other, Against) and are_same_dicts(self.ground, other.ground)
 
     def shows(self, equations, inequations, other):
         """Whether these terms are for just the unknowns, and it is so by them."""

@@ -7,8 +7,7 @@ parts are unlike. A nest that is deep can't be compared by Python itself, which 
 # So many places are gone through one by one, ahead of all care for what is shared: of terms, which are
 # never very deep, and of all nests.
 FEW_STEPS = 20000
-MOST_STEPS = 500000
-MOST_COMPARED = 2000000
+MOST_STEPS = 1000000
 
 
 def unlike_parts(things, steps):
@@ -125,11 +124,11 @@ def number_met(row, thing):
     return None
 
 
-def are_same(pairs):
-    """Whether both sides of all pairs of things are the same."""
+def are_same(pairs, steps):
+    """Whether both sides of all pairs of things are the same; shared parts are cared for behind so many steps."""
     waiting = list(pairs)
     made = 0
-    while waiting and made < MOST_COMPARED:
+    while waiting and made < steps:
         made += 1
         one, other = waiting.pop()
         if not isinstance(one, tuple) or not isinstance(other, tuple):
@@ -142,15 +141,15 @@ def are_same(pairs):
     if not waiting:
         return True
     # Each side shares its parts with itself alone, so these are told apart ahead of comparing them.
-    first = unlike_parts([one for one, _ in pairs], MOST_STEPS)
-    return first == unlike_parts([other for _, other in pairs], MOST_STEPS)
+    first = unlike_parts([one for one, _ in pairs], steps)
+    return first == unlike_parts([other for _, other in pairs], steps)
 
 
 def are_same_rows(one, other):
     """Whether two things are the same; of two rows each thing is compared by itself."""
     if not isinstance(one, tuple) or not isinstance(other, tuple):
         return one == other
-    return len(one) == len(other) and all([are_same([pair]) for pair in zip(one, other)])
+    return len(one) == len(other) and all([are_same([pair], MOST_STEPS) for pair in zip(one, other)])
 
 
 def are_same_dicts(one, other):
@@ -159,4 +158,4 @@ def are_same_dicts(one, other):
         return one == other
     if len(one) != len(other) or not all([key in other for key in one]):
         return False
-    return are_same([(one[key], other[key]) for key in one])
+    return are_same([(one[key], other[key]) for key in one], MOST_STEPS)

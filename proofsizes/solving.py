@@ -3,6 +3,7 @@
 from proofsizes.bindings import bound_by
 from proofsizes.errors import BadTerm
 from proofsizes.refuting import refuted
+from proofsizes.sharing import are_same_dicts
 from proofsizes.terms import as_dict, as_tuple, is_compound, is_deep_term, is_integer, is_number_below
 from proofsizes.terms import is_pair, is_row, is_unknown, is_unknown_name, have_like_heads, parts_of
 
@@ -17,7 +18,7 @@ class Solved:
         return True
 
     def __eq__(self, other):
-        return isinstance(other, Solved) and self.bound == other.bound
+        return isinstance(other, Solved) and are_same_dicts(self.bound, other.bound)
 
     def shows(self, equations):
         """Whether the equations are solved just so."""
@@ -25,7 +26,7 @@ class Solved:
         if not is_dict_of_terms(self.bound):
             return False
         bound = bound_by(equations)
-        return bound == self.bound and list(bound) == list(self.bound)
+        return bound is not None and list(bound) == list(self.bound) and are_same_dicts(bound, self.bound)
 
 
 class Unsolved:

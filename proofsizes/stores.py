@@ -2,9 +2,10 @@
 
 from proofsizes.bindings import bound_by
 from proofsizes.errors import BadTerm
+from proofsizes.sharing import are_same_dicts
 from proofsizes.solving import Unsolved, check_equations, is_dict_of_terms, solve
 from proofsizes.terms import are_alike, as_dict, ascending_names, is_ground_term, is_number_below, is_row
-from proofsizes.terms import is_row_of_pairs, name_key, put_in, put_in_pairs, sides_of, unlike_constants
+from proofsizes.terms import is_row_of_pairs, name_key, put_in_pairs, put_in_row, sides_of, unlike_constants
 
 
 class Valued:
@@ -17,7 +18,7 @@ class Valued:
         return True
 
     def __eq__(self, other):
-        return isinstance(other, Valued) and self.ground == other.ground
+        return isinstance(other, Valued) and are_same_dicts(self.ground, other.ground)
 
     def shows(self, equations, inequations):
         """Whether these terms are for just the unknowns, and fulfil all."""
@@ -69,7 +70,8 @@ def judge_values(equations, inequations):
     terms = terms_of(equations, inequations)
     names = ascending_names(terms)
     free = unlike_constants([name for name in names if name not in bound], terms)
-    return Valued({name: free[name] if name in free else put_in(bound[name], free) for name in names})
+    terms = put_in_row([bound.get(name, ("?", name)) for name in names], free)
+    return Valued({name: term for name, term in zip(names, terms)})
 
 
 def check_store(equations, inequations):

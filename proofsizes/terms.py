@@ -1,6 +1,6 @@
 """Terms: what is one, what stands in it, its place in the order, terms put in for unknowns."""
 
-from proofsizes.sharing import FEW_STEPS, unlike_parts
+from proofsizes.sharing import FEW_STEPS, are_same, unlike_parts
 
 LETTERS = "abcdefghijklmnopqrstuvwxyz"
 FIGURES = "0123456789"
@@ -176,10 +176,18 @@ def names_in(terms):
     """The names of the unknowns of a row of terms, each once, as they come first."""
     found = {}
     for term in terms:
-        for part in parts_of(term):
+        parts = parts_up_to(term, FEW_STEPS)
+        for part in unlike_unknowns_in(term) if parts is None else parts:
             if is_unknown(part):
                 found[part[1]] = True
     return list(found)
+
+
+def unlike_unknowns_in(term):
+    """The list of the unlike unknowns of a term, as they come first; what is shared in it is gone through once."""
+    parts, _ = unlike_parts([term], FEW_STEPS)
+    pairs = [inner for inner, _ in parts if inner is not None and len(inner) == 2]
+    return [("?", parts[name][1]) for sign, name in pairs if parts[sign][1] == "?"]
 
 
 def sides_of(pairs):
@@ -234,8 +242,17 @@ def pairs_key(pairs):
 
 def put_in(term, worth):
     """A term with the terms of a dict in place of the unknowns that it names."""
+    built = put_in_small(term, worth)
+    return put_in_shared([term], worth)[0] if built is None else built
+
+
+def put_in_small(term, worth):
+    """The same of a term without many parts; None for one that has more."""
+    parts = parts_up_to(term, FEW_STEPS)
+    if parts is None:
+        return None
     built = []
-    for part in reversed(parts_of(term)):
+    for part in reversed(parts):
         if is_compound(part):
             many = len(part[1])
             inner = tuple(built[-many:][::-1])
@@ -248,9 +265,23 @@ def put_in(term, worth):
     return built[0]
 
 
+def put_in_shared(terms, worth):
+    """The same of terms with many parts; what is shared in them is shared in the new ones."""
+    parts, numbers = unlike_parts(terms, FEW_STEPS)
+    built = []
+    for inner, leaf in parts:
+        if inner is None:
+            built.append(leaf)
+        else:
+            row = tuple([built[part] for part in inner])
+            built.append(worth.get(row[1], row) if row and row[0] == "?" else row)
+    return [built[number] for number in numbers]
+
+
 def put_in_row(terms, worth):
     """A list of terms with the terms of a dict put in."""
-    return [put_in(term, worth) for term in terms]
+    found = [put_in_small(term, worth) for term in terms]
+    return put_in_shared(terms, worth) if None in found else found
 
 
 def put_in_pairs(pairs, worth):
@@ -277,7 +308,14 @@ def unlike_constants(names, terms):
 
 def are_alike(pairs):
     """Whether both sides of all pairs are the same as they stand."""
-    return all([one == other for one, other in pairs])
+    return all([is_alike(one, other) for one, other in pairs])
+
+
+def is_alike(one, other):
+    """Whether two terms are the same as they stand, though they may be large, with shared parts."""
+    if not is_compound(one) or not is_compound(other):
+        return one == other
+    return are_same([(one, other)], FEW_STEPS)
 
 
 def matched(patterns, terms, worth):

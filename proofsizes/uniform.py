@@ -5,7 +5,7 @@ from proofsizes.errors import RelationError, TooLarge
 from proofsizes.flat import check_flat, facts_by, is_fact_shape, is_flat
 from proofsizes.joining import Facts, FlatRule, ascending_facts
 from proofsizes.programs import OWN_NAMES, Program, Rule, all_goals, terms_in_goals
-from proofsizes.sharing import are_same
+from proofsizes.sharing import MOST_STEPS, are_same
 from proofsizes.terms import as_tuple, is_integer, names_in
 from proofsizes.unfolding import renamed
 from proofsizes.uniformtrees import proves
@@ -30,7 +30,7 @@ class Follows:
         return True
 
     def __eq__(self, other):
-        return isinstance(other, Follows) and are_same([(self.proof, other.proof)])
+        return isinstance(other, Follows) and are_same([(self.proof, other.proof)], MOST_STEPS)
 
     def shows(self, program, rule):
         """Whether it is such a proof."""

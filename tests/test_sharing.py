@@ -4,6 +4,7 @@ import itertools
 import random
 import unittest
 
+from proofsizes import following
 from proofsizes.answers import Answer
 from proofsizes.completing import Complete
 from proofsizes.composing import composed_answer
@@ -13,8 +14,11 @@ from proofsizes.programs import Program, Question, Rule
 from proofsizes.proofs import answer_of, proofs_levels, proofs_size
 from proofsizes.searching import Answered, Spent
 from proofsizes.sharing import are_same, are_same_dicts, are_same_rows, unlike_parts
+from proofsizes.solving import solve
+from proofsizes.stores import NoValues, Valued, judge_values
 from proofsizes.streams import Came, from_left, in_turns
-from proofsizes.terms import has_unknown, is_deep_term, is_ground_term, is_term
+from proofsizes.terms import are_alike, has_unknown, is_deep_term, is_ground_term, is_term, names_in, put_in, put_in_row
+from proofsizes.terms import put_in_shared, put_in_small, unlike_unknowns_in
 from proofsizes.texts import read_program, read_question
 from proofsizes.uniform import Apart, Follows, judge_follows
 from tests.samples import OWN, X, Y, random_program, random_question
@@ -251,6 +255,61 @@ def random_tree(source, program, goal, levels):
     return None if None in trees else (number, tuple(trees))
 
 
+class TermsTest(unittest.TestCase):
+    """Equations by which terms double again and again."""
+
+    def equations(self, many):
+        return [(("?", at + 1), ("f", (("?", at), ("?", at)))) for at in range(many)]
+
+    def test_solved(self):
+        equations = self.equations(24)
+        paper = solve(equations)
+        self.assertIs(paper.shows(equations), True)
+        self.assertIs(paper == solve(equations), True)
+        other = solve([(("?", 1), ("f", (("?", 0), "a")))] + equations[1:])
+        self.assertIs(paper == other, False)
+        self.assertIs(other.shows(equations), False)
+        self.assertIs(bool(solve(equations + [(("?", 24), ("?", 0))])), False)
+
+    def test_values(self):
+        equations = self.equations(24)
+        last = ("f", (("?", 23), ("?", 23)))
+        paper = judge_values(equations, [[(("?", 24), ("g", (("?", 23),)))]])
+        self.assertIs(paper.shows(equations, [[(("?", 24), ("g", (("?", 23),)))]]), True)
+        self.assertIs(paper == judge_values(equations, [[(("?", 24), ("g", (("?", 23),)))]]), True)
+        self.assertIs(Valued({**paper.ground, 0: "b"}).shows(equations, []), False)
+        self.assertIs(Valued({**paper.ground, 0: "b"}) == paper, False)
+        self.assertEqual(judge_values(equations, [[(("?", 24), "a")], [(("?", 24), last)]]), NoValues(1, None))
+        self.assertIs(NoValues(1, None).shows(equations, [[(("?", 24), "a")], [(("?", 24), last)]]), True)
+        self.assertIs(following.judge_follows(equations, [[(("?", 0), "a")]], [(("?", 24), last)]).shows(equations, [[(("?", 0), "a")]], [(("?", 24), last)]), True)
+
+    def test_put_in(self):
+        shared = X
+        for _ in range(40):
+            shared = ("f", (shared, "b", shared))
+        made = put_in(shared, {"x": ("g", (Y,))})
+        self.assertEqual(names_in([made]), ["y"])
+        self.assertEqual(names_in([("h", (Y, shared))]), ["y", "x"])
+        self.assertIs(are_alike([(made, put_in_row([0, shared], {"x": ("g", (Y,))})[1])]), True)
+        self.assertIs(are_alike([(made, shared)]), False)
+        low = made
+        for _ in range(40):
+            low = low[1][2]
+        self.assertEqual(low, ("g", (Y,)))
+        source = random.Random(997)
+        for _ in range(100):
+            terms = [random_term(source, 4) for _ in range(3)]
+            worth = {"x": random_term(source, 2), "y": "b"}
+            self.assertEqual(put_in_shared(terms, worth), [put_in_small(term, worth) for term in terms])
+            self.assertEqual([one[1] for one in unlike_unknowns_in(terms[0])], names_in([terms[0]]))
+
+
+def random_term(source, levels):
+    if levels == 0 or source.random() < 0.3:
+        return source.choice(["a", 0, X, Y, ("?", 0)])
+    return source.choice("fg"), tuple(random_term(source, levels - 1) for _ in range(source.randrange(1, 4)))
+
+
 def random_nest(source, known):
     """A nest that shares parts of others mostly."""
     if source.random() < 0.3:
@@ -300,10 +359,10 @@ class NestTest(unittest.TestCase):
         source = random.Random(953)
         nests = [random_nest(source, []) for _ in range(60)]
         for one, other in itertools.product(nests, repeat=2):
-            self.assertIs(are_same([(one, copied(other))]), one == other)
+            self.assertIs(are_same([(one, copied(other))], 1000), one == other)
             self.assertIs(are_same_rows(one, copied(other)), one == other)
         for one, other in ((None, None), (1, True), ("a", "b"), ((), []), ([], []), (Spent(0), Spent(0)), (Spent(0), (Spent(0),)), ((Spent(0),), (Spent(1),))):
-            self.assertIs(are_same([(one, other)]), one == other)
+            self.assertIs(are_same([(one, other)], 1000), one == other)
             self.assertIs(are_same_rows(one, other), one == other)
             self.assertIs(are_same_dicts({0: one}, {0: other}), one == other)
         for one, other in (({}, {}), ({0: 1}, {}), ({0: 1}, {1: 1}), ({0: 1}, None), (None, None), ({0: (1, 2)}, {0: (1, 2)}), ({0: 1, 1: 2}, {1: 2, 0: 1})):
