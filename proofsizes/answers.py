@@ -2,53 +2,86 @@
 
 from proofsizes.bindings import bound_by
 from proofsizes.errors import BadAnswer
-from proofsizes.terms import are_alike, is_row, is_row_of_pairs, is_row_of_terms, matched, names_in
-from proofsizes.terms import numbered, pairs_key, put_in_pairs, put_in_row, sides_of, terms_key
+from proofsizes.nodes import are_alike, matched, names_in, put_in_pairs, terms_of
+from proofsizes.ordering import ascending, ascending_by_signs
+from proofsizes.shelves import Shelf, parted_pairs, sides_of_rows
+from proofsizes.terms import MOST_WITHIN, is_row, sides_of
 
 
 class Answer:
     """Terms and inequations in their normal form."""
 
     def __init__(self, terms, inequations):
-        if not is_row_of_terms(terms):
+        shelf = Shelf()
+        nodes = shelf.nodes_if_terms(terms, MOST_WITHIN) if is_row(terms) else None
+        if nodes is None:
             raise BadAnswer("terms")
-        if not is_row(inequations) or not all([is_row_of_pairs(pairs) for pairs in inequations]):
+        rows = shelf.rows_if_terms(inequations) if is_row(inequations) else None
+        if rows is None:
             raise BadAnswer("inequations")
-        normal = normal_form(terms, inequations)
-        if normal is None:
+        form = form_of(nodes, rows)
+        if form is None:
             raise BadAnswer("empty")
-        self.terms, self.inequations = normal
+        self.form = form
+        self.terms, self.inequations = form.as_tuples()
 
     def __eq__(self, other):
-        return isinstance(other, Answer) and self.terms == other.terms and self.inequations == other.inequations
+        return isinstance(other, Answer) and are_same_forms(self.form, other.form)
+
+
+class Form:
+    """A normal form: terms, and rows of pairs with an unknown first; each term in it is one node."""
+
+    def __init__(self, terms, rows):
+        self.terms = terms
+        self.rows = rows
+
+    def all_nodes(self):
+        """The list of all terms and of all sides of pairs, in order."""
+        return list(self.terms) + sides_of_rows(self.rows)
+
+    def as_tuples(self):
+        """The tuples of the terms and of the inequations."""
+        found = terms_of(self.all_nodes())
+        many = len(self.terms)
+        return tuple(found[:many]), tuple([tuple(row) for row in parted_pairs(found[many:], self.rows)])
+
+
+def are_same_forms(one, other):
+    """Whether two normal forms are the same."""
+    if len(one.terms) != len(other.terms) or [len(row) for row in one.rows] != [len(row) for row in other.rows]:
+        return False
+    return are_alike(list(zip(one.all_nodes(), other.all_nodes())))
 
 
 def answer_to(terms, inequations):
     """The Answer to what comes of the work, which may be deeper than what is handed in; None without instances."""
-    normal = normal_form(terms, inequations)
-    if normal is None:
+    form = form_of(terms, inequations)
+    if form is None:
         return None
     answer = Answer((), ())
-    answer.terms, answer.inequations = normal
+    answer.form = form
+    answer.terms, answer.inequations = form.as_tuples()
     return answer
 
 
-def normal_form(terms, inequations):
-    """The terms and the inequations of an Answer; None if it has no instances."""
-    names = names_in(terms)
-    all_names = names_in(list(terms) + [term for pairs in inequations for term in sides_of(pairs)])
+def form_of(terms, inequations):
+    """The normal form of an answer; None if it has no instances."""
+    many = len(names_in(terms))
+    sides = sides_of_rows(inequations)
+    shelf = Shelf()
     # The terms' unknowns come first, so that they have the numbers that the form asks.
-    worth = numbered(all_names, 0)
-    bounds = [bound_by(put_in_pairs(pairs, worth)) for pairs in inequations]
-    if {} in bounds:
-        return None
+    worth = {name: shelf.unknown(at) for at, name in enumerate(names_in(list(terms) + sides))}
     rows = {}
-    for bound in bounds:
-        if bound is not None and not has_hidden(bound, len(names)):
-            pairs = tuple([(("?", name), bound[name]) for name in bound])
-            rows[pairs_key(pairs)] = pairs
-    kept = [key for key in rows if not follows_from_another(rows, key)]
-    return tuple(put_in_row(terms, worth)), tuple([rows[key] for key in sorted(kept)])
+    for pairs in inequations:
+        bound = bound_by(put_in_pairs(pairs, worth))
+        if bound is not None and not bound:
+            return None
+        if bound is not None and not has_hidden(bound, many):
+            unknowns = [shelf.unknown(name) for name in bound]
+            rows[tuple(zip(unknowns, shelf.copies_of([bound[name] for name in bound])))] = True
+    left = [row for row in rows if not follows_from_another(rows, row)]
+    return Form(shelf.put_in(terms, worth), ascending(left, [sides_of(row) for row in left]))
 
 
 def has_hidden(bound, many):
@@ -57,20 +90,25 @@ def has_hidden(bound, many):
     return any([name >= many for name in standing])
 
 
-def follows_from_another(rows, key):
+def follows_from_another(rows, row):
     """Whether another of some solved inequations asks more than one of them."""
-    bound = {one[1]: other for one, other in rows[key]}
-    return any([other != key and are_alike(put_in_pairs(rows[other], bound)) for other in rows])
+    bound = {one.name: other for one, other in row}
+    return any([other != row and are_alike(put_in_pairs(other, bound)) for other in rows])
 
 
 def is_instance(answer, row):
     """Whether a row of ground terms is an instance of an answer."""
-    if len(row) != len(answer.terms):
+    return is_instance_of_form(answer.form, Shelf().nodes_of(row))
+
+
+def is_instance_of_form(form, row):
+    """Whether a row of nodes of ground terms is an instance of an answer with a normal form."""
+    if len(row) != len(form.terms):
         return False
-    worth = matched(answer.terms, row, {})
+    worth = matched(form.terms, row, {})
     if worth is None:
         return False
-    return not any([are_alike(put_in_pairs(pairs, worth)) for pairs in answer.inequations])
+    return not any([are_alike(put_in_pairs(pairs, worth)) for pairs in form.rows])
 
 
 def is_row_of_answers(thing):
@@ -80,8 +118,25 @@ def is_row_of_answers(thing):
     return all([len(answer.terms) == len(thing[0].terms) for answer in thing])
 
 
-def answer_key(answer):
-    """By this the answers of one size ascend; it is the same for equal answers alone."""
-    terms = terms_key(answer.terms)
-    inequations = tuple([pairs_key(pairs) for pairs in answer.inequations])
-    return (len(terms), terms, len(inequations), inequations)
+def unlike_answers(answers):
+    """The list of the unlike ones of some answers, each where it comes first."""
+    shelf = Shelf()
+    found = {}
+    for answer in answers:
+        found.setdefault(shelf.key_of(answer.form), answer)
+    return list(found.values())
+
+
+def ascending_answers(answers):
+    """The list of answers in their order: by how many signs their terms have, the terms, inequations."""
+    found = list(answers)
+    # What tells most is asked last: those that are the same by it stay as they stand.
+    for at in reversed(range(max([0] + [len(answer.form.rows) for answer in found]))):
+        found = ascending(found, [sides_at(answer.form.rows, at) for answer in found])
+    found = sorted(found, key=lambda answer: len(answer.form.rows))
+    return ascending_by_signs(found, [answer.form.terms for answer in found])
+
+
+def sides_at(rows, at):
+    """The sides of the pairs of a row with a number; none if there is no such row."""
+    return sides_of(rows[at]) if at < len(rows) else []

@@ -1,7 +1,7 @@
 """Terms for unknowns, as equations ask them, with a way back."""
 
-from proofsizes.terms import ascending_names, have_like_heads, is_compound, is_unknown
-from proofsizes.terms import names_in, put_in, put_in_row, sides_of
+from proofsizes.nodes import are_headed_alike, ascending_names, rebuilt, unknown_node
+from proofsizes.terms import sides_of
 
 
 class Bindings:
@@ -28,78 +28,79 @@ class Bindings:
         while len(self.trail) > mark:
             del self.bound[self.trail.pop()]
 
-    def bind(self, name, term):
+    def bind(self, name, node):
         """Notes a term for an unknown that has none."""
-        self.bound[name] = term
+        self.bound[name] = node
         self.trail.append(name)
 
-    def walk(self, term):
+    def walk(self, node):
         """The term itself, or what an unknown stands for, as far as its head is known."""
-        while is_unknown(term) and term[1] in self.bound:
-            term = self.bound[term[1]]
-        return term
+        while node.inner is None and node.name in self.bound:
+            node = self.bound[node.name]
+        return node
 
-    def stands_in(self, name, term):
+    def stands_in(self, name, node):
         """Whether an unknown without a term stands in what a term comes to."""
-        seen = set()
-        waiting = [term]
+        seen = {}
+        waiting = [node]
         while waiting:
             part = waiting.pop()
-            if is_compound(part):
-                waiting.extend(part[1])
-            elif is_unknown(part) and part[1] not in seen:
-                if part[1] == name:
-                    return True
-                seen.add(part[1])
-                if part[1] in self.bound:
-                    waiting.append(self.bound[part[1]])
+            if part.is_ground or part in seen:
+                continue
+            seen[part] = True
+            if part.inner is not None:
+                waiting.extend(part.inner)
+            elif part.name == name:
+                return True
+            elif part.name in self.bound:
+                waiting.append(self.bound[part.name])
         return False
 
     def make_same(self, pairs):
         """Whether both sides of all pairs can be the same; binds what that asks."""
-        met = set()
+        met = {}
         waiting = list(pairs)
         while waiting:
             one, other = waiting.pop()
-            if is_unknown(one) and is_unknown(other):
-                # Terms that share their parts would be gone through again and again.
-                if (one[1], other[1]) in met:
-                    continue
-                met.add((one[1], other[1]))
             one, other = self.walk(one), self.walk(other)
-            if is_unknown(one):
-                if one != other and not self.set_same(one, other):
+            if one == other:
+                continue
+            if one.inner is None:
+                if not self.set_same(one, other):
                     return False
-            elif is_unknown(other):
+            elif other.inner is None:
                 if not self.set_same(other, one):
                     return False
-            elif is_compound(one) and have_like_heads(one, other):
-                waiting.extend(list(zip(one[1], other[1])))
-            elif is_compound(one) or one != other:
+            elif not are_headed_alike(one, other):
                 return False
+            elif one.inner and (one, other) not in met:
+                # Terms that share their parts would be gone through again and again.
+                met[one, other] = True
+                waiting.extend(list(zip(one.inner, other.inner)))
         return True
 
-    def may_be_same(self, patterns, terms):
+    def set_same(self, unknown, node):
+        """Binds an unknown to another term, unless it stands within that."""
+        if node.inner is None and node.name == unknown.name:
+            return True
+        if node.inner and self.stands_in(unknown.name, node):
+            return False
+        self.bind(unknown.name, node)
+        return True
+
+    def may_be_same(self, patterns, nodes):
         """Whether patterns have no sign that is unlike the terms'; unknowns are passed over."""
-        waiting = list(zip(patterns, terms))
+        met = {}
+        waiting = list(zip(patterns, nodes))
         while waiting:
             one, other = waiting.pop()
             other = self.walk(other)
-            if is_unknown(one) or is_unknown(other):
-                continue
-            if is_compound(one):
-                if not have_like_heads(one, other):
+            if one.inner is not None and other.inner is not None:
+                if not are_headed_alike(one, other):
                     return False
-                waiting.extend(list(zip(one[1], other[1])))
-            elif one != other:
-                return False
-        return True
-
-    def set_same(self, unknown, term):
-        """Binds an unknown to another term, unless it stands within that."""
-        if is_compound(term) and self.stands_in(unknown[1], term):
-            return False
-        self.bind(unknown[1], term)
+                if one.inner and (one, other) not in met:
+                    met[one, other] = True
+                    waiting.extend(list(zip(one.inner, other.inner)))
         return True
 
     def asked_by(self, pairs):
@@ -121,30 +122,48 @@ class Bindings:
                 left.append(pairs)
         return left
 
-    def needed(self, terms):
-        """The bound unknowns that terms come to, each behind those in its own term."""
-        done = {}
-        waiting = names_in(terms)
+    def needed(self, nodes):
+        """The names of the bound unknowns that terms come to."""
+        found = {}
+        seen = {}
+        waiting = list(nodes)
         while waiting:
-            name = waiting[-1]
-            ahead = []
-            if name in self.bound and name not in done:
-                inner = names_in([self.bound[name]])
-                ahead = [other for other in inner if other in self.bound and other not in done]
-            if ahead:
-                waiting.extend(ahead)
-            else:
-                if name in self.bound:
-                    done[name] = True
-                waiting.pop()
-        return list(done)
+            node = waiting.pop()
+            if node.is_ground or node in seen:
+                continue
+            seen[node] = True
+            if node.inner is not None:
+                waiting.extend(node.inner)
+            elif node.name in self.bound and node.name not in found:
+                found[node.name] = True
+                waiting.append(self.bound[node.name])
+        return list(found)
 
-    def resolved(self, terms, worth):
+    def resolved(self, nodes, worth):
         """The terms with all that is bound put in; a dict's terms for unknowns without one."""
-        worth = dict(worth)
-        for name in self.needed(terms):
-            worth[name] = put_in(self.bound[name], worth)
-        return put_in_row(terms, worth)
+        built = {}
+        waiting = list(nodes)
+        while waiting:
+            node = waiting[-1]
+            inner = () if node.is_ground or node in built else self.inner_of(node)
+            left = [part for part in inner if not part.is_ground and part not in built]
+            if left:
+                waiting.extend(left)
+                continue
+            waiting.pop()
+            if inner and node.inner is None:
+                built[node] = built.get(inner[0], inner[0])
+            elif inner:
+                built[node] = rebuilt(node, built)
+            elif node.inner is None and node not in built:
+                built[node] = worth.get(node.name, node)
+        return [built.get(node, node) for node in nodes]
+
+    def inner_of(self, node):
+        """The parts of a term; of an unknown what it is bound to, if it is."""
+        if node.inner is not None:
+            return node.inner
+        return (self.bound[node.name],) if node.name in self.bound else ()
 
     def solved(self, names):
         """The dict from names, of those that ascend here, to terms without them.
@@ -152,12 +171,13 @@ class Bindings:
         Of unknowns that are the same the first one stands for all.
         """
         first = {}
-        for name in names:
-            end = self.walk(("?", name))
-            if is_unknown(end):
-                first.setdefault(end[1], ("?", name))
-        terms = self.resolved([("?", name) for name in names], first)
-        return {name: term for name, term in zip(names, terms) if term != ("?", name)}
+        unknowns = [unknown_node(name) for name in names]
+        for node in unknowns:
+            end = self.walk(node)
+            if end.inner is None:
+                first.setdefault(end.name, node)
+        nodes = self.resolved(unknowns, first)
+        return {name: node for name, node in zip(names, nodes) if node.inner is not None or node.name != name}
 
 
 def bound_by(pairs):

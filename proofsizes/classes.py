@@ -1,7 +1,7 @@
 """Classes of equal ground terms, and the terms of a class."""
 
 from proofsizes.linking import Linked
-from proofsizes.terms import terms_key
+from proofsizes.ordering import is_below
 
 
 class Classes(Linked):
@@ -37,10 +37,6 @@ class Classes(Linked):
                 self.tie(other, number, ("inside", pairs, self.heads[number][0]))
         return len(self.edges) > before
 
-    def class_of(self, term):
-        """The leader of the class of a term that stands in the classes."""
-        return self.leader(self.number_of(term))
-
     def states(self):
         """The classes, numbered: dicts from constants, and from names with parts' numbers, to numbers."""
         numbers = {leader: number for number, leader in enumerate(self.ways)}
@@ -56,17 +52,23 @@ class Classes(Linked):
     def least_terms(self):
         """The dict from classes to their terms with the fewest signs, then the first ones."""
         found = {}
-        keys = {}
+        signs = {}
         is_over = False
         while not is_over:
             is_over = True
             for leader in self.ways:
-                for way in self.ways[leader]:
-                    key, term = least_by(way, keys, found)
-                    if key is not None and (leader not in keys or key < keys[leader]):
-                        keys[leader], found[leader] = key, term
-                        is_over = False
+                for head, inner in self.ways[leader]:
+                    if all([part in found for part in inner]):
+                        many = 1 + sum([signs[part] for part in inner])
+                        node = self.made_term(head, tuple([found[part] for part in inner]))
+                        if leader not in found or is_less(many, node, signs[leader], found[leader]):
+                            signs[leader], found[leader] = many, node
+                            is_over = False
         return found
+
+    def made_term(self, head, inner):
+        """The term with a head, as numbered terms have one, and parts."""
+        return self.shelf.node_for(head[0] if inner else head[1], inner)
 
     def reached(self, start):
         """The list of the classes whose terms stand in terms of a class."""
@@ -92,7 +94,7 @@ class Classes(Linked):
         """The list of a class's terms with so many signs, by those of each smaller number of signs."""
         found = []
         for head, inner in self.ways[leader]:
-            found.extend([made_term(head, row) for row in rows_of_signs(inner, signs - 1, table)])
+            found.extend([self.made_term(head, row) for row in rows_of_signs(inner, signs - 1, table)])
         return found
 
     def are_endless(self, start):
@@ -107,18 +109,9 @@ class Classes(Linked):
         return start not in finite
 
 
-def made_term(head, inner):
-    """The term with a head, as numbered terms have one, and parts."""
-    return (head[0], inner) if inner else head[1]
-
-
-def least_by(way, keys, found):
-    """The key and the least term that a way makes of the least terms of the parts' classes; None without these."""
-    head, inner = way
-    if not all([leader in found for leader in inner]):
-        return None, None
-    term = made_term(head, tuple([found[leader] for leader in inner]))
-    return (1 + sum([keys[leader][0] for leader in inner]), terms_key([term])), term
+def is_less(many, node, least, other):
+    """Whether a term with a number of signs comes ahead of another one with another number."""
+    return many < least or many == least and is_below([node], [other])
 
 
 def rows_of_signs(inner, signs, table):

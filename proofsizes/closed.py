@@ -1,12 +1,15 @@
 """Closed signatures: all ground terms are made of some constants and compounds alone."""
 
 from proofsizes.bindings import bound_by
+from proofsizes.covering import ground_nodes
 from proofsizes.errors import BadTerm, RelationError
 from proofsizes.filling import Cases, Filling
-from proofsizes.stores import Valued, check_store, terms_of
-from proofsizes.terms import as_dict, as_tuple, ascending_names, is_compound, is_constant, is_deep_term
-from proofsizes.terms import is_ground_term, is_integer, is_name, is_row, is_row_of_terms, is_unknown, matched
-from proofsizes.terms import parts_of, put_in, put_in_pairs, sides_of
+from proofsizes.nodes import ascending_names, dict_of_terms, matched, put_in, put_in_pairs, terms_of, unlike_nodes
+from proofsizes.sharing import FEW_STEPS, are_same_dicts, are_same_rows
+from proofsizes.shelves import Shelf, sides_of_rows
+from proofsizes.stores import Valued, given_store
+from proofsizes.terms import as_dict, as_tuple, is_constant, is_deep_term, is_integer, is_name
+from proofsizes.terms import is_row, is_row_of_terms, sides_of
 from proofsizes.unmet import Unmatched
 
 MOST_CONSTANTS = 12
@@ -39,15 +42,17 @@ class Signature:
 
     def has(self, term):
         """Whether a term is made of these and of unknowns."""
-        if not is_deep_term(term):
-            return False
-        for part in parts_of(term):
-            if is_compound(part):
-                if self.compounds.get(part[0], 0) != len(part[1]):
-                    return False
-            elif not is_unknown(part) and part not in self.constants:
-                return False
-        return True
+        return is_deep_term(term) and self.has_all_nodes(Shelf().nodes_of([term]))
+
+    def has_all_nodes(self, nodes):
+        """Whether all terms are made of these and of unknowns."""
+        return all([self.has_node(node) for node in unlike_nodes(nodes)])
+
+    def has_node(self, node):
+        """Whether a term is one of the constants, an unknown, or one of the compounds, whatever its parts are."""
+        if node.inner:
+            return self.compounds.get(node.name, 0) == len(node.inner)
+        return node.inner is None or node.name in self.constants
 
 
 class Filled:
@@ -60,14 +65,14 @@ class Filled:
         return True
 
     def __eq__(self, other):
-        return isinstance(other, Filled) and self.ground == other.ground
+        return isinstance(other, Filled) and are_same_dicts(self.ground, other.ground)
 
     def shows(self, signature, equations, inequations):
         """Whether these terms are the signature's, for just the unknowns, and fulfil all."""
-        check_filling(signature, equations, inequations)
+        given_filling(signature, Shelf(), equations, inequations)
         if not Valued(self.ground).shows(equations, inequations):
             return False
-        return all([signature.has(self.ground[name]) for name in self.ground])
+        return has_all(signature, [self.ground[name] for name in self.ground])
 
 
 class Unfilled:
@@ -108,40 +113,41 @@ class Unmet:
         return False
 
     def __eq__(self, other):
-        return isinstance(other, Unmet) and self.row == other.row
+        return isinstance(other, Unmet) and are_same_rows(self.row, other.row, FEW_STEPS)
 
     def shows(self, signature, terms, patterns):
         """Whether the row is such a one, of the signature."""
         check_patterns(signature, terms, patterns)
-        if not isinstance(self.row, tuple) or len(self.row) != len(terms):
+        row = ground_nodes(self.row)
+        if row is None or len(row) != len(terms) or not signature.has_all_nodes(row):
             return False
-        if not all([is_ground_term(term) and signature.has(term) for term in self.row]):
+        shelf = Shelf()
+        if matched(shelf.nodes_of(terms), row, {}) is None:
             return False
-        if matched(terms, self.row, {}) is None:
-            return False
-        return all([matched(pattern, self.row, {}) is None for pattern in patterns])
+        return all([matched(shelf.nodes_of(pattern), row, {}) is None for pattern in patterns])
 
 
 def judge_filled(signature, equations, inequations):
     """A Filled, or an Unfilled, of equations and inequations in a signature."""
-    check_filling(signature, equations, inequations)
-    bound = bound_by(equations)
+    filling = Filling(signature.constants, signature.compounds, Cases())
+    pairs, rows = given_filling(signature, filling.shelf, equations, inequations)
+    bound = bound_by(pairs)
     if bound is None:
         return Unfilled()
-    names = ascending_names(terms_of(equations, inequations))
+    names = ascending_names(sides_of_rows([pairs] + rows))
     heads = {name: tuple(signature.compounds) for name in names if name not in bound}
-    filling = Filling(signature.constants, signature.compounds, Cases())
-    worth = filling.fill(heads, [put_in_pairs(pairs, bound) for pairs in inequations])
+    worth = filling.fill(heads, [put_in_pairs(row, bound) for row in rows])
     if worth is None:
         return Unfilled()
-    return Filled({name: worth[name] if name in worth else put_in(bound[name], worth) for name in names})
+    nodes = put_in([worth[name] if name in worth else bound[name] for name in names], worth)
+    return Filled(dict_of_terms({name: node for name, node in zip(names, nodes)}))
 
 
 def judge_patterns(signature, terms, patterns):
     """An AllMet, or an Unmet, of a row of terms and a row of patterns in a signature."""
     check_patterns(signature, terms, patterns)
     row = Unmatched(signature.constants, signature.compounds).row_for(terms, patterns)
-    return AllMet() if row is None else Unmet(row)
+    return AllMet() if row is None else Unmet(terms_of(row))
 
 
 def needless_patterns(signature, patterns):
@@ -170,18 +176,19 @@ def are_compounds(thing):
 
 def has_all(signature, terms):
     """Whether all terms are a signature's."""
-    return all([signature.has(term) for term in terms])
+    return signature.has_all_nodes(Shelf().nodes_of(terms))
 
 
-def check_filling(signature, equations, inequations):
-    """Raises BadTerm for what are no equations, or no inequations, of a signature's terms."""
-    check_store(equations, inequations)
-    for place, pair in enumerate(equations):
-        if not has_all(signature, pair):
+def given_filling(signature, shelf, equations, inequations):
+    """The pairs of nodes, and rows of those, of what is given; raises BadTerm if they aren't a signature's."""
+    pairs, rows = given_store(shelf, equations, inequations)
+    for place, pair in enumerate(pairs):
+        if not signature.has_all_nodes(pair):
             raise BadTerm(place)
-    for place, pairs in enumerate(inequations):
-        if not has_all(signature, sides_of(pairs)):
+    for place, row in enumerate(rows):
+        if not signature.has_all_nodes(sides_of(row)):
             raise BadTerm(place)
+    return pairs, rows
 
 
 def check_patterns(signature, terms, patterns):

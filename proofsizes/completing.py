@@ -1,10 +1,11 @@
 """Lists of answers that are complete, and whether two lists have the same instances."""
 
 from proofsizes.answers import is_row_of_answers
-from proofsizes.covering import check_ways, is_ground_row, is_in_first_alone, meeting, row_outside
+from proofsizes.covering import check_ways, ground_nodes, is_in_first_alone, meeting, row_outside
 from proofsizes.errors import BadAnswer
 from proofsizes.finding import OfLevels, found_proofs
 from proofsizes.searching import Answered, Spent, judge_spent, told_newly
+from proofsizes.sharing import FEW_STEPS, are_same_rows
 from proofsizes.terms import as_tuple
 from proofsizes.ways import Ways
 
@@ -57,14 +58,17 @@ class OneSided:
         return False
 
     def __eq__(self, other):
-        return isinstance(other, OneSided) and self.row == other.row and self.is_first == other.is_first
+        if not isinstance(other, OneSided) or self.is_first != other.is_first:
+            return False
+        return are_same_rows(self.row, other.row, FEW_STEPS)
 
     def shows(self, one, other):
         """Whether the row is such an instance."""
         check_sides(one, other)
-        if not isinstance(self.is_first, bool) or not is_ground_row(self.row):
+        row = ground_nodes(self.row)
+        if not isinstance(self.is_first, bool) or row is None:
             return False
-        return is_in_first_alone(self.row, one, other) if self.is_first else is_in_first_alone(self.row, other, one)
+        return is_in_first_alone(row, one, other) if self.is_first else is_in_first_alone(row, other, one)
 
 
 def complete(program, question, most):

@@ -1,6 +1,7 @@
 """The answers of proofs by those of the trees in them, each unlike tree being gone through once."""
 
 from proofsizes.growing import Source
+from proofsizes.nodes import unknown_node
 from proofsizes.sharing import MOST_STEPS, unlike_parts
 from proofsizes.ways import Ways
 
@@ -21,7 +22,7 @@ def answer_of_part(ways, parts, answers, inner):
     if inner is None or len(inner) != 2 or parts[inner[0]][0] is not None:
         return None
     rule = ways.rules[parts[inner[0]][1]]
-    unknowns = [("?", at) for at in range(len(rule.terms))]
+    unknowns = [unknown_node(at) for at in range(len(rule.terms))]
     return answer_behind(Source(unknowns, [rule], 1), [answers[part] for part in parts[inner[1]][0]])
 
 

@@ -1,10 +1,13 @@
 """Whether the instances of an answer are all among those of others."""
 
-from proofsizes.answers import Answer, is_instance, is_row_of_answers
+from proofsizes.answers import Answer, is_instance_of_form, is_row_of_answers
 from proofsizes.bindings import Bindings, bound_by
 from proofsizes.errors import BadAnswer, TooLarge
-from proofsizes.terms import are_alike, as_tuple, is_ground_term, matched, names_in, put_in_pairs
-from proofsizes.terms import put_in_row, sides_of, unlike_constants
+from proofsizes.nodes import are_alike, matched, names_in, put_in, put_in_pairs, terms_of, unknown_node
+from proofsizes.nodes import unlike_constants
+from proofsizes.sharing import FEW_STEPS, are_same_rows
+from proofsizes.shelves import Shelf
+from proofsizes.terms import are_terms, as_tuple
 
 MOST_WAYS = 4096
 
@@ -33,12 +36,13 @@ class Outside:
         return False
 
     def __eq__(self, other):
-        return isinstance(other, Outside) and self.row == other.row
+        return isinstance(other, Outside) and are_same_rows(self.row, other.row, FEW_STEPS)
 
     def shows(self, answer, answers):
         """Whether the row is such an instance."""
         check_covering(answer, answers)
-        return is_ground_row(self.row) and is_in_first_alone(self.row, [answer], answers)
+        row = ground_nodes(self.row)
+        return row is not None and is_in_first_alone(row, [answer], answers)
 
 
 def judge_covered(answer, answers):
@@ -70,14 +74,14 @@ def check_ways(others):
 def meeting(answer, answers):
     """Those others whose terms can be made the same as the answer's."""
     # Unknowns of answers are named by integers, so these names are none of the others'.
-    worth = {name: ("?", str(name)) for name in names_in(answer.terms)}
-    terms = put_in_row(answer.terms, worth)
-    return [other for other in answers if can_be_same(terms, other.terms)]
+    terms = answer.form.terms
+    terms = put_in(terms, {name: unknown_node(str(name)) for name in names_in(terms)})
+    return [other for other in answers if can_be_same(terms, other.form.terms)]
 
 
-def can_be_same(terms, others):
+def can_be_same(nodes, others):
     """Whether two rows of terms, without common unknowns, can be made the same."""
-    return Bindings().make_same(list(zip(terms, others)))
+    return Bindings().make_same(list(zip(nodes, others)))
 
 
 def row_outside(answer, others):
@@ -87,17 +91,19 @@ def row_outside(answer, others):
     those of this one as instances, and no inequation of it always fails: then one of
     them is to fail, which asks more equations of this answer's unknowns.
     """
+    form = answer.form
+    forms = [other.form for other in others]
     # Those with few inequations leave few ways to go on, so they are asked first.
-    ascending = sorted(others, key=lambda other: len(other.inequations))
+    ahead = sorted(forms, key=lambda other: len(other.rows))
     waiting = [()]
     while waiting:
         equations = waiting.pop()
         bound = bound_by(equations)
-        if bound is None or fails_always(answer.inequations, bound):
+        if bound is None or fails_always(form.rows, bound):
             continue
-        failing = ways_to_fail(put_in_row(answer.terms, bound), ascending)
+        failing = ways_to_fail(put_in(form.terms, bound), ahead)
         if failing is None:
-            return ground_row(answer, others, bound)
+            return ground_row(form, forms, bound)
         waiting.extend([equations + pairs for pairs in failing])
     return None
 
@@ -107,39 +113,41 @@ def fails_always(inequations, worth):
     return any([are_alike(put_in_pairs(pairs, worth)) for pairs in inequations])
 
 
-def ways_to_fail(terms, others):
-    """For the first other that has all instances of terms, the pairs of its inequations; None without any."""
-    for other in others:
-        worth = matched(other.terms, terms, {})
-        if worth is not None and not fails_always(other.inequations, worth):
-            return [tuple(put_in_pairs(pairs, worth)) for pairs in other.inequations]
+def ways_to_fail(nodes, forms):
+    """For the first normal form that has all instances of terms, the pairs of its inequations; None without any."""
+    for form in forms:
+        worth = matched(form.terms, nodes, {})
+        if worth is not None and not fails_always(form.rows, worth):
+            return [tuple(put_in_pairs(pairs, worth)) for pairs in form.rows]
     return None
 
 
 def is_inside(answer, other):
     """Whether all instances of an answer are another one's."""
-    if matched(other.terms, answer.terms, {}) is None:
+    if matched(other.form.terms, answer.form.terms, {}) is None:
         return False
-    return not other.inequations or row_outside(answer, [other]) is None
+    return not other.form.rows or row_outside(answer, [other]) is None
 
 
-def ground_row(answer, others, bound):
+def ground_row(form, forms, bound):
     """The row of an answer's terms with unlike constants that stand nowhere for all that isn't bound."""
-    terms = put_in_row(answer.terms, bound)
-    standing = list(terms)
-    for other in [answer] + others:
-        standing.extend(other.terms)
-        standing.extend([term for pairs in other.inequations for term in sides_of(pairs)])
-    return tuple(put_in_row(terms, unlike_constants(names_in(terms), standing)))
+    nodes = put_in(form.terms, bound)
+    standing = list(nodes)
+    for other in [form] + forms:
+        standing.extend(other.all_nodes())
+    return tuple(terms_of(put_in(nodes, unlike_constants(names_in(nodes), standing))))
 
 
-def is_ground_row(thing):
-    """Whether a thing is a tuple of ground terms."""
-    return isinstance(thing, tuple) and all([is_ground_term(term) for term in thing])
+def ground_nodes(thing):
+    """The list of the nodes of a tuple of ground terms; None for what is none."""
+    if not isinstance(thing, tuple) or not are_terms(thing, None):
+        return None
+    nodes = Shelf().nodes_of(thing)
+    return nodes if all([node.is_ground for node in nodes]) else None
 
 
 def is_in_first_alone(row, answers, others):
-    """Whether a row is an instance of one of some answers, and of none of others."""
-    if any([is_instance(other, row) for other in others]):
+    """Whether a row of nodes is an instance of one of some answers, and of none of others."""
+    if any([is_instance_of_form(other.form, row) for other in others]):
         return False
-    return any([is_instance(answer, row) for answer in answers])
+    return any([is_instance_of_form(answer.form, row) for answer in answers])

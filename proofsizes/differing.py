@@ -5,6 +5,7 @@ from proofsizes.kinds import rounds_of
 from proofsizes.leastterms import least_of
 from proofsizes.programs import MOST_RULES, Program
 from proofsizes.shallow import check_shallow, clauses_of
+from proofsizes.sharing import FEW_STEPS, are_same
 from proofsizes.terms import is_ground_term, is_name
 
 # Ahead of the names of relations, so that those of the two programs are unlike.
@@ -36,7 +37,7 @@ class OnlyOne:
         return False
 
     def __eq__(self, other):
-        return isinstance(other, OnlyOne) and self.term == other.term
+        return isinstance(other, OnlyOne) and are_same([(self.term, other.term)], FEW_STEPS)
 
     def shows(self, one, other, name):
         """Whether it is so."""

@@ -1,8 +1,10 @@
 """Programs whose goals fall from term to term, and the rules that a question can come to."""
 
 from proofsizes.errors import BadRule, TooLarge
+from proofsizes.nodes import unlike_nodes
 from proofsizes.programs import OWN_NAMES, Program, all_goals, relation_goals, relation_of
-from proofsizes.terms import is_compound, is_integer, is_name, is_number_below, names_in, parts_of
+from proofsizes.shelves import Shelf
+from proofsizes.terms import is_integer, is_name, is_number_below
 
 MOST_DICTS = 4096
 
@@ -26,10 +28,13 @@ def first_standing(program, places):
 
 def falling_pairs(head, goal):
     """All pairs of places at which a goal's term stands within the head's term, and isn't all of it."""
+    shelf = Shelf()
+    nodes = shelf.nodes_of(goal[1])
     found = []
-    for above, term in enumerate(head[1]):
-        inner = parts_of(term)[1:]
-        found.extend([(above, below) for below, other in enumerate(goal[1]) if other in inner])
+    for above, node in enumerate(shelf.nodes_of(head[1])):
+        # The term itself stands behind all that stand in it.
+        inner = {part: True for part in unlike_nodes([node])[:-1]}
+        found.extend([(above, below) for below, other in enumerate(nodes) if other in inner])
     return found
 
 
@@ -102,23 +107,19 @@ def levels_for(program, places, question):
         relation = relation_of(goal)
         if relation not in places:
             return None
-        term = goal[1][places[relation]]
-        if names_in([term]):
+        node = Shelf().node_of(goal[1][places[relation]])
+        if not node.is_ground:
             return None
-        most = max(most, depth_of(term))
+        most = max(most, depth_of(node))
     return most
 
 
-def depth_of(term):
+def depth_of(node):
     """How many terms stand within one another in a term, at most."""
-    most = 0
-    waiting = [(term, 1)]
-    while waiting:
-        part, level = waiting.pop()
-        most = max(most, level)
-        if is_compound(part):
-            waiting.extend([(inner, level + 1) for inner in part[1]])
-    return most
+    levels = {}
+    for part in unlike_nodes([node]):
+        levels[part] = 1 + max([0] + [levels[one] for one in part.inner or ()])
+    return levels[node]
 
 
 def reached_rules(program, question):

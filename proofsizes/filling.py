@@ -2,7 +2,9 @@
 
 from proofsizes.bindings import bound_by
 from proofsizes.errors import TooLarge
-from proofsizes.terms import is_compound, is_unknown, names_in, put_in_pairs, sides_of
+from proofsizes.nodes import names_in, put_in_pairs
+from proofsizes.shelves import Shelf
+from proofsizes.terms import sides_of
 
 MOST_CASES = 20000
 
@@ -29,15 +31,16 @@ class Filling:
     """
 
     def __init__(self, constants, compounds, cases):
-        self.constants = constants
+        self.shelf = Shelf()
+        self.constants = [self.shelf.node_for(constant, ()) for constant in constants]
         self.compounds = compounds
         self.cases = cases
-        self.row = list(constants)
+        self.row = list(self.constants)
         self.grown = 0
 
     def fill(self, heads, inequations):
         """A dict from unknowns, with the compounds that each may be, to ground terms; None if there is none."""
-        rows = solved_rows(inequations, {})
+        rows = self.solved_rows(inequations, {})
         if rows is None:
             return None
         narrow = {name: True for name in heads if not heads[name]}
@@ -49,8 +52,27 @@ class Filling:
             worth.update(found)
         for name in heads:
             if name not in narrow:
-                worth[name] = self.first_let(name, heads[name], solved_rows(inequations, worth))
+                worth[name] = self.first_let(name, heads[name], self.solved_rows(inequations, worth))
         return worth
+
+    def solved_rows(self, inequations, worth):
+        """For inequations with terms put in, that can fail, the pairs by which they do; None if one always fails."""
+        rows = []
+        for pairs in inequations:
+            bound = bound_by(put_in_pairs(pairs, worth))
+            if bound is not None and not bound:
+                return None
+            if bound is not None:
+                nodes = self.shelf.copies_of([bound[name] for name in bound])
+                rows.append(list(zip([self.shelf.unknown(name) for name in bound], nodes)))
+        return rows
+
+    def rows_behind(self, rows, name, constant):
+        """Rows of pairs when an unknown has a constant, without those that can't be so; None if one always is."""
+        unknown = self.shelf.unknown(name)
+        asked = [row for row in rows if unknown in sides_of(row)]
+        solved = self.solved_rows(asked, {name: constant})
+        return None if solved is None else solved + [row for row in rows if unknown not in sides_of(row)]
 
     def fill_narrow(self, rows):
         """Constants for narrow unknowns by which no row of pairs is the same; None if there are none."""
@@ -62,7 +84,7 @@ class Filling:
                 return worth
             name, lets = self.narrowest(left)
             for constant in lets[::-1]:
-                behind = rows_behind(left, name, constant)
+                behind = self.rows_behind(left, name, constant)
                 if behind is not None:
                     waiting.append(({**worth, name: constant}, behind))
         return None
@@ -73,10 +95,10 @@ class Filling:
         barred = {}
         for row in rows:
             for side in sides_of(row):
-                if not is_unknown(side):
+                if side.inner is not None:
                     named[side] = True
-            if len(row) == 1 and not is_unknown(row[0][1]):
-                barred.setdefault(row[0][0][1], {})[row[0][1]] = True
+            if len(row) == 1 and row[0][1].inner is not None:
+                barred.setdefault(row[0][0].name, {})[row[0][1]] = True
         # Those that no row names do the same for all unknowns, so one of them is enough.
         tried = list(named) + [constant for constant in self.constants if constant not in named][:1]
         best = None
@@ -88,7 +110,7 @@ class Filling:
 
     def first_let(self, name, heads, rows):
         """The first term, that is a constant or has one of some heads, which no row bars for an unknown."""
-        barred = [row[0][1] for row in rows if len(row) == 1 and row[0][0] == ("?", name)]
+        barred = {row[0][1]: True for row in rows if len(row) == 1 and row[0][0].name == name}
         for constant in self.constants:
             if constant not in barred:
                 return constant
@@ -102,7 +124,7 @@ class Filling:
 
     def around(self, head, term):
         """The compound with a head around a term; its other parts are constants."""
-        return head, (term,) + (self.constants[0],) * (self.compounds[head] - 1)
+        return self.shelf.node_for(head, (term,) + (self.constants[0],) * (self.compounds[head] - 1))
 
     def term_at(self, at):
         """The term with a number, of endless many unlike ones."""
@@ -112,28 +134,9 @@ class Filling:
         return self.row[at]
 
 
-def solved_rows(inequations, worth):
-    """For inequations with terms put in, that can fail, the pairs by which they do; None if one always fails."""
-    rows = []
-    for pairs in inequations:
-        bound = bound_by(put_in_pairs(pairs, worth))
-        if bound == {}:
-            return None
-        if bound is not None:
-            rows.append([(("?", name), bound[name]) for name in bound])
-    return rows
-
-
-def rows_behind(rows, name, constant):
-    """Rows of pairs when an unknown has a constant, without those that can't be the same; None if one always is."""
-    asked = [row for row in rows if ("?", name) in sides_of(row)]
-    solved = solved_rows(asked, {name: constant})
-    return None if solved is None else solved + [row for row in rows if ("?", name) not in sides_of(row)]
-
-
 def is_among(row, narrow):
     """Whether all sides of pairs are constants or narrow unknowns; otherwise they need not be the same."""
-    if any([is_compound(side) for side in sides_of(row)]):
+    if any([side.inner for side in sides_of(row)]):
         return False
     return all([name in narrow for name in names_in(sides_of(row))])
 

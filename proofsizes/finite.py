@@ -2,7 +2,8 @@
 
 from proofsizes.errors import TooLarge
 from proofsizes.fitting import rows_in
-from proofsizes.terms import parts_of, terms_key
+from proofsizes.nodes import made_node, terms_of
+from proofsizes.ordering import ascending_by_signs
 
 MOST_TERMS = 2000
 
@@ -24,9 +25,9 @@ def finite_terms(states, wanted):
         found[state] = []
         for name, row in ways[state]:
             inner = rows_in([found[part] for part in row])
-            found[state].extend([(name, terms) if terms else name for terms in inner])
-    terms = [term for state in wanted for term in found[state]]
-    return sorted(terms, key=lambda term: (len(parts_of(term)), terms_key([term])))
+            found[state].extend([made_node(name, parts) for parts in inner])
+    nodes = [node for state in wanted for node in found[state]]
+    return terms_of(ascending_by_signs(nodes, [[node] for node in nodes]))
 
 
 def check_many(many):

@@ -1,13 +1,13 @@
 """States for unknowns by which terms have some of the states that are let."""
 
-from proofsizes.terms import is_compound, is_unknown, names_in, parts_of
+from proofsizes.nodes import names_in, unlike_nodes
 
 
 class Spread:
     """A term with all states that it may have, and those of its parts."""
 
-    def __init__(self, part, may_be, inner):
-        self.part = part
+    def __init__(self, node, may_be, inner):
+        self.node = node
         self.may_be = may_be
         self.inner = inner
 
@@ -15,7 +15,7 @@ class Spread:
 def fitted(states, asked, domain):
     """A dict from the names of unknowns to states of a domain by which all is so; None without any.
 
-    What is asked are pairs of a term and a dict of the states that it may have.
+    What is asked are pairs of a term's node and a dict of the states that it may have.
     """
     found = {}
     for group in groups_of(asked):
@@ -59,39 +59,43 @@ def fitted_group(states, asked, domain):
     return None
 
 
-def repeated_names(terms):
+def repeated_names(nodes):
     """The names of those unknowns that stand more than once in terms."""
-    many = {}
-    for term in terms:
-        for part in parts_of(term):
-            if is_unknown(part):
-                many[part[1]] = many.get(part[1], 0) + 1
-    return [name for name in many if many[name] > 1]
+    parts = unlike_nodes(nodes)
+    many = {part: 0 for part in parts}
+    for node in nodes:
+        many[node] += 1
+    for node in parts[::-1]:
+        for part in node.inner or ():
+            many[part] += many[node]
+    names = {}
+    for node in parts:
+        if node.inner is None:
+            names[node.name] = names.get(node.name, 0) + many[node]
+    return [name for name in names if names[name] > 1]
 
 
-def spread_of(states, term, worth, domain):
+def spread_of(states, root, worth, domain):
     """The states that a term may have, when some unknowns have theirs and all others may have any of a domain."""
-    built = []
-    for part in reversed(parts_of(term)):
-        if is_compound(part):
-            many = len(part[1])
-            inner = built[-many:][::-1]
-            del built[-many:]
-            built.append(Spread(part, {state: True for state, _ in ways_to_be(states, part, inner)}, inner))
-        elif is_unknown(part):
-            lets = [worth[part[1]]] if part[1] in worth else domain
-            built.append(Spread(part, {state: True for state in lets}, []))
+    built = {}
+    for node in unlike_nodes([root]):
+        inner = [built[part] for part in node.inner or ()]
+        if node.inner is None:
+            lets = [worth[node.name]] if node.name in worth else domain
+        elif inner:
+            lets = [state for state, _ in ways_to_be(states, node, inner)]
         else:
-            built.append(Spread(part, {states.of_constant(part): True}, []))
-    return built[0]
+            lets = [states.of_constant(node.name)]
+        built[node] = Spread(node, {state: True for state in lets}, inner)
+    return built[root]
 
 
-def ways_to_be(states, part, inner):
+def ways_to_be(states, node, inner):
     """The list of states that a compound may have, each with the row of its parts' states, as far as it hangs on it."""
     columns = [list(one.may_be) for one in inner]
-    if not states.has_table(part[0], len(inner)):
+    if not states.has_table(node.name, len(inner)):
         return [(states.beyond, tuple([column[0] for column in columns]))]
-    return [(states.of_compound(part[0], row), row) for row in rows_in(columns)]
+    return [(states.of_compound(node.name, row), row) for row in rows_in(columns)]
 
 
 def rows_in(columns):
@@ -105,12 +109,16 @@ def rows_in(columns):
 def with_once(states, spreads, worth):
     """The states of unknowns, with those, too, that stand once: each term has the first state that is let."""
     found = dict(worth)
+    met = {}
     waiting = [(spread, [state for state in spread.may_be if state in lets][0]) for spread, lets in spreads]
     while waiting:
         spread, state = waiting.pop()
-        if is_unknown(spread.part):
-            found[spread.part[1]] = state
-        elif spread.inner:
-            rows = [row for one, row in ways_to_be(states, spread.part, spread.inner) if one == state]
-            waiting.extend(list(zip(spread.inner, rows[0])))
+        # What stands again has no unknown in it that stands once.
+        if spread not in met:
+            met[spread] = True
+            if spread.node.inner is None:
+                found[spread.node.name] = state
+            elif spread.inner:
+                rows = [row for one, row in ways_to_be(states, spread.node, spread.inner) if one == state]
+                waiting.extend(list(zip(spread.inner, rows[0])))
     return found

@@ -3,8 +3,9 @@
 from proofsizes.bindings import bound_by
 from proofsizes.errors import BadTerm
 from proofsizes.sharing import are_same_dicts
-from proofsizes.stores import Valued, check_store, judge_values
-from proofsizes.terms import are_alike, as_dict, is_number_below, is_row_of_pairs, put_in_pairs
+from proofsizes.shelves import Shelf
+from proofsizes.stores import Valued, always_fails, given_store, judge_values
+from proofsizes.terms import as_dict, is_number_below
 
 
 class Follows:
@@ -21,13 +22,10 @@ class Follows:
 
     def shows(self, equations, inequations, other):
         """Whether it is so with this number."""
-        check_following(equations, inequations, other)
-        bound = bound_by(list(equations) + list(other))
-        if self.number is None or bound is None:
-            return self.number is None and bound is None
-        if not is_number_below(self.number, len(inequations)):
-            return False
-        return are_alike(put_in_pairs(inequations[self.number], bound))
+        pairs, rows, more = given_following(equations, inequations, other)
+        if self.number is None:
+            return bound_by(pairs + more) is None
+        return is_number_below(self.number, len(rows)) and always_fails(pairs + more, rows[self.number])
 
 
 class Against:
@@ -44,20 +42,23 @@ class Against:
 
     def shows(self, equations, inequations, other):
         """Whether these terms are for just the unknowns, and it is so by them."""
-        check_following(equations, inequations, other)
+        given_following(equations, inequations, other)
         return Valued(self.ground).shows(list(equations) + list(other), inequations)
 
 
 def judge_follows(equations, inequations, other):
     """A Follows, or an Against, of equations and inequations and one inequation more."""
-    check_following(equations, inequations, other)
+    given_following(equations, inequations, other)
     # The other one fails just if its equations hold, so these are asked with the given ones.
     paper = judge_values(list(equations) + list(other), inequations)
     return Against(paper.ground) if paper else Follows(paper.number)
 
 
-def check_following(equations, inequations, other):
-    """Raises BadTerm for what are no equations, or no inequations."""
-    check_store(equations, inequations)
-    if not is_row_of_pairs(other):
+def given_following(equations, inequations, other):
+    """The pairs of nodes of equations, the rows of those of inequations, and those of the other one; raises BadTerm."""
+    shelf = Shelf()
+    pairs, rows = given_store(shelf, equations, inequations)
+    more = shelf.rows_if_terms([other])
+    if more is None:
         raise BadTerm(None)
+    return pairs, rows, more[0]

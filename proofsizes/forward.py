@@ -1,10 +1,10 @@
 """Facts from below: the answers of each relation by the sizes of their proofs, built up from smaller ones."""
 
-from proofsizes.answers import answer_key
+from proofsizes.answers import ascending_answers, unlike_answers
 from proofsizes.bindings import Bindings
 from proofsizes.meeting import resolved_answer
+from proofsizes.nodes import names_in, numbered, put_in, put_in_pairs
 from proofsizes.programs import check_count, relation_of
-from proofsizes.terms import names_in, numbered, put_in_pairs, put_in_row
 from proofsizes.ways import Ready
 
 
@@ -22,9 +22,10 @@ def facts_behind(rules, smaller):
     """The facts of the next size, by those of all smaller ones."""
     found = {}
     for relation, rule in rules:
-        for answer in Making(rule, smaller).made():
-            found.setdefault(relation, {})[answer_key(answer)] = answer
-    return {relation: [found[relation][key] for key in sorted(found[relation])] for relation in sorted(found)}
+        made = Making(rule, smaller).made()
+        if made:
+            found[relation] = found.get(relation, []) + made
+    return {relation: ascending_answers(unlike_answers(found[relation])) for relation in sorted(found)}
 
 
 class Stage:
@@ -44,8 +45,8 @@ class Making:
         self.rule = rule
         self.smaller = smaller
         self.bindings = Bindings()
-        self.worth = numbered(rule.names, 0)
-        self.asked = [(relation, put_in_row(terms, self.worth)) for relation, terms in rule.asked]
+        self.used = rule.with_unknowns(0)
+        self.asked = self.used.goals_asked()
 
     def made(self):
         """The answers of the rule's head, by all facts that may be taken."""
@@ -67,9 +68,9 @@ class Making:
 
     def first(self):
         """The stage without facts; None if the rule's own goals can't be so."""
-        if not self.bindings.make_same(put_in_pairs(self.rule.equals, self.worth)):
+        if not self.bindings.make_same(self.used.pairs_equal()):
             return None
-        unlikes = self.bindings.pending([[pair] for pair in put_in_pairs(self.rule.unlikes, self.worth)])
+        unlikes = self.bindings.pending(self.used.pairs_unlike())
         if unlikes is None:
             return None
         return Stage(0, len(self.smaller) - 1, len(self.rule.names), unlikes)
@@ -82,22 +83,23 @@ class Making:
         # The last goal's size is what is left; each goal ahead leaves 1 at least to those behind it.
         for size in range(1 if others else max(1, stage.rest), stage.rest - others + 1):
             for fact in self.smaller[size].get(relation, []):
-                if self.bindings.may_be_same(fact.terms, terms):
+                if self.bindings.may_be_same(fact.form.terms, terms):
                     found.append((size, fact))
         return found
 
     def behind(self, stage, size, fact):
         """The stage behind a fact that is taken for the next goal; None if what is asked can't be so."""
-        names = names_in(fact.terms)
+        form = fact.form
+        names = names_in(form.terms)
         worth = numbered(names, stage.fresh)
         terms = self.asked[stage.goals][1]
-        if not self.bindings.make_same(list(zip(put_in_row(fact.terms, worth), terms))):
+        if not self.bindings.make_same(list(zip(put_in(form.terms, worth), terms))):
             return None
-        unlikes = self.bindings.pending(stage.unlikes + [put_in_pairs(pairs, worth) for pairs in fact.inequations])
+        unlikes = self.bindings.pending(stage.unlikes + [put_in_pairs(pairs, worth) for pairs in form.rows])
         if unlikes is None:
             return None
         return Stage(stage.goals + 1, stage.rest - size, stage.fresh + len(names), unlikes)
 
     def answer_at(self, stage):
         """The answer of the rule's head when all goals have facts."""
-        return resolved_answer(self.bindings, put_in_row(self.rule.terms, self.worth), stage.unlikes)
+        return resolved_answer(self.bindings, self.used.head_terms(), stage.unlikes)

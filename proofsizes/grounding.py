@@ -1,7 +1,9 @@
 """Least proofs that ground terms are of relations of a shallow program, by facts about finitely many terms."""
 
 from proofsizes.leastterms import least_of
-from proofsizes.terms import is_compound, is_unknown, names_in, parts_of
+from proofsizes.nodes import unlike_nodes
+from proofsizes.shelves import Shelf
+from proofsizes.terms import is_compound, is_unknown, names_in
 
 
 class Grounding:
@@ -48,16 +50,12 @@ class Grounding:
 
     def number_of(self, term):
         """The number of a ground term."""
-        built = []
-        for part in reversed(parts_of(term)):
-            if is_compound(part):
-                many = len(part[1])
-                inner = tuple(built[-many:][::-1])
-                del built[-many:]
-                built.append(self.number_for((part[0], many), inner))
-            else:
-                built.append(self.number_for(("", part), ()))
-        return built[0]
+        numbers = {}
+        root = Shelf().node_of(term)
+        for node in unlike_nodes([root]):
+            inner = tuple([numbers[part] for part in node.inner])
+            numbers[node] = self.number_for((node.name, len(inner)) if inner else ("", node.name), inner)
+        return numbers[root]
 
     def numbers_of_least(self, one):
         """The numbers of the least terms of all types of a round."""

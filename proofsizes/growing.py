@@ -7,12 +7,14 @@ first. So sizes of which nothing comes take no time, and it ends when nothing is
 
 from heapq import heappop, heappush
 
-from proofsizes.answers import answer_key
+from proofsizes.answers import ascending_answers, unlike_answers
 from proofsizes.bindings import Bindings
 from proofsizes.covering import MOST_WAYS, is_inside, judge_covered
-from proofsizes.meeting import resolved_answer
+from proofsizes.meeting import resolved_answer, resolved_rows
+from proofsizes.nodes import names_in, numbered, put_in, put_in_pairs, unknown_node
 from proofsizes.opening import is_soon_spent
-from proofsizes.terms import names_in, numbered, put_in_pairs, put_in_row, sides_of, terms_key
+from proofsizes.shelves import Shelf
+from proofsizes.terms import sides_of
 from proofsizes.ways import Ways
 
 
@@ -34,12 +36,11 @@ class Telling:
 
     def tell(self, size, answers):
         """Tells those answers of a size that are not covered."""
-        rows = {answer_key(answer): answer for answer in answers}
-        for key in sorted(rows):
-            if not self.is_in_doubt() and not judge_covered(rows[key], self.answers):
-                self.told.append((size, rows[key]))
-                self.answers.append(rows[key])
-                self.ways = self.ways * (len(rows[key].inequations) + 1)
+        for answer in ascending_answers(unlike_answers(answers)):
+            if not self.is_in_doubt() and not judge_covered(answer, self.answers):
+                self.told.append((size, answer))
+                self.answers.append(answer)
+                self.ways = self.ways * (len(answer.form.rows) + 1)
 
     def all_told(self):
         """The list of pairs of a size and an answer; None if it can't be told."""
@@ -58,17 +59,18 @@ class Waiting:
 
     def behind(self, size, answer):
         """The same behind an answer for the unknowns of the next goal; None if what is asked can't be so."""
-        return self.joined([("?", name) for name in names_in(self.goals[0][1])], size, answer)
+        return self.joined([unknown_node(name) for name in names_in(self.goals[0][1])], size, answer)
 
     def joined(self, sides, size, answer):
         """The same behind the next goal, if terms are an answer's; None if what is asked can't be so."""
-        standing = self.terms + [term for _, terms in self.goals for term in terms]
-        first = 1 + max([-1] + names_in(standing + [term for pairs in self.unlikes for term in sides_of(pairs)]))
-        worth = numbered(names_in(answer.terms), first)
+        form = answer.form
+        standing = self.terms + [node for _, nodes in self.goals for node in nodes]
+        first = 1 + max([-1] + names_in(standing + [node for pairs in self.unlikes for node in sides_of(pairs)]))
+        worth = numbered(names_in(form.terms), first)
         bindings = Bindings()
-        if not bindings.make_same(list(zip(sides, put_in_row(answer.terms, worth)))):
+        if not bindings.make_same(list(zip(sides, put_in(form.terms, worth)))):
             return None
-        unlikes = bindings.pending(self.unlikes + [put_in_pairs(row, worth) for row in answer.inequations])
+        unlikes = bindings.pending(self.unlikes + [put_in_pairs(row, worth) for row in form.rows])
         if unlikes is None:
             return None
         return settled(bindings, self.source, self.size + size, self.terms, self.goals[1:], unlikes)
@@ -80,14 +82,14 @@ class Waiting:
 
 def settled(bindings, source, size, terms, goals, unlikes):
     """A Waiting with all that is bound put in."""
-    rows = [(relation, bindings.resolved(inner, {})) for relation, inner in goals]
-    sides = bindings.resolved([side for pairs in unlikes for side in sides_of(pairs)], {})
+    inner = [node for _, nodes in goals for node in nodes]
+    found, rows = resolved_rows(bindings, list(terms) + inner, unlikes)
     left = []
-    for pairs in unlikes:
-        many = 2 * len(pairs)
-        left.append(list(zip(sides[:many:2], sides[1:many:2])))
-        sides = sides[many:]
-    return Waiting(source, size, bindings.resolved(terms, {}), rows, left)
+    at = len(terms)
+    for relation, nodes in goals:
+        left.append((relation, found[at:at + len(nodes)]))
+        at += len(nodes)
+    return Waiting(source, size, found[:len(terms)], left, rows)
 
 
 class Source:
@@ -109,17 +111,16 @@ class Source:
         found = []
         for ready in self.readies:
             names = names_in(self.terms)
-            worth = numbered(ready.names, len(names))
-            own = put_in_row(ready.terms, worth)
+            used = ready.with_unknowns(len(names))
+            own = used.head_terms()
             bindings = Bindings()
             pairs = list(zip(own, self.terms)) if self.own else []
             unlikes = None
-            if bindings.make_same(pairs + put_in_pairs(ready.equals, worth)):
-                unlikes = bindings.pending([[pair] for pair in put_in_pairs(ready.unlikes, worth)])
+            if bindings.make_same(pairs + used.pairs_equal()):
+                unlikes = bindings.pending(used.pairs_unlike())
             if unlikes is not None:
-                goals = [(relation, put_in_row(terms, worth)) for relation, terms in ready.asked]
-                terms = [("?", at) for at in range(len(names))] if self.own else own
-                found.append(settled(bindings, self, self.own, terms, goals, unlikes))
+                terms = [unknown_node(at) for at in range(len(names))] if self.own else own
+                found.append(settled(bindings, self, self.own, terms, used.goals_asked(), unlikes))
         return found
 
     def takes(self, size, key, answer, is_short):
@@ -127,7 +128,7 @@ class Source:
         if self.known.get(key) == size or is_short and self.is_covered(key, size, answer):
             return False
         self.known[key] = size
-        if names_in(answer.terms):
+        if names_in(answer.form.terms):
             self.general.append((size, answer))
         self.found.append((size, answer))
         return True
@@ -148,6 +149,7 @@ class Growing:
         self.numbers = ways.numbers
         self.most = most
         self.is_short = is_short
+        self.shelf = Shelf()
         self.sources = {}
         self.coming = []
         self.noted = []
@@ -190,7 +192,7 @@ class Growing:
             size = one.source.ahead + one.size
             if not one.goals:
                 answer = one.comes_to()
-                key = answer_key(answer)
+                key = self.shelf.key_of(answer.form)
                 if not self.is_short or key not in one.source.known:
                     self.note(size, one.source, key, answer)
             elif size + len(one.goals) <= self.most:
@@ -202,10 +204,10 @@ class Growing:
 
     def source_for(self, goal):
         """The source of a goal."""
-        terms = put_in_row(goal[1], numbered(names_in(goal[1]), 0))
-        key = (goal[0], terms_key(terms))
+        nodes = self.shelf.copies_of(put_in(goal[1], numbered(names_in(goal[1]), 0)))
+        key = (goal[0], tuple(nodes))
         if key not in self.sources:
-            self.sources[key] = Source(terms, [self.rules[number] for number in self.numbers.get(goal[0], [])], 1)
+            self.sources[key] = Source(nodes, [self.rules[number] for number in self.numbers.get(goal[0], [])], 1)
         return self.sources[key]
 
     def most_rules(self, levels):

@@ -3,7 +3,7 @@
 from proofsizes.errors import TooLarge
 from proofsizes.programs import own_pairs, relation_goals, relation_of
 from proofsizes.sifting import sifted
-from proofsizes.terms import is_unknown, names_in, terms_key
+from proofsizes.terms import constant_key, is_unknown, names_in
 
 MOST_FACTS = 2000
 MOST_ROWS = 200000
@@ -14,7 +14,7 @@ FAR_TOO_MANY = 50000
 
 def fact_key(fact):
     """By this facts ascend: by relation, number of terms, then terms."""
-    return fact[0], len(fact[1]), terms_key(fact[1])
+    return fact[0], len(fact[1]), tuple([constant_key(term) for term in fact[1]])
 
 
 def ascending_facts(facts):

@@ -1,6 +1,6 @@
 """The least ground term of each state."""
 
-from proofsizes.terms import sign_key
+from proofsizes.terms import constant_key
 
 
 class Least:
@@ -14,7 +14,7 @@ class Least:
 
     def order_key(self, ranks):
         """By this such terms ascend, when the least terms of their parts have ranks in the order of terms."""
-        head = (3, len(self.inner), self.name) if self.inner else sign_key(self.name)
+        head = (3, len(self.inner), self.name) if self.inner else constant_key(self.name)
         return head, tuple([ranks[state] for state in self.inner])
 
 

@@ -1,6 +1,7 @@
 """Terms in classes of those that are the same, and the steps from equations to any two of a class."""
 
-from proofsizes.terms import is_compound, is_unknown, parts_of
+from proofsizes.nodes import terms_of, unlike_nodes
+from proofsizes.shelves import Shelf
 
 
 class Linked:
@@ -12,39 +13,27 @@ class Linked:
     """
 
     def __init__(self):
+        self.shelf = Shelf()
         self.numbers = {}
-        self.terms = []
+        self.nodes = []
         self.heads = []
         self.inner = []
         self.leaders = []
         self.links = []
         self.edges = []
 
-    def number_of(self, term):
+    def number_of(self, node):
         """The number of a term; terms that are the same as they stand have one number."""
-        built = []
-        for part in reversed(parts_of(term)):
-            if is_compound(part):
-                many = len(part[1])
-                inner = tuple(built[-many:][::-1])
-                del built[-many:]
-                built.append(self.number_for((part[0], inner), part, (part[0], many), inner))
-            elif is_unknown(part):
-                built.append(self.number_for(part, part, None, ()))
-            else:
-                built.append(self.number_for(("", part), part, ("", part), ()))
-        return built[0]
-
-    def number_for(self, key, term, head, inner):
-        """The number of what a key tells, a new one if there is none yet."""
-        if key not in self.numbers:
-            self.numbers[key] = len(self.terms)
-            self.leaders.append(len(self.terms))
-            self.terms.append(term)
-            self.heads.append(head)
-            self.inner.append(inner)
-            self.links.append([])
-        return self.numbers[key]
+        kept = self.shelf.copies_of([node])
+        for part in unlike_nodes(kept):
+            if part not in self.numbers:
+                self.numbers[part] = len(self.nodes)
+                self.leaders.append(len(self.nodes))
+                self.nodes.append(part)
+                self.heads.append(head_of(part))
+                self.inner.append(tuple([self.numbers[one] for one in part.inner or ()]))
+                self.links.append([])
+        return self.numbers[kept[0]]
 
     def leader(self, number):
         """The leader of a term's class."""
@@ -76,6 +65,13 @@ class Linked:
             found.append((edge, self.edges[edge][0] == at))
             other = at
         return found[::-1]
+
+
+def head_of(node):
+    """A compound's name and number of parts, or "" and a constant; None of an unknown."""
+    if node.inner is None:
+        return None
+    return (node.name, len(node.inner)) if node.inner else ("", node.name)
 
 
 class Paper:
@@ -131,7 +127,7 @@ class Paper:
     def same_step(self, one):
         """The number of a step to the equation of a term and itself."""
         if one not in self.same:
-            self.same[one] = self.write(("same", self.linked.terms[one]))
+            self.same[one] = self.write(("same", terms_of([self.linked.nodes[one]])[0]))
         return self.same[one]
 
 

@@ -4,12 +4,17 @@ from proofsizes.errors import BadTerm, TooLarge
 from proofsizes.fitting import fitted, repeated_names
 from proofsizes.kinds import Clause, Round
 from proofsizes.leastterms import least_terms_of
+from proofsizes.nodes import names_in, unlike_nodes
 from proofsizes.regular import set_of_states, states_of_set
-from proofsizes.shallow import is_dict_of_ground_terms
+from proofsizes.shallow import states_told
+from proofsizes.sharing import are_same_dicts
+from proofsizes.shelves import Shelf
 from proofsizes.states import States, power
-from proofsizes.terms import as_dict, is_compound, is_term, is_unknown, names_in, parts_of, put_in, unknown_text
+from proofsizes.terms import as_dict, is_term, is_unknown, unknown_text
 
 MOST_WAYS = 20000
+# With so many parts a ground term has far more types than may be, and they need not be told one by one.
+FAR_TOO_MANY = 500
 
 
 class AllIn:
@@ -36,14 +41,15 @@ class NotIn:
         return False
 
     def __eq__(self, other):
-        return isinstance(other, NotIn) and self.terms == other.terms
+        return isinstance(other, NotIn) and are_same_dicts(self.terms, other.terms)
 
     def shows(self, one, pattern):
         """Whether these terms are for just the unknowns, and it is so by them."""
         check_pattern(pattern)
-        if not is_dict_of_ground_terms(self.terms, names_in([pattern])):
-            return False
-        return not one.has(put_in(pattern, self.terms))
+        node = Shelf().node_of(pattern)
+        states = states_of_set(one)
+        values = states_told(states, self.terms, names_in([node]))
+        return values is not None and states.of_node(node, values) not in one.good
 
 
 def check_pattern(pattern):
@@ -69,10 +75,11 @@ def terms_by_which(one, pattern, lets):
     """A dict of ground terms for a term's unknowns by which it has one of some states; None without any."""
     states = states_of_set(one)
     least = least_terms_of(states)
-    ways = power(len(least), len(names_in([pattern])))
+    node = Shelf().node_of(pattern)
+    ways = power(len(least), len(names_in([node])))
     if ways > MOST_WAYS:
         raise TooLarge(ways)
-    worth = fitted(states, [(pattern, {state: True for state in lets})], list(least))
+    worth = fitted(states, [(node, {state: True for state in lets})], list(least))
     if worth is None:
         return None
     return {name: least[worth[name]] for name in sorted(worth, key=unknown_text)}
@@ -80,34 +87,40 @@ def terms_by_which(one, pattern, lets):
 
 def instances_set(pattern):
     """The set of the ground instances of a term in which no unknown stands twice."""
-    if not is_term(pattern) or repeated_names([pattern]):
+    if not is_term(pattern):
+        raise BadTerm(None)
+    node = Shelf().node_of(pattern)
+    if repeated_names([node]):
         raise BadTerm(None)
     if is_unknown(pattern):
         return set_of_states(States(1, {}, 0, {}, 0), [0])
-    clauses, root = clauses_for(pattern)
+    check_parts(node)
+    clauses, root = clauses_for(node)
     found = Round(clauses, [])
     found.check_size()
     return set_of_states(found.as_states(), [at for at, labels in enumerate(found.types_met()) if root in labels])
 
 
-def clauses_for(pattern):
+def check_parts(root):
+    """Raises TooLarge for a term with far too many unlike ground parts: each is of a type of its own."""
+    many = len([node for node in unlike_nodes([root]) if node.is_ground])
+    if many > FAR_TOO_MANY:
+        raise TooLarge(many + 1)
+
+
+def clauses_for(root):
     """The clauses by which ground terms have labels for the parts of a term that they are instances of, and its own."""
     clauses = []
     labels = {}
-    built = []
-    for part in reversed(parts_of(pattern)):
-        if is_unknown(part):
-            built.append(None)
-            continue
-        inner = ()
-        if is_compound(part):
-            many = len(part[1])
-            inner = tuple(built[-many:][::-1])
-            del built[-many:]
-        key = (part[0], many) if inner else ("", part)
-        if (key, inner) not in labels:
-            labels[key, inner] = len(clauses)
-            parts = [[] if label is None else [label] for label in inner]
-            clauses.append(Clause(len(clauses), key, parts, []))
-        built.append(labels[key, inner])
-    return clauses, built[0]
+    built = {}
+    for node in unlike_nodes([root]):
+        built[node] = None
+        if node.inner is not None:
+            inner = tuple([built[part] for part in node.inner])
+            key = (node.name, len(inner)) if inner else ("", node.name)
+            if (key, inner) not in labels:
+                labels[key, inner] = len(clauses)
+                parts = [[] if label is None else [label] for label in inner]
+                clauses.append(Clause(len(clauses), key, parts, []))
+            built[node] = labels[key, inner]
+    return clauses, built[root]

@@ -1,6 +1,7 @@
 """Rules, programs of them, and questions."""
 
 from proofsizes.errors import BadQuestion, BadRule
+from proofsizes.sharing import FEW_STEPS, are_same_rows
 from proofsizes.terms import is_integer, is_name, is_pair, is_row, is_row_of_terms
 
 MOST_TERMS = 6
@@ -21,7 +22,9 @@ class Rule:
         self.goals = tuple([kept_goal(goal) for goal in goals])
 
     def __eq__(self, other):
-        return isinstance(other, Rule) and self.head == other.head and self.goals == other.goals
+        if not isinstance(other, Rule):
+            return False
+        return are_same_rows((self.head,) + self.goals, (other.head,) + other.goals, FEW_STEPS)
 
 
 class Program:
@@ -51,7 +54,9 @@ class Question:
         self.goals = tuple([kept_goal(goal) for goal in goals])
 
     def __eq__(self, other):
-        return isinstance(other, Question) and self.terms == other.terms and self.goals == other.goals
+        if not isinstance(other, Question):
+            return False
+        return are_same_rows(self.terms, other.terms, FEW_STEPS) and are_same_rows(self.goals, other.goals, FEW_STEPS)
 
 
 def is_count(thing):

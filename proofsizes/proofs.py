@@ -3,7 +3,7 @@
 from proofsizes.composing import composed_answer
 from proofsizes.errors import BadQuestion
 from proofsizes.programs import relation_goals, relation_of
-from proofsizes.sharing import MOST_STEPS, unlike_parts
+from proofsizes.sharing import MOST_STEPS, hide_truth_value, unlike_parts
 from proofsizes.terms import as_tuple, is_number_below
 from proofsizes.ways import Ways
 
@@ -41,7 +41,12 @@ def answer_of(program, question, proofs):
     """The Answer that proofs of a question have; None if what they ask can't be so."""
     if not are_proofs(program, question, proofs):
         raise BadQuestion("proofs")
-    if proofs_size(proofs) > MOST_STEP_BY_STEP:
+    return answer_with_size(program, question, proofs, proofs_size(proofs))
+
+
+def answer_with_size(program, question, proofs, size):
+    """The Answer that proofs with so many rules have; None if what they ask can't be so."""
+    if size > MOST_STEP_BY_STEP:
         return composed_answer(program, question, proofs)
     ways = Ways(program, question)
     way = ways.first()
@@ -70,6 +75,8 @@ def numbers_in(proofs):
 def are_proofs(program, question, thing):
     """Whether a thing is a tuple with a tree for each relation goal of a question."""
     parts, numbers = unlike_parts([thing], MOST_STEPS)
+    if hide_truth_value([thing], parts, numbers):
+        return False
     relations = []
     for inner, _ in parts:
         relations.append(relation_of_part(program, parts, relations, inner))

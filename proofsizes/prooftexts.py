@@ -2,10 +2,10 @@
 
 from proofsizes.errors import BadQuestion
 from proofsizes.lexing import BadText, words_of
+from proofsizes.nodes import names_in, numbered, put_in, terms_of
 from proofsizes.programs import relation_goals, relation_of
 from proofsizes.proofs import are_proofs, numbers_in
 from proofsizes.reading import Reader, refuse
-from proofsizes.terms import names_in, numbered, put_in_row
 from proofsizes.texts import relation_text
 from proofsizes.ways import Ways
 
@@ -46,12 +46,12 @@ def used_heads(program, question, proofs):
         way = ways.behind(way, 0, number)
     if way is None:
         return None
-    rows = ways.bindings.resolved(list(ways.terms) + [term for goal in used for term in goal.terms], {})
-    rows = put_in_row(rows, numbered(names_in(rows), 0))
+    nodes = ways.bindings.resolved(list(ways.terms) + [node for goal in used for node in goal.terms], {})
+    terms = terms_of(put_in(nodes, numbered(names_in(nodes), 0)))
     heads = []
     at = len(ways.terms)
     for goal in used:
-        heads.append((goal.level - 1, (goal.relation[0], tuple(rows[at:at + len(goal.terms)]))))
+        heads.append((goal.level - 1, (goal.relation[0], tuple(terms[at:at + len(goal.terms)]))))
         at += len(goal.terms)
     return heads
 

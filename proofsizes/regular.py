@@ -8,7 +8,7 @@ from proofsizes.pairing import Pairs
 from proofsizes.parting import least_states, parting_contexts
 from proofsizes.shallow import rounds_for
 from proofsizes.sharedterms import SharedTerms
-from proofsizes.sharing import are_same_dicts
+from proofsizes.sharing import FEW_STEPS, are_same, are_same_dicts, hide_truth_value
 from proofsizes.states import MOST_STATES, States, are_states_of_constants, are_tables, copied_tables
 from proofsizes.states import is_dict_of_constants, is_many, lead_to_states, power, rows_of
 from proofsizes.terms import as_dict, is_ground_term, is_number_below, is_row
@@ -143,7 +143,7 @@ class InOne:
         return False
 
     def __eq__(self, other):
-        return isinstance(other, InOne) and self.term == other.term
+        return isinstance(other, InOne) and are_same([(self.term, other.term)], FEW_STEPS)
 
     def shows(self, one, other):
         """Whether it is so."""
@@ -199,7 +199,10 @@ def is_pair_of_states(thing, many):
 
 def have_states(one, terms, parting):
     """Whether ground terms have their states in a set, and contexts are in it with terms of one of two states alone."""
-    shared = SharedTerms([terms[state] for state in terms] + [parting[pair] for pair in parting])
+    things = [terms[state] for state in terms] + [parting[pair] for pair in parting]
+    shared = SharedTerms(things)
+    if hide_truth_value(things, shared.parts, shared.numbers):
+        return False
     # What stands in a context for its unknown may have any of the states.
     found = [shared.states_by(states_of_set(one), {0: state}) for state in range(one.many)]
     numbers = shared.numbers[:len(terms)]

@@ -1,13 +1,14 @@
 """Answers by the sizes of their proofs, and whether a question is spent."""
 
-from proofsizes.answers import Answer, answer_key
+from proofsizes.answers import Answer, ascending_answers
 from proofsizes.covering import judge_covered
 from proofsizes.finding import MOST_IN_TURN, OfLevels, OfSize, Sizes, found_proofs, spent_behind
 from proofsizes.growing import told_by_sizes
 from proofsizes.opening import is_open_behind
 from proofsizes.programs import check_count, is_count
-from proofsizes.proofs import answer_of, are_proofs, proofs_size
-from proofsizes.sharing import are_same_rows
+from proofsizes.proofs import answer_with_size, are_proofs, proofs_size
+from proofsizes.sharing import MOST_STEPS, are_same_rows
+from proofsizes.shelves import Shelf
 from proofsizes.terms import as_tuple, is_integer
 from proofsizes.ways import Ways
 
@@ -25,7 +26,7 @@ class Answered:
             return False
         if self.answer != other.answer or self.size != other.size:
             return False
-        return are_same_rows(self.proofs, other.proofs)
+        return are_same_rows(self.proofs, other.proofs, MOST_STEPS)
 
     def shows(self, program, question):
         """Whether the proofs are of the size and have the answer."""
@@ -33,7 +34,7 @@ class Answered:
             return False
         if not are_proofs(program, question, self.proofs) or proofs_size(self.proofs) != self.size:
             return False
-        return answer_of(program, question, self.proofs) == self.answer
+        return answer_with_size(program, question, self.proofs, self.size) == self.answer
 
 
 class Spent:
@@ -117,15 +118,16 @@ def told_at(program, question, size, told):
 
 def told_newly(rows, told):
     """The list of what is told of proofs of one size behind what is told ahead."""
+    shelf = Shelf()
     first = {}
     for (size, _), proofs, answer in rows:
-        first.setdefault(answer_key(answer), Answered(answer, size, proofs))
+        first.setdefault(shelf.key_of(answer.form), Answered(answer, size, proofs))
     new = []
     answers = [one.answer for one in told]
-    for key in sorted(first):
-        if not judge_covered(first[key].answer, answers):
-            new.append(first[key])
-            answers.append(first[key].answer)
+    for answer in ascending_answers([one.answer for one in list(first.values())]):
+        if not judge_covered(answer, answers):
+            new.append(first[shelf.key_of(answer.form)])
+            answers.append(answer)
     return new
 
 

@@ -1,10 +1,10 @@
 """Desks: a program and a question that change step by step, what is told of them, and the way back."""
 
-from proofsizes.answers import answer_key
 from proofsizes.errors import BadRule, RelationError
 from proofsizes.programs import Program
 from proofsizes.proofs import numbers_in
 from proofsizes.searching import answered, told_at
+from proofsizes.shelves import Shelf
 from proofsizes.terms import is_number_below
 
 
@@ -82,5 +82,6 @@ class Desk:
 
 def unlike_told(told, others):
     """The list of what is told whose answers others don't have."""
-    known = {answer_key(one.answer): True for one in others}
-    return [one for one in told if answer_key(one.answer) not in known]
+    shelf = Shelf()
+    known = {shelf.key_of(one.answer.form): True for one in others}
+    return [one for one in told if shelf.key_of(one.answer.form) not in known]

@@ -7,8 +7,10 @@ from proofsizes.kinds import Clause, rounds_of
 from proofsizes.leastterms import least_terms_of
 from proofsizes.models import Model
 from proofsizes.programs import OWN_NAMES
-from proofsizes.solving import is_dict_of_terms
-from proofsizes.terms import as_dict, has_unknown, is_compound, is_ground_term, is_term, is_unknown, names_in, put_in
+from proofsizes.sharing import are_same_dicts
+from proofsizes.shelves import Shelf
+from proofsizes.solving import dict_if_terms
+from proofsizes.terms import as_dict, has_unknown, is_compound, is_term, is_unknown, names_in
 from proofsizes.terms import unknown_text
 
 
@@ -29,26 +31,27 @@ class Has:
         return True
 
     def __eq__(self, other):
-        return isinstance(other, Has) and self.terms == other.terms
+        return isinstance(other, Has) and are_same_dicts(self.terms, other.terms)
 
     def shows(self, program, question):
         """Whether these terms are for just the unknowns, and it is so by them."""
         found = asked_round(program, question)
-        if not is_dict_of_ground_terms(self.terms, asked_names(question)):
-            return False
         states = found.as_states()
         types_met = found.types_met()
-        for name, terms in question.goals:
-            if name not in types_met[states.of_term(put_in(terms[0], self.terms), {})]:
-                return False
-        return True
+        values = states_told(states, self.terms, asked_names(question))
+        if values is None:
+            return False
+        return all([name in types_met[states.of_term(terms[0], values)] for name, terms in question.goals])
 
 
-def is_dict_of_ground_terms(thing, names):
-    """Whether a thing is a dict from just some names of unknowns to ground terms."""
-    if not is_dict_of_terms(thing) or len(thing) != len(names) or not all([name in thing for name in names]):
-        return False
-    return all([is_ground_term(thing[name]) for name in thing])
+def states_told(states, thing, names):
+    """The dict from names to the states of a dict's ground terms; None for what is no dict from just these names."""
+    worth = dict_if_terms(Shelf(), thing)
+    if worth is None or len(worth) != len(names) or not all([name in worth for name in names]):
+        return None
+    if not all([worth[name].is_ground for name in worth]):
+        return None
+    return {name: states.of_node(worth[name], {}) for name in worth}
 
 
 def is_shallow(rule):
@@ -153,7 +156,8 @@ def judge_shallow(program, question):
     types_met = found.types_met()
     asked = []
     for name, terms in question.goals:
-        asked.append((terms[0], {at: True for at, labels in enumerate(types_met) if name in labels}))
+        lets = {at: True for at, labels in enumerate(types_met) if name in labels}
+        asked.append((Shelf().node_of(terms[0]), lets))
     states = found.as_states()
     worth = fitted(states, asked, list(range(states.many)))
     if worth is None:

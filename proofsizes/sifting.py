@@ -6,8 +6,10 @@ rows come of it, so no row is begun that comes to none.
 """
 
 from proofsizes.bindings import bound_by
+from proofsizes.nodes import dict_of_terms
 from proofsizes.programs import own_pairs, relation_goals, relation_of
-from proofsizes.terms import is_unknown, names_in, put_in_pairs, put_in_row
+from proofsizes.shelves import Shelf
+from proofsizes.terms import is_unknown, names_in
 
 
 class Sieve:
@@ -156,14 +158,15 @@ def looked_in(lookup, row):
 
 def sifted(goals, names, facts, most):
     """The list of all rows of constants for names of unknowns by which goals are so; None for more than most."""
-    bound = bound_by(own_pairs(goals, "equal"))
-    if bound is None:
+    solved = bound_by(Shelf().pairs_of(own_pairs(goals, "equal")))
+    if solved is None:
         return []
-    unlikes = put_in_pairs(own_pairs(goals, "unlike"), bound)
+    bound = dict_of_terms(solved)
+    unlikes = [tuple(placed_in(pair, bound)) for pair in own_pairs(goals, "unlike")]
     if any([one == other for one, other in unlikes]):
         return []
     unlikes = [pair for pair in unlikes if names_in(pair)]
-    sieves = [Sieve(put_in_row(goal[1], bound), facts.all_rows(relation_of(goal))) for goal in relation_goals(goals)]
+    sieves = [Sieve(placed_in(goal[1], bound), facts.all_rows(relation_of(goal))) for goal in relation_goals(goals)]
     domains = narrowed(sieves)
     plan = Plan(sieves, domains, [names_in(pair) for pair in unlikes])
     steps = steps_for(sieves, plan, unlikes)
@@ -173,6 +176,11 @@ def sifted(goals, names, facts, most):
     told = [name for step in steps for name in step.fresh]
     lookups = [lookup_in(bound.get(name, ("?", name)), told) for name in names]
     return [tuple([looked_in(lookup, row) for lookup in lookups]) for row in rows]
+
+
+def placed_in(terms, bound):
+    """The list of terms, which are no compounds, with those of a dict in place of the unknowns that it names."""
+    return [bound.get(term[1], term) if is_unknown(term) else term for term in terms]
 
 
 def narrowed(sieves):

@@ -2,10 +2,11 @@
 
 from proofsizes.bindings import bound_by
 from proofsizes.errors import BadTerm
+from proofsizes.nodes import are_headed_alike, dict_of_terms, unlike_nodes
 from proofsizes.refuting import refuted
-from proofsizes.sharing import are_same_dicts
-from proofsizes.terms import as_dict, as_tuple, is_compound, is_deep_term, is_integer, is_number_below
-from proofsizes.terms import is_pair, is_row, is_unknown, is_unknown_name, have_like_heads, parts_of
+from proofsizes.sharing import FEW_STEPS, are_same_dicts, are_same_rows
+from proofsizes.shelves import Shelf
+from proofsizes.terms import as_dict, as_tuple, is_integer, is_number_below, is_pair, is_row, is_unknown_name
 
 
 class Solved:
@@ -22,11 +23,13 @@ class Solved:
 
     def shows(self, equations):
         """Whether the equations are solved just so."""
-        check_equations(equations)
-        if not is_dict_of_terms(self.bound):
+        shelf = Shelf()
+        pairs = given_pairs(shelf, equations)
+        told = dict_if_terms(shelf, self.bound)
+        bound = bound_by(pairs)
+        if told is None or bound is None or list(bound) != list(told):
             return False
-        bound = bound_by(equations)
-        return bound is not None and list(bound) == list(self.bound) and are_same_dicts(bound, self.bound)
+        return shelf.copies_of([bound[name] for name in bound]) == [told[name] for name in bound]
 
 
 class Unsolved:
@@ -40,12 +43,14 @@ class Unsolved:
         return False
 
     def __eq__(self, other):
-        return isinstance(other, Unsolved) and self.steps == other.steps and self.ring == other.ring
+        if not isinstance(other, Unsolved):
+            return False
+        return are_same_rows(self.steps, other.steps, FEW_STEPS) and are_same_rows(self.ring, other.ring, FEW_STEPS)
 
     def shows(self, equations):
         """Whether the steps lead from the equations to what can't be so."""
-        check_equations(equations)
-        pairs = led_by(self.steps, equations)
+        # On a shelf the same terms are one node, so steps can be joined by it.
+        pairs = led_by(self.steps, given_pairs(Shelf(), equations))
         if not pairs or not isinstance(self.ring, tuple):
             return False
         if self.ring == ():
@@ -57,32 +62,34 @@ class Unsolved:
 
 def solve(equations):
     """A Solved, or an Unsolved, of a row of pairs of terms."""
-    check_equations(equations)
-    bound = bound_by(equations)
+    pairs = given_pairs(Shelf(), equations)
+    bound = bound_by(pairs)
     if bound is not None:
-        return Solved(bound)
-    steps, ring = refuted(equations)
+        return Solved(dict_of_terms(bound))
+    steps, ring = refuted(pairs)
     return Unsolved(steps, ring)
 
 
-def check_equations(equations):
-    """Raises BadTerm for what is no row of pairs of terms."""
+def given_pairs(shelf, equations):
+    """The list of the pairs of nodes of equations; raises BadTerm for what is no row of pairs of terms."""
     if not is_row(equations):
         raise BadTerm(None)
-    for place, pair in enumerate(equations):
-        if not is_pair(pair):
-            raise BadTerm(place)
+    rows = shelf.rows_if_terms([equations])
+    if rows is None:
+        raise BadTerm([is_pair(pair) for pair in equations].index(False))
+    return rows[0]
 
 
-def is_dict_of_terms(thing):
-    """Whether a thing is a dict from names of unknowns to terms."""
-    if not isinstance(thing, dict):
-        return False
-    return all([is_unknown_name(name) and is_deep_term(thing[name]) for name in thing])
+def dict_if_terms(shelf, thing):
+    """The dict of the nodes of a dict from names of unknowns to terms; None for what is none."""
+    if not isinstance(thing, dict) or not all([is_unknown_name(name) for name in thing]):
+        return None
+    nodes = shelf.nodes_if_terms([thing[name] for name in thing], None)
+    return None if nodes is None else {name: node for name, node in zip(list(thing), nodes)}
 
 
 def led_by(steps, equations):
-    """The list of the pairs that steps lead to; None if they aren't such steps."""
+    """The list of the pairs of nodes that steps lead to from such; None if they aren't such steps."""
     if not isinstance(steps, tuple):
         return None
     pairs = []
@@ -123,24 +130,22 @@ def led_to(step, equations, pairs):
 
 def led_inside(one, other, at):
     """The pair of the parts with a number of two compounds that are alike; None if there is none."""
-    if not is_compound(one) or not have_like_heads(one, other):
+    if not one.inner or not are_headed_alike(one, other):
         return None
-    return (one[1][at], other[1][at]) if is_number_below(at, len(one[1])) else None
+    return (one.inner[at], other.inner[at]) if is_number_below(at, len(one.inner)) else None
 
 
 def is_clash(pair):
     """Whether both sides are no unknowns, with unlike heads."""
     one, other = pair
-    if is_unknown(one) or is_unknown(other):
+    if one.inner is None or other.inner is None:
         return False
-    if is_compound(one):
-        return not have_like_heads(one, other)
-    return one != other
+    return not are_headed_alike(one, other)
 
 
 def is_ring(pairs):
     """Whether first sides are unknowns, each in the second side of the pair ahead, round."""
     for at, (one, _) in enumerate(pairs):
-        if not is_unknown(one) or one not in parts_of(pairs[at - 1][1]):
+        if one.inner is not None or one not in unlike_nodes([pairs[at - 1][1]]):
             return False
-    return any([is_compound(other) for _, other in pairs])
+    return any([other.inner for _, other in pairs])

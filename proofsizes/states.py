@@ -1,10 +1,9 @@
 """States of all ground terms, by tables, and rows of the states of terms that goals ask."""
 
+from proofsizes.nodes import unlike_nodes
 from proofsizes.programs import OWN_NAMES, relation_of
-from proofsizes.sharedterms import SharedTerms
-from proofsizes.sharing import FEW_STEPS
-from proofsizes.terms import is_compound, is_constant, is_integer, is_name, is_number_below, is_unknown, parts_of
-from proofsizes.terms import parts_up_to
+from proofsizes.shelves import Shelf
+from proofsizes.terms import is_constant, is_integer, is_name, is_number_below, is_unknown
 
 MOST_STATES = 16
 
@@ -34,28 +33,18 @@ class States:
 
     def of_term(self, term, values):
         """The state of a term, by a dict from its unknowns, or their names, to states."""
-        parts = parts_up_to(term, FEW_STEPS)
-        if parts is None:
-            return self.of_shared_term(term, values)
-        built = []
-        for part in reversed(parts):
-            if is_compound(part):
-                many = len(part[1])
-                inner = tuple(built[-many:][::-1])
-                del built[-many:]
-                built.append(self.of_compound(part[0], inner))
-            elif is_unknown(part):
-                built.append(values[part[1]] if part[1] in values else values[part])
-            else:
-                built.append(self.of_constant(part))
-        return built[0]
-
-
-    def of_shared_term(self, term, values):
-        """The same for a term with many parts, which may be shared."""
-        shared = SharedTerms([term])
         worth = {key[1] if is_unknown(key) else key: values[key] for key in values}
-        return shared.states_by(self, worth)[shared.numbers[0]]
+        return self.of_node(Shelf().node_of(term), worth)
+
+    def of_node(self, root, worth):
+        """The state of a term's node, by a dict from names of unknowns to states."""
+        found = {}
+        for node in unlike_nodes([root]):
+            if node.inner:
+                found[node] = self.of_compound(node.name, tuple([found[part] for part in node.inner]))
+            else:
+                found[node] = worth[node.name] if node.inner is None else self.of_constant(node.name)
+        return found[root]
 
 
 def power(base, many):
@@ -143,31 +132,30 @@ class Columns:
 
     def column_of(self, term):
         """The number of a term's column; it and those of its parts are added where they lack."""
-        built = []
-        for part in reversed(parts_of(term)):
-            if is_compound(part):
-                many = len(part[1])
-                inner = tuple(built[-many:][::-1])
-                del built[-many:]
-                built.append(self.compound_column(part[0], inner))
-            elif is_unknown(part):
-                built.append(self.unknown_column(part))
+        built = {}
+        root = Shelf().node_of(term)
+        for node in unlike_nodes([root]):
+            if node.inner:
+                built[node] = self.compound_column(node.name, tuple([built[part] for part in node.inner]))
+            elif node.inner is None:
+                built[node] = self.unknown_column(node.name)
             else:
-                built.append(self.constant_column(part))
-        return built[0]
+                built[node] = self.constant_column(node.name)
+        return built[root]
 
-    def unknown_column(self, part):
+    def unknown_column(self, name):
         """The column of an unknown, which may have each state."""
-        if part not in self.numbers:
-            self.rows = [row + (state,) for row in self.rows for state in range(self.tables.many)]
-            self.numbers[part] = len(self.numbers)
-        return self.numbers[part]
-
-    def constant_column(self, part):
-        """The column of a constant."""
-        key = ("", part)
+        key = ("?", name)
         if key not in self.numbers:
-            state = self.tables.of_constant(part)
+            self.rows = [row + (state,) for row in self.rows for state in range(self.tables.many)]
+            self.numbers[key] = len(self.numbers)
+        return self.numbers[key]
+
+    def constant_column(self, constant):
+        """The column of a constant."""
+        key = ("", constant)
+        if key not in self.numbers:
+            state = self.tables.of_constant(constant)
             self.rows = [row + (state,) for row in self.rows]
             self.numbers[key] = len(self.numbers)
         return self.numbers[key]

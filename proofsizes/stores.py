@@ -2,10 +2,12 @@
 
 from proofsizes.bindings import bound_by
 from proofsizes.errors import BadTerm
+from proofsizes.nodes import are_alike, ascending_names, dict_of_terms, put_in, put_in_pairs, unknown_node
+from proofsizes.nodes import unlike_constants
 from proofsizes.sharing import are_same_dicts
-from proofsizes.solving import Unsolved, check_equations, is_dict_of_terms, solve
-from proofsizes.terms import are_alike, as_dict, ascending_names, is_ground_term, is_number_below, is_row
-from proofsizes.terms import is_row_of_pairs, name_key, put_in_pairs, put_in_row, sides_of, unlike_constants
+from proofsizes.shelves import Shelf, sides_of_rows
+from proofsizes.solving import Unsolved, dict_if_terms, given_pairs, solve
+from proofsizes.terms import as_dict, is_number_below, is_row, is_row_of_pairs, name_key
 
 
 class Valued:
@@ -22,16 +24,16 @@ class Valued:
 
     def shows(self, equations, inequations):
         """Whether these terms are for just the unknowns, and fulfil all."""
-        check_store(equations, inequations)
-        if not is_dict_of_terms(self.ground):
+        shelf = Shelf()
+        pairs, rows = given_store(shelf, equations, inequations)
+        worth = dict_if_terms(shelf, self.ground)
+        if worth is None or not all([worth[name].is_ground for name in worth]):
             return False
-        if not all([is_ground_term(self.ground[name]) for name in self.ground]):
+        if sorted(worth, key=name_key) != ascending_names(sides_of_rows([pairs] + rows)):
             return False
-        if sorted(self.ground, key=name_key) != ascending_names(terms_of(equations, inequations)):
+        if not are_alike(put_in_pairs(pairs, worth)):
             return False
-        if not are_alike(put_in_pairs(equations, self.ground)):
-            return False
-        return not any([are_alike(put_in_pairs(pairs, self.ground)) for pairs in inequations])
+        return not any([are_alike(put_in_pairs(row, worth)) for row in rows])
 
 
 class NoValues:
@@ -49,41 +51,42 @@ class NoValues:
 
     def shows(self, equations, inequations):
         """Whether the equations, or the inequation with the number, can't be so."""
-        check_store(equations, inequations)
+        pairs, rows = given_store(Shelf(), equations, inequations)
         if self.number is None:
             return isinstance(self.paper, Unsolved) and self.paper.shows(equations)
-        if self.paper is not None or not is_number_below(self.number, len(inequations)):
+        if self.paper is not None or not is_number_below(self.number, len(rows)):
             return False
-        bound = bound_by(equations)
-        return bound is not None and are_alike(put_in_pairs(inequations[self.number], bound))
+        return always_fails(pairs, rows[self.number])
 
 
 def judge_values(equations, inequations):
     """A Valued, or a NoValues, of equations and inequations."""
-    check_store(equations, inequations)
-    bound = bound_by(equations)
+    pairs, rows = given_store(Shelf(), equations, inequations)
+    bound = bound_by(pairs)
     if bound is None:
         return NoValues(None, solve(equations))
-    for number, pairs in enumerate(inequations):
-        if are_alike(put_in_pairs(pairs, bound)):
+    for number, row in enumerate(rows):
+        if are_alike(put_in_pairs(row, bound)):
             return NoValues(number, None)
-    terms = terms_of(equations, inequations)
-    names = ascending_names(terms)
-    free = unlike_constants([name for name in names if name not in bound], terms)
-    terms = put_in_row([bound.get(name, ("?", name)) for name in names], free)
-    return Valued({name: term for name, term in zip(names, terms)})
+    nodes = sides_of_rows([pairs] + rows)
+    names = ascending_names(nodes)
+    free = unlike_constants([name for name in names if name not in bound], nodes)
+    worth = put_in([bound.get(name, unknown_node(name)) for name in names], free)
+    return Valued(dict_of_terms({name: node for name, node in zip(names, worth)}))
 
 
-def check_store(equations, inequations):
-    """Raises BadTerm for what are no equations, or no inequations."""
-    check_equations(equations)
+def always_fails(equations, pairs):
+    """Whether equations can be solved, and both sides of all of some pairs of nodes are the same then."""
+    bound = bound_by(equations)
+    return bound is not None and are_alike(put_in_pairs(pairs, bound))
+
+
+def given_store(shelf, equations, inequations):
+    """The pairs of nodes of equations, and the rows of those of inequations; raises BadTerm for what are none."""
+    pairs = given_pairs(shelf, equations)
     if not is_row(inequations):
         raise BadTerm(None)
-    for place, pairs in enumerate(inequations):
-        if not is_row_of_pairs(pairs):
-            raise BadTerm(place)
-
-
-def terms_of(equations, inequations):
-    """All terms that are sides of pairs."""
-    return sides_of(equations) + [term for pairs in inequations for term in sides_of(pairs)]
+    rows = shelf.rows_if_terms(inequations)
+    if rows is None:
+        raise BadTerm([is_row_of_pairs(row) for row in inequations].index(False))
+    return pairs, rows

@@ -1,8 +1,8 @@
 """Answers as they come: ways that are gone from the left, in turns, or so many steps each."""
 
-from proofsizes.answers import answer_key
 from proofsizes.programs import check_count
-from proofsizes.sharing import are_same_rows
+from proofsizes.sharing import MOST_STEPS, are_same_rows
+from proofsizes.shelves import Shelf
 from proofsizes.terms import as_tuple, sides_of
 from proofsizes.ways import Ways, trees_of
 
@@ -20,7 +20,7 @@ class Came:
             return False
         if self.steps != other.steps or self.is_over != other.is_over:
             return False
-        return are_same_rows(self.proofs, other.proofs)
+        return are_same_rows(self.proofs, other.proofs, MOST_STEPS)
 
 
 def from_left(program, question, steps):
@@ -105,6 +105,7 @@ def open_answers(program, question, levels):
     """The list of the unlike answers of the ways behind so many steps each, as if nothing were open."""
     check_count(levels, "levels")
     ways = Ways(program, question)
+    shelf = Shelf()
     found = {}
     waiting = []
     way = ways.first()
@@ -113,6 +114,6 @@ def open_answers(program, question, levels):
             waiting.extend(choices(ways, way))
         elif way is not None:
             answer = ways.answer_behind(way)
-            found.setdefault(answer_key(answer), answer)
+            found.setdefault(shelf.key_of(answer.form), answer)
         way = next_way(ways, waiting)
     return list(found.values())

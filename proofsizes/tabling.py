@@ -1,14 +1,14 @@
 """The told list by tables: each goal that comes up, up to names of unknowns, is gone through once for a size."""
 
-from proofsizes.answers import answer_key
 from proofsizes.bindings import Bindings
 from proofsizes.covering import is_inside
 from proofsizes.finding import MOST_IN_TURN, Sizes
 from proofsizes.forward import Stage
 from proofsizes.growing import Telling, told_by_sizes
 from proofsizes.meeting import resolved_answer
+from proofsizes.nodes import names_in, numbered, put_in, put_in_pairs, unknown_node
 from proofsizes.programs import check_count
-from proofsizes.terms import names_in, numbered, put_in_pairs, put_in_row, terms_key
+from proofsizes.shelves import Shelf
 from proofsizes.ways import Ways
 
 
@@ -50,13 +50,13 @@ class Call:
 
     def keep(self, size, found, is_short):
         """Keeps the answers of the next size; in short tables without those that one of smaller sizes covers."""
-        kept = [found[key] for key in found if not (is_short and self.is_covered(key, found[key]))]
+        kept = [key for key in found if not (is_short and self.is_covered(key, found[key]))]
         if kept:
-            self.rows[size] = kept
-        for answer in kept if is_short else []:
-            self.known[answer_key(answer)] = True
-            if names_in(answer.terms):
-                self.general.append(answer)
+            self.rows[size] = [found[key] for key in kept]
+        for key in kept if is_short else []:
+            self.known[key] = True
+            if names_in(found[key].form.terms):
+                self.general.append(found[key])
         self.done = size
 
     def is_covered(self, key, answer):
@@ -77,6 +77,7 @@ class Tables:
         self.rules = ways.rules
         self.numbers = ways.numbers
         self.is_short = is_short
+        self.shelf = Shelf()
         self.calls = {}
         self.first_call = Call([], [ways.question], 0)
 
@@ -93,10 +94,10 @@ class Tables:
 
     def call_for(self, relation, terms):
         """The call of a goal."""
-        terms = put_in_row(terms, numbered(names_in(terms), 0))
-        key = (relation, terms_key(terms))
+        nodes = self.shelf.copies_of(put_in(terms, numbered(names_in(terms), 0)))
+        key = (relation, tuple(nodes))
         if key not in self.calls:
-            self.calls[key] = Call(terms, [self.rules[number] for number in self.numbers.get(relation, [])], 1)
+            self.calls[key] = Call(nodes, [self.rules[number] for number in self.numbers.get(relation, [])], 1)
         return self.calls[key]
 
     def entries_of(self, call):
@@ -119,7 +120,7 @@ class Tables:
             if self.may_have(call, ready, first, size):
                 trying = Trying(self, call, ready, size - call.own)
                 for answer in trying.made():
-                    found[answer_key(answer)] = answer
+                    found[self.shelf.key_of(answer.form)] = answer
                 lacking.extend(trying.lacking)
         if not lacking:
             call.keep(size, found, self.is_short)
@@ -144,13 +145,13 @@ class Trying:
     def __init__(self, tables, call, ready, rest):
         names = names_in(call.terms)
         self.tables = tables
-        self.ready = ready
         self.rest = rest
         self.bindings = Bindings()
-        self.worth = numbered(ready.names, len(names))
-        self.asked = [(relation, put_in_row(terms, self.worth)) for relation, terms in ready.asked]
-        self.heads = list(zip(put_in_row(ready.terms, self.worth), call.terms)) if call.own else []
-        self.terms = [("?", at) for at in range(len(names))] if call.own else put_in_row(ready.terms, self.worth)
+        self.used = ready.with_unknowns(len(names))
+        self.asked = self.used.goals_asked()
+        own = self.used.head_terms()
+        self.heads = list(zip(own, call.terms)) if call.own else []
+        self.terms = [unknown_node(at) for at in range(len(names))] if call.own else own
         self.fresh = len(names) + len(ready.names)
         self.lacking = []
 
@@ -174,9 +175,9 @@ class Trying:
 
     def first(self):
         """The stage without answers; None if the head can't be the same, or own goals can't be so."""
-        if not self.bindings.make_same(self.heads + put_in_pairs(self.ready.equals, self.worth)):
+        if not self.bindings.make_same(self.heads + self.used.pairs_equal()):
             return None
-        unlikes = self.bindings.pending([[pair] for pair in put_in_pairs(self.ready.unlikes, self.worth)])
+        unlikes = self.bindings.pending(self.used.pairs_unlike())
         return None if unlikes is None else Stage(0, self.rest, self.fresh, unlikes)
 
     def call_at(self, stage):
@@ -201,12 +202,13 @@ class Trying:
 
     def behind(self, stage, names, size, answer):
         """The stage behind an answer that is taken for the next goal; None if what is asked can't be so."""
-        inner = names_in(answer.terms)
+        form = answer.form
+        inner = names_in(form.terms)
         worth = numbered(inner, stage.fresh)
-        pairs = [(("?", name), term) for name, term in zip(names, put_in_row(answer.terms, worth))]
+        pairs = [(unknown_node(name), node) for name, node in zip(names, put_in(form.terms, worth))]
         if not self.bindings.make_same(pairs):
             return None
-        unlikes = self.bindings.pending(stage.unlikes + [put_in_pairs(row, worth) for row in answer.inequations])
+        unlikes = self.bindings.pending(stage.unlikes + [put_in_pairs(row, worth) for row in form.rows])
         if unlikes is None:
             return None
         return Stage(stage.goals + 1, stage.rest - size, stage.fresh + len(inner), unlikes)

@@ -1,6 +1,6 @@
 """Terms: what is one, what stands in it, its place in the order, terms put in for unknowns."""
 
-from proofsizes.sharing import FEW_STEPS, are_same, unlike_parts
+from proofsizes.sharing import FEW_STEPS, hide_truth_value, unlike_parts
 
 LETTERS = "abcdefghijklmnopqrstuvwxyz"
 FIGURES = "0123456789"
@@ -53,14 +53,29 @@ def is_compound(term):
     return isinstance(term, tuple) and term[0] != "?"
 
 
-def is_term_within(thing, most):
-    """Whether a thing is a term with at most so many within one another, None for any number."""
+def are_terms(things, most):
+    """Whether all of some things are terms with at most so many within one another, None for any number."""
+    large = []
+    for thing in things:
+        found = is_small_term(thing, most)
+        if found is None:
+            large.append(thing)
+        elif not found:
+            return False
+    if not large:
+        return True
+    parts, numbers = unlike_parts(large, FEW_STEPS)
+    return are_terms_by_parts(large, most, parts, numbers)
+
+
+def is_small_term(thing, most):
+    """Whether a thing is such a term; None if more of it than few parts would have to be gone through for that."""
     waiting = [(thing, 1)]
     made = 0
     while waiting:
         made += 1
         if made > FEW_STEPS:
-            return is_shared_term_within(thing, most)
+            return None
         part, level = waiting.pop()
         if most is not None and level > most:
             return False
@@ -74,14 +89,15 @@ def is_term_within(thing, most):
     return True
 
 
-def is_shared_term_within(thing, most):
-    """The same of a thing whose parts are gone through once each, as they may be shared."""
-    parts, numbers = unlike_parts([thing], FEW_STEPS)
+def are_terms_by_parts(things, most, parts, numbers):
+    """Whether all of some things are such terms, by their unlike parts, and their numbers among these."""
+    if hide_truth_value(things, parts, numbers):
+        return False
     levels = []
     for inner, leaf in parts:
         levels.append(levels_of_part(parts, levels, inner, leaf))
-    found = levels[numbers[0]]
-    return found is not None and (most is None or found <= most)
+    found = [levels[number] for number in numbers]
+    return None not in found and (most is None or max(found) <= most)
 
 
 def levels_of_part(parts, levels, inner, leaf):
@@ -109,12 +125,12 @@ def is_compound_shape(part):
 
 def is_term(thing):
     """Whether a thing is a term as one may be handed in."""
-    return is_term_within(thing, MOST_WITHIN)
+    return are_terms([thing], MOST_WITHIN)
 
 
 def is_deep_term(thing):
     """Whether a thing is a term as one may come of the work."""
-    return is_term_within(thing, None)
+    return are_terms([thing], None)
 
 
 def is_ground_term(thing):
@@ -124,23 +140,27 @@ def is_ground_term(thing):
 
 def has_unknown(term):
     """Whether an unknown stands in a term."""
-    parts, _ = unlike_parts([term], FEW_STEPS)
-    return any([inner is None and leaf == "?" for inner, leaf in parts])
+    return len(names_in([term])) > 0
 
 
 def is_row_of_terms(thing):
     """Whether a thing is a row of terms that may be handed in."""
-    return is_row(thing) and all([is_term(term) for term in thing])
+    return is_row(thing) and are_terms(thing, MOST_WITHIN)
+
+
+def is_pair_shape(thing):
+    """Whether a thing is a pair, of whatever things."""
+    return isinstance(thing, tuple) and len(thing) == 2
 
 
 def is_pair(thing):
     """Whether a thing is a pair of terms that may be handed in."""
-    return isinstance(thing, tuple) and len(thing) == 2 and is_term(thing[0]) and is_term(thing[1])
+    return is_pair_shape(thing) and are_terms(thing, MOST_WITHIN)
 
 
 def is_row_of_pairs(thing):
     """Whether a thing is a row of pairs of terms."""
-    return is_row(thing) and all([is_pair(pair) for pair in thing])
+    return is_row(thing) and all([is_pair_shape(pair) for pair in thing]) and are_terms(sides_of(thing), MOST_WITHIN)
 
 
 def as_tuple(thing):
@@ -216,129 +236,6 @@ def name_key(name):
     return (0, name) if is_integer(name) else (1, name)
 
 
-def ascending_names(terms):
-    """The names of the unknowns of a row of terms, ascending."""
-    return sorted(names_in(terms), key=name_key)
-
-
-def sign_key(part):
-    """The place of a thing in the order of terms, but for its parts."""
-    if is_unknown(part):
-        return (2, name_key(part[1]))
-    if is_compound(part):
-        return (3, len(part[1]), part[0])
-    return (0, part) if is_integer(part) else (1, part)
-
-
-def terms_key(terms):
-    """By this rows of terms ascend; it is as long as things stand in the terms."""
-    return tuple([sign_key(part) for term in terms for part in parts_of(term)])
-
-
-def pairs_key(pairs):
-    """By this rows of pairs ascend."""
-    return terms_key(sides_of(pairs))
-
-
-def put_in(term, worth):
-    """A term with the terms of a dict in place of the unknowns that it names."""
-    built = put_in_small(term, worth)
-    return put_in_shared([term], worth)[0] if built is None else built
-
-
-def put_in_small(term, worth):
-    """The same of a term without many parts; None for one that has more."""
-    parts = parts_up_to(term, FEW_STEPS)
-    if parts is None:
-        return None
-    built = []
-    for part in reversed(parts):
-        if is_compound(part):
-            many = len(part[1])
-            inner = tuple(built[-many:][::-1])
-            del built[-many:]
-            built.append((part[0], inner))
-        elif is_unknown(part):
-            built.append(worth.get(part[1], part))
-        else:
-            built.append(part)
-    return built[0]
-
-
-def put_in_shared(terms, worth):
-    """The same of terms with many parts; what is shared in them is shared in the new ones."""
-    parts, numbers = unlike_parts(terms, FEW_STEPS)
-    built = []
-    for inner, leaf in parts:
-        if inner is None:
-            built.append(leaf)
-        else:
-            row = tuple([built[part] for part in inner])
-            built.append(worth.get(row[1], row) if row and row[0] == "?" else row)
-    return [built[number] for number in numbers]
-
-
-def put_in_row(terms, worth):
-    """A list of terms with the terms of a dict put in."""
-    found = [put_in_small(term, worth) for term in terms]
-    return put_in_shared(terms, worth) if None in found else found
-
-
-def put_in_pairs(pairs, worth):
-    """A list of pairs with the terms of a dict put in."""
-    return [(put_in(one, worth), put_in(other, worth)) for one, other in pairs]
-
-
-def numbered(names, first):
-    """A dict from names to unknowns that are named by integers, from a first one on."""
-    return {name: ("?", first + at) for at, name in enumerate(names)}
-
-
-def unused_integer(terms):
-    """An integer from 0 on; it and all above it stand nowhere in a row of terms."""
-    standing = [part for term in terms for part in parts_of(term) if is_integer(part)]
-    return max([0] + [part + 1 for part in standing])
-
-
-def unlike_constants(names, terms):
-    """A dict from names to unlike constants that stand in none of the terms."""
-    first = unused_integer(terms)
-    return {name: first + at for at, name in enumerate(names)}
-
-
-def are_alike(pairs):
-    """Whether both sides of all pairs are the same as they stand."""
-    return all([is_alike(one, other) for one, other in pairs])
-
-
-def is_alike(one, other):
-    """Whether two terms are the same as they stand, though they may be large, with shared parts."""
-    if not is_compound(one) or not is_compound(other):
-        return one == other
-    return are_same([(one, other)], FEW_STEPS)
-
-
-def matched(patterns, terms, worth):
-    """More than a dict's terms for unknowns, by which patterns are the terms; None without any.
-
-    The terms' own unknowns stand for themselves, so names may be shared.
-    """
-    found = dict(worth)
-    waiting = list(zip(patterns, terms))
-    while waiting:
-        pattern, term = waiting.pop()
-        if is_unknown(pattern):
-            if found.setdefault(pattern[1], term) != term:
-                return None
-        elif is_compound(pattern):
-            if not have_like_heads(pattern, term):
-                return None
-            waiting.extend(list(zip(pattern[1], term[1])))
-        elif pattern != term:
-            return None
-    return found
-
-
-def have_like_heads(one, other):
-    """Whether a compound and a term are compounds of one name with as many terms."""
-    return is_compound(other) and one[0] == other[0] and len(one[1]) == len(other[1])
+def constant_key(constant):
+    """By this constants ascend."""
+    return (0, constant) if is_integer(constant) else (1, constant)

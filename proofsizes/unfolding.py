@@ -2,11 +2,13 @@
 
 from proofsizes.bindings import Bindings
 from proofsizes.errors import BadRule
+from proofsizes.nodes import ascending_names, dict_of_terms, matched, names_in, numbered, put_in, terms_of
 from proofsizes.programs import OWN_NAMES, Program, Rule, all_goals, relation_goals, relation_of, terms_in_goals
 from proofsizes.proofs import answer_of, trees_in
-from proofsizes.solving import is_dict_of_terms
-from proofsizes.terms import as_dict, as_tuple, is_number_below, matched, name_key, names_in, numbered
-from proofsizes.terms import put_in_row
+from proofsizes.sharing import are_same_dicts
+from proofsizes.shelves import Shelf
+from proofsizes.solving import dict_if_terms
+from proofsizes.terms import as_dict, as_tuple, is_number_below, name_key
 
 
 class Unfolded:
@@ -28,19 +30,20 @@ class Needless:
         self.terms = as_dict(terms)
 
     def __eq__(self, other):
-        return isinstance(other, Needless) and self.by == other.by and self.terms == other.terms
+        return isinstance(other, Needless) and self.by == other.by and are_same_dicts(self.terms, other.terms)
 
     def shows(self, program, number):
         """Whether the rule with a number is needless by the other one, with these terms."""
         check_number(program, number)
         if not is_number_below(self.by, len(program.rules)) or self.by == number:
             return False
-        other = program.rules[self.by]
-        if not is_dict_of_terms(self.terms):
+        shelf = Shelf()
+        goals = goals_on(shelf, program.rules[self.by])
+        worth = dict_if_terms(shelf, self.terms)
+        if worth is None or sorted(worth, key=name_key) != ascending_names(terms_in_goals(goals)):
             return False
-        if sorted(self.terms, key=name_key) != sorted(names_of(other), key=name_key):
-            return False
-        return does_as_much(other, self.terms, program.rules[number])
+        done = with_terms(goals, shelf.put_in(terms_in_goals(goals), worth))
+        return does_as_much(done, goals_on(shelf, program.rules[number]))
 
 
 def unfolded(program, number, place):
@@ -67,9 +70,12 @@ def check_number(program, number):
 
 def joined_rule(rule, place, other):
     """The rule with another one's goals in place of a goal; None if its head can't be made the same."""
-    names = names_of(rule)
-    ours = renamed(all_goals(rule), numbered(names, 0))
-    theirs = renamed(all_goals(other), numbered(names_of(other), len(names)))
+    shelf = Shelf()
+    ours, theirs = goals_on(shelf, rule), goals_on(shelf, other)
+    names = names_in(terms_in_goals(ours))
+    ours = with_terms(ours, put_in(terms_in_goals(ours), numbered(names, 0)))
+    others = terms_in_goals(theirs)
+    theirs = with_terms(theirs, put_in(others, numbered(names_in(others), len(names))))
     goal = ours[1 + place]
     bindings = Bindings()
     if relation_of(goal) != relation_of(theirs[0]):
@@ -77,19 +83,25 @@ def joined_rule(rule, place, other):
     if not bindings.make_same(list(zip(goal[1], theirs[0][1]))):
         return None
     goals = ours[:1 + place] + theirs[1:] + ours[2 + place:]
-    solved = [(goal[0], bindings.resolved(goal[1], {})) for goal in goals]
-    head, *others = renamed(solved, numbered(names_in(terms_in_goals(solved)), 0))
-    return Rule(head, others)
+    nodes = bindings.resolved(terms_in_goals(goals), {})
+    head, *behind = with_terms(goals, terms_of(put_in(nodes, numbered(names_in(nodes), 0))))
+    return Rule(head, behind)
 
 
-def names_of(rule):
-    """The names of a rule's unknowns, as they come first."""
-    return names_in(terms_in_goals(all_goals(rule)))
+def goals_on(shelf, rule):
+    """The list of a rule's head and its goals, with the nodes of their terms on a shelf."""
+    goals = all_goals(rule)
+    return with_terms(goals, shelf.nodes_of(terms_in_goals(goals)))
 
 
-def renamed(goals, worth):
-    """The list of goals with terms put in for unknowns."""
-    return [(goal[0], tuple(put_in_row(goal[1], worth))) for goal in goals]
+def with_terms(goals, terms):
+    """The list of goals with other terms, which stand in one row."""
+    found = []
+    at = 0
+    for name, inner in goals:
+        found.append((name, tuple(terms[at:at + len(inner)])))
+        at += len(inner)
+    return found
 
 
 def carried(program, number, place, question, proofs):
@@ -138,17 +150,20 @@ def terms_for(other, rule):
     """Terms for another rule's unknowns by which it does all that a rule does; None without any."""
     if relation_of(other.head) != relation_of(rule.head):
         return None
-    head = matched(other.head[1], rule.head[1], {})
+    shelf = Shelf()
+    wanted, *known = goals_on(shelf, rule)
+    first, *asked = goals_on(shelf, other)
+    head = matched(first[1], wanted[1], {})
     if head is None:
         return None
     # Goals that can be few of the rule's come first, so that little is tried in vain.
-    goals = sorted(other.goals, key=lambda goal: len(ways_to_meet(goal, rule.goals, head)))
+    goals = sorted(asked, key=lambda goal: len(ways_to_meet(goal, known, head)))
     waiting = [(0, head)]
     while waiting:
         at, worth = waiting.pop()
         if at == len(goals):
-            return {name: worth[name] for name in sorted(worth, key=name_key)}
-        ways = ways_to_meet(goals[at], rule.goals, worth)
+            return dict_of_terms({name: worth[name] for name in sorted(worth, key=name_key)})
+        ways = ways_to_meet(goals[at], known, worth)
         waiting.extend([(at + 1, more) for more in ways[::-1]])
     return None
 
@@ -164,11 +179,12 @@ def ways_to_meet(goal, goals, worth):
     return [more for more in found if more is not None]
 
 
-def does_as_much(other, terms, rule):
-    """Whether another rule, with terms put in, has a rule's head, and no goals but the rule's."""
-    head, *goals = renamed(all_goals(other), terms)
+def does_as_much(done, wanted):
+    """Whether of two rows of a head and goals the first one has the other's head, and no goals but its."""
+    head, *goals = done
+    first, *others = wanted
     for goal in goals:
-        is_turned = goal[0] in OWN_NAMES and (goal[0], goal[1][::-1]) in rule.goals
-        if goal not in rule.goals and not is_turned:
+        is_turned = goal[0] in OWN_NAMES and (goal[0], goal[1][::-1]) in others
+        if goal not in others and not is_turned:
             return False
-    return head == rule.head
+    return head == first

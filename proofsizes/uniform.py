@@ -6,8 +6,8 @@ from proofsizes.flat import check_flat, facts_by, is_fact_shape, is_flat
 from proofsizes.joining import Facts, FlatRule, ascending_facts
 from proofsizes.programs import OWN_NAMES, Program, Rule, all_goals, terms_in_goals
 from proofsizes.sharing import MOST_STEPS, are_same
+from proofsizes.sifting import placed_in
 from proofsizes.terms import as_tuple, is_integer, names_in
-from proofsizes.unfolding import renamed
 from proofsizes.uniformtrees import proves
 
 MOST_RULES = 10
@@ -104,7 +104,7 @@ def with_goals(program, rule):
     standing = terms + [term for one in program.rules for term in terms_in_goals(all_goals(one))]
     first = 1 + max([0] + [term for term in standing if is_integer(term)])
     worth = {name: first + at for at, name in enumerate(names_in(terms))}
-    head, *goals = renamed(all_goals(rule), worth)
+    head, *goals = [(goal[0], tuple(placed_in(goal[1], worth))) for goal in all_goals(rule)]
     return Program(list(program.rules) + [Rule(goal, []) for goal in goals]), head
 
 

@@ -3,7 +3,8 @@
 import itertools
 
 from proofsizes.programs import Program, Rule
-from proofsizes.terms import names_in, terms_key
+from proofsizes.terms import names_in
+from tests.plain import terms_key
 from tests.samples import OWN, X, Y, Z
 
 CONSTANTS = ["a", "b", 1]

@@ -3,10 +3,10 @@
 import itertools
 
 from proofsizes.answers import Answer
-from proofsizes.bindings import Bindings
 from proofsizes.errors import BadAnswer
 from proofsizes.programs import Program, Question, Rule
-from proofsizes.terms import names_in, put_in
+from proofsizes.terms import names_in
+from tests.plain import Binding, put_in
 
 X, Y, Z, W = ("?", "x"), ("?", "y"), ("?", "z"), ("?", "w")
 OWN = ("equal", "unlike")
@@ -83,8 +83,8 @@ def parted(goals):
 
 
 def can_be(equations, inequations):
-    bindings = Bindings()
-    return bindings.make_same(equations) and bindings.pending(inequations) is not None
+    binding = Binding()
+    return binding.make_same(equations) and not any(binding.always_fails(pairs) for pairs in inequations)
 
 
 def relation(goal):
@@ -139,13 +139,13 @@ def asked_by_proofs(program, question, proofs):
 def slow_answer(program, question, proofs):
     """The answer of proofs, by all that they ask at once; None without any."""
     equations, inequations = asked_by_proofs(program, question, proofs)
-    bindings = Bindings()
-    if not bindings.make_same(equations):
+    binding = Binding()
+    if not binding.make_same(equations):
         return None
     asked = [tagged(("p", (term,)), "q")[1][0] for term in question.terms]
-    rows = [[tuple(bindings.resolved(list(pair), {})) for pair in pairs] for pairs in inequations]
+    rows = [[tuple(binding.resolved(pair)) for pair in pairs] for pairs in inequations]
     try:
-        return Answer(bindings.resolved(asked, {}), rows)
+        return Answer(binding.resolved(asked), rows)
     except BadAnswer as bad:
         assert bad.part == "empty"
         return None

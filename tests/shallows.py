@@ -4,7 +4,8 @@ import itertools
 
 from proofsizes.programs import Program, Rule
 from proofsizes.regular import TermSet
-from proofsizes.terms import is_compound, matched, names_in, parts_of, terms_key
+from proofsizes.terms import is_compound, names_in, parts_of
+from tests.plain import matched, terms_key
 from tests.samples import X, Y, Z, wrapped
 
 NAMES = "pqrs"

@@ -6,7 +6,8 @@ import unittest
 from proofsizes.answers import Answer, is_instance
 from proofsizes.covering import Covered, Outside, judge_covered
 from proofsizes.errors import BadAnswer, TooLarge
-from proofsizes.terms import names_in, put_in
+from proofsizes.terms import names_in
+from tests.plain import put_in
 from tests.samples import W, X, Y, Z, random_term, wrapped
 from tests.spoiling import check_spoilt
 

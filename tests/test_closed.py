@@ -8,7 +8,7 @@ from proofsizes.closed import AllMet, BadSignature, Filled, Signature, Unfilled,
 from proofsizes.closed import needless_patterns
 from proofsizes.errors import BadTerm, RelationError, TooLarge
 from proofsizes.stores import NoValues, Valued, judge_values
-from proofsizes.terms import matched, put_in
+from tests.plain import matched, put_in
 from tests.samples import W, X, Y, Z, wrapped
 from tests.spoiling import check_spoilt
 

@@ -6,7 +6,8 @@ import unittest
 
 from proofsizes.congruence import Apart, Equal, are_endless, classes_of, equal_terms, judge_equal, least_equal
 from proofsizes.errors import BadTerm, TooLarge
-from proofsizes.terms import is_compound, parts_of, terms_key
+from proofsizes.terms import is_compound, parts_of
+from tests.plain import terms_key
 from tests.samples import X, wrapped
 from tests.spoiling import check_spoilt
 

@@ -6,7 +6,8 @@ import unittest
 from proofsizes.errors import BadTerm
 from proofsizes.following import Against, Follows, judge_follows
 from proofsizes.stores import NoValues, Valued, judge_values
-from proofsizes.terms import names_in, put_in, sides_of
+from proofsizes.terms import names_in, sides_of
+from tests.plain import put_in
 from tests.samples import W, X, Y, Z, random_term, wrapped
 from tests.spoiling import check_spoilt
 

@@ -3,12 +3,13 @@
 import random
 import unittest
 
-from proofsizes.answers import Answer, answer_key
+from proofsizes.answers import Answer
 from proofsizes.errors import BadQuestion
 from proofsizes.forward import facts_of_size
 from proofsizes.programs import Program, Question, Rule
 from proofsizes.proofs import answer_of
 from proofsizes.searching import proofs_of_size
+from tests.plain import answer_key
 from tests.samples import COUNTS, JOINED, X, Y, Z, random_program, relation, row_of, wrapped
 from tests.test_searching import SUMS, TREES, WALKS
 

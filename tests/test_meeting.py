@@ -7,7 +7,8 @@ from proofsizes.answers import Answer, is_instance
 from proofsizes.covering import judge_covered
 from proofsizes.errors import BadAnswer
 from proofsizes.meeting import is_pattern_of, kept, least_pattern, meet
-from proofsizes.terms import names_in, put_in
+from proofsizes.terms import names_in
+from tests.plain import put_in
 from tests.samples import W, X, Y, Z, random_term, wrapped
 from tests.test_answers import random_answer
 

@@ -8,7 +8,8 @@ from proofsizes.errors import BadTerm, TooLarge
 from proofsizes.patterns import AllIn, NotIn, instances_set, judge_pattern, some_in
 from proofsizes.regular import TermSet, both, judge_sets, others, relation_set
 from proofsizes.searching import Spent
-from proofsizes.terms import is_ground_term, matched, names_in, put_in
+from proofsizes.terms import is_ground_term, names_in
+from tests.plain import matched, put_in
 from tests.samples import X, Y, Z, random_term, wrapped
 from tests.shallows import ALL_ROWS, ALL_TERMS, EVEN, random_set
 from tests.spoiling import check_spoilt

@@ -13,7 +13,8 @@ from proofsizes.regular import Fewest, InOne, SameSet, TermSet, both, either, fe
 from proofsizes.regular import relation_set
 from proofsizes.searching import Spent
 from proofsizes.shallow import Has, NotShallow, judge_shallow, least_terms, model_of, type_of
-from proofsizes.terms import has_unknown, names_in, parts_of, put_in
+from proofsizes.terms import has_unknown, names_in, parts_of
+from tests.plain import put_in
 from tests.samples import X, Y, Z, wrapped
 from tests.shallows import ALL_TERMS, EVEN, NAMES, order_of, random_set, random_shallow, terms_by_signs
 from tests.spoiling import check_spoilt

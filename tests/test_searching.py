@@ -3,13 +3,14 @@
 import random
 import unittest
 
-from proofsizes.answers import Answer, answer_key
+from proofsizes.answers import Answer
 from proofsizes.covering import judge_covered
 from proofsizes.errors import BadQuestion, TooLarge
 from proofsizes.programs import Program, Question, Rule
 from proofsizes.proofs import answer_of, proofs_levels, proofs_size
 from proofsizes.searching import Answered, Spent, StillOpen, answered, judge_spent, opened, proofs_of_levels
 from proofsizes.searching import proofs_of_size
+from tests.plain import answer_key
 from tests.samples import ALL_COUNTS, COUNTS, JOINED, SPLIT, X, Y, Z, numbers_of, parted, random_program
 from tests.samples import random_question, relation, row_of, slow_answer, slow_forests, slow_levels, wrapped
 from tests.spoiling import check_spoilt

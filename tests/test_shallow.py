@@ -10,7 +10,8 @@ from proofsizes.programs import Program, Question, Rule
 from proofsizes.searching import Spent
 from proofsizes.shallow import Has, NotShallow, all_terms, is_empty, is_within, judge_shallow, least_terms, model_of
 from proofsizes.shallow import type_of, types
-from proofsizes.terms import names_in, parts_of, put_in
+from proofsizes.terms import names_in, parts_of
+from tests.plain import put_in
 from tests.samples import JOINED, X, Y, Z, wrapped
 from tests.shallows import ALL_ROWS, ALL_TERMS, EVEN, NAMES, order_of, random_shallow, slow_types, spoken_of, terms_by_signs
 from tests.spoiling import check_spoilt

@@ -3,6 +3,7 @@
 import itertools
 import random
 import unittest
+from unittest import mock
 
 from proofsizes import following
 from proofsizes.answers import Answer
@@ -13,15 +14,15 @@ from proofsizes.flat import least_proof, least_sizes
 from proofsizes.programs import Program, Question, Rule
 from proofsizes.proofs import answer_of, proofs_levels, proofs_size
 from proofsizes.searching import Answered, Spent
-from proofsizes.sharing import are_same, are_same_dicts, are_same_rows, unlike_parts
+from proofsizes.sharing import are_same, are_same_dicts, are_same_rows, has_truth_value, hide_truth_value, unlike_parts
 from proofsizes.solving import solve
 from proofsizes.stores import NoValues, Valued, judge_values
 from proofsizes.streams import Came, from_left, in_turns
-from proofsizes.terms import are_alike, has_unknown, is_deep_term, is_ground_term, is_term, names_in, put_in, put_in_row
-from proofsizes.terms import put_in_shared, put_in_small, unlike_unknowns_in
+from proofsizes.terms import has_unknown, is_deep_term, is_ground_term, is_term, names_in, unlike_unknowns_in
 from proofsizes.texts import read_program, read_question
 from proofsizes.uniform import Apart, Follows, judge_follows
 from tests.samples import OWN, X, Y, random_program, random_question
+from tests.shared import parted, shared, spoilt
 
 UNKNOWNS = [("?", sign) for sign in "abcdef"]
 CHAIN = read_program("p(a). p(?x) if p(?x).")
@@ -283,25 +284,15 @@ class TermsTest(unittest.TestCase):
         self.assertIs(NoValues(1, None).shows(equations, [[(("?", 24), "a")], [(("?", 24), last)]]), True)
         self.assertIs(following.judge_follows(equations, [[(("?", 0), "a")]], [(("?", 24), last)]).shows(equations, [[(("?", 0), "a")]], [(("?", 24), last)]), True)
 
-    def test_put_in(self):
+    def test_names(self):
         shared = X
         for _ in range(40):
             shared = ("f", (shared, "b", shared))
-        made = put_in(shared, {"x": ("g", (Y,))})
-        self.assertEqual(names_in([made]), ["y"])
         self.assertEqual(names_in([("h", (Y, shared))]), ["y", "x"])
-        self.assertIs(are_alike([(made, put_in_row([0, shared], {"x": ("g", (Y,))})[1])]), True)
-        self.assertIs(are_alike([(made, shared)]), False)
-        low = made
-        for _ in range(40):
-            low = low[1][2]
-        self.assertEqual(low, ("g", (Y,)))
         source = random.Random(997)
         for _ in range(100):
-            terms = [random_term(source, 4) for _ in range(3)]
-            worth = {"x": random_term(source, 2), "y": "b"}
-            self.assertEqual(put_in_shared(terms, worth), [put_in_small(term, worth) for term in terms])
-            self.assertEqual([one[1] for one in unlike_unknowns_in(terms[0])], names_in([terms[0]]))
+            term = random_term(source, 4)
+            self.assertEqual([one[1] for one in unlike_unknowns_in(term)], names_in([term]))
 
 
 def random_term(source, levels):
@@ -334,8 +325,9 @@ class NestTest(unittest.TestCase):
             nests = [random_nest(source, []) for _ in range(source.randrange(1, 4))]
             nests += [copied(source.choice(nests))]
             expected = set().union(*[parts_in(nest) for nest in nests])
-            for steps in (0, 3, 10 ** 6):
-                parts, numbers = unlike_parts(nests, steps)
+            for steps, few in ((0, 64), (0, 1), (3, 2), (10 ** 6, 1)):
+                with mock.patch("proofsizes.sharing.FEW_PLACES", few):
+                    parts, numbers = unlike_parts(nests, steps)
                 self.assertEqual(len(parts), len(expected))
                 built = []
                 for inner, leaf in parts:
@@ -347,6 +339,28 @@ class NestTest(unittest.TestCase):
         parts, numbers = unlike_parts([(True, 1), (1, True), (False, 0, None)], 0)
         self.assertEqual(numbers, [2, 3, 7])
         self.assertEqual([leaf for inner, leaf in parts if inner is None], [True, 1, False, 0, None])
+
+    def test_true_is_found_where_it_is_taken_for_1(self):
+        for worth, wrong in ((1, True), (0, False), (0, True), ("a", True)):
+            for way in ("0110", "1001", "0" * 9 + "1"):
+                for things in ([spoilt(12, worth, wrong, way)], [0, shared(12, worth), spoilt(12, worth, wrong, way)], [shared(60, worth), spoilt(11, worth, wrong, way), 7]):
+                    self.assertIs(hide_truth_value(things, *unlike_parts(things, 20)), True)
+            self.assertIs(has_truth_value(spoilt(12, worth, wrong, "0110")), True)
+        for things in ([shared(60, 1)], [shared(15, 1), parted(12, 0)], [shared(15, "a")], [], [2, None, ()]):
+            self.assertIs(hide_truth_value(things, *unlike_parts(things, 20)), False)
+        self.assertIs(has_truth_value(parted(12, 1)), False)
+
+    def test_copies_of_shared_parts(self):
+        # Beside one another, near the top, and in things by themselves.
+        for things, many in (([shared(60, "a"), shared(60, "a")], 122), ([("g", (shared(60, "a"), shared(60, "a")))], 125), ([("g", (shared(60, "a"), ("g", (shared(60, "a"), shared(60, "b")))))], 248), ([shared(at, "a") for at in range(40)], 80)):
+            parts, numbers = unlike_parts(things, 100)
+            self.assertEqual(len(parts), many)
+            self.assertEqual(len(numbers), len(things))
+
+    def test_rows_with_many_parts(self):
+        for inner, many in ((lambda at: ("h", (0, at, 0)), 3 * 30000 + 4), (lambda at: ("h", (0,) * 9 + (("g", (0, at, 0)),) + (0,) * 9), 5 * 30000 + 5)):
+            parts, _ = unlike_parts([("f", tuple(inner(at) for at in range(1, 30001)))], 20000)
+            self.assertLessEqual(abs(len(parts) - many), 2)
 
     def test_what_is_no_nest(self):
         spent, other = Spent(0), Spent(1)
@@ -360,10 +374,10 @@ class NestTest(unittest.TestCase):
         nests = [random_nest(source, []) for _ in range(60)]
         for one, other in itertools.product(nests, repeat=2):
             self.assertIs(are_same([(one, copied(other))], 1000), one == other)
-            self.assertIs(are_same_rows(one, copied(other)), one == other)
+            self.assertIs(are_same_rows(one, copied(other), 1000), one == other)
         for one, other in ((None, None), (1, True), ("a", "b"), ((), []), ([], []), (Spent(0), Spent(0)), (Spent(0), (Spent(0),)), ((Spent(0),), (Spent(1),))):
             self.assertIs(are_same([(one, other)], 1000), one == other)
-            self.assertIs(are_same_rows(one, other), one == other)
+            self.assertIs(are_same_rows(one, other, 1000), one == other)
             self.assertIs(are_same_dicts({0: one}, {0: other}), one == other)
         for one, other in (({}, {}), ({0: 1}, {}), ({0: 1}, {1: 1}), ({0: 1}, None), (None, None), ({0: (1, 2)}, {0: (1, 2)}), ({0: 1, 1: 2}, {1: 2, 0: 1})):
             self.assertIs(are_same_dicts(one, other), one == other)

@@ -6,7 +6,8 @@ import unittest
 from proofsizes import errors
 from proofsizes.errors import BadAnswer, BadQuestion, BadRule, BadTerm, RelationError, TooLarge
 from proofsizes.solving import Solved, Unsolved, solve
-from proofsizes.terms import name_key, names_in, put_in
+from proofsizes.terms import name_key, names_in
+from tests.plain import put_in
 from tests.samples import W, X, Y, Z, random_term, wrapped
 from tests.spoiling import check_spoilt
 

@@ -5,13 +5,13 @@ import random
 import unittest
 
 from proofsizes.answers import Answer
-from proofsizes.bindings import Bindings
 from proofsizes.covering import judge_covered
 from proofsizes.errors import BadQuestion
 from proofsizes.programs import Program, Question, Rule
 from proofsizes.proofs import answer_of
 from proofsizes.searching import answered, proofs_of_levels
 from proofsizes.streams import Came, from_left, in_turns, open_answers
+from tests.plain import Binding
 from tests.samples import ALL_COUNTS, COUNTS, JOINED, SPLIT, X, Y, Z, can_be, numbers_of, parted, random_program
 from tests.samples import random_question, relation, tagged, wrapped
 from tests.test_searching import SUMS, TREES, WALKS
@@ -69,11 +69,11 @@ def slow_open(program, question, levels):
         row = [one for way in row for one in (slow_behind(program, way) if way.goals else [way])]
     found = []
     for way in row:
-        bindings = Bindings()
-        bindings.make_same(way.equations)
+        binding = Binding()
+        binding.make_same(way.equations)
         asked = [tagged(("p", (term,)), "q")[1][0] for term in question.terms]
-        rows = [[tuple(bindings.resolved(list(pair), {})) for pair in pairs] for pairs in way.inequations]
-        answer = Answer(bindings.resolved(asked, {}), rows)
+        rows = [[tuple(binding.resolved(pair)) for pair in pairs] for pairs in way.inequations]
+        answer = Answer(binding.resolved(asked), rows)
         if answer not in found:
             found.append(answer)
     return found

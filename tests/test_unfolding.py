@@ -8,8 +8,9 @@ from proofsizes.errors import BadQuestion, BadRule
 from proofsizes.programs import Program, Question, Rule
 from proofsizes.proofs import answer_of, proofs_size
 from proofsizes.searching import answered, proofs_of_size
-from proofsizes.terms import names_in, put_in
+from proofsizes.terms import names_in
 from proofsizes.unfolding import Needless, Unfolded, carried, needless, unfolded, without_rule
+from tests.plain import put_in
 from tests.samples import ALL_COUNTS, COUNTS, JOINED, SPLIT, W, X, Y, Z, random_goal, random_program, random_question
 from tests.samples import wrapped
 from tests.spoiling import check_spoilt
