@@ -222,6 +222,60 @@ class MeetingTest(unittest.TestCase):
         self.assertIs(kept(both, [1]) == answer_e(MANY), True)
 
 
+class InequationsTest(unittest.TestCase):
+    """Answers that bar terms which share their parts."""
+
+    PROGRAM = read_program(
+        "d(0, a). d(s(?n), f(?t, ?t)) if d(?n, ?t). g(?n, ?x, ?y) if d(?n, ?t), ?x /= ?t, f(?x, ?y) /= f(?t, ?t). "
+        "k(?n, ?x, f(?x, ?t)) if d(?n, ?t), ?x /= ?t."
+    )
+    ASKED = read_question("ask ?x, ?y if g(?n, ?x, ?y).")
+    BOTH = read_question("ask ?x, ?y if k(?n, ?x, ?y).")
+
+    def answer(self, size):
+        return answer_of(self.PROGRAM, self.ASKED, ((2, numbers_chained(size, 0, 1)),))
+
+    def term(self, size):
+        return answer_of(self.PROGRAM, ASK_D, numbers_chained(size, 0, 1)).terms[0]
+
+    def test_normal_forms(self):
+        one = self.answer(MANY)
+        self.assertEqual([[depth(side) for side in pair] for pairs in one.inequations for pair in pairs], [[(1, ("?", 0)), (MANY, "a")]])
+        self.assertIs(one == self.answer(MANY), True)
+        self.assertIs(one == self.answer(MANY - 1), False)
+
+    def test_instances(self):
+        one, other = self.answer(MANY), self.answer(MANY - 1)
+        for row, is_one in (((self.term(MANY), "b"), False), (("b", self.term(MANY)), True), ((self.term(MANY - 1), self.term(MANY)), True)):
+            self.assertIs(is_instance(one, row), is_one)
+        self.assertEqual([bool(judge_covered(*sides)) for sides in ((one, [self.answer(MANY)]), (one, [other]), (Answer([X, Y], []), [one, other]), (one, [Answer([X, Y], [])]))], [True, False, True, True])
+        paper = judge_covered(one, [other])
+        self.assertEqual(depth(paper.row[0]), (MANY - 1, "a"))
+        self.assertIs(paper.shows(one, [other]), True)
+        self.assertIs(bool(judge_instances([one, other], [Answer([X, Y], [])])), True)
+        paper = judge_instances([one], [other])
+        self.assertIs(paper.shows([one], [other]), True)
+
+    def test_together(self):
+        one, other = self.answer(MANY), self.answer(MANY - 1)
+        both = meet(one, other)
+        self.assertEqual([depth(pairs[0][1])[0] for pairs in both.inequations], [MANY - 1, MANY])
+        self.assertIs(both == meet(other, one), True)
+        self.assertIs(meet(one, self.answer(MANY)) == one, True)
+        self.assertEqual(kept(one, [1]), Answer([X], []))
+        self.assertEqual(least_pattern(one, other), Answer([X, Y], []))
+
+    def test_told(self):
+        self.assertEqual([size for size, _ in tabled(self.PROGRAM, self.ASKED, MANY)], [2, 3])
+        told = tabled(self.PROGRAM, self.BOTH, MANY)
+        self.assertEqual([(one.size, one.answer) for one in answered(self.PROGRAM, self.BOTH, MANY)], told)
+        self.assertEqual([depth(answer.inequations[0][0][1]) for _, answer in told], [(size - 1, "a") for size, _ in told])
+        self.assertEqual(len(told), MANY - 1)
+        answers = [answer for _, answer in told]
+        paper = judge_instances(answers, answers[1:])
+        self.assertEqual((paper.is_first, paper.shows(answers, answers[1:])), (True, True))
+
+
 class RoadsTest(unittest.TestCase):
     """Other ways to answers."""
 
@@ -239,7 +293,7 @@ class RoadsTest(unittest.TestCase):
             self.assertIs(came == call(TWO, ASK_E, 60), True)
 
     def test_facts_and_levels(self):
-        self.assertEqual(ends(Answer_ for Answer_ in (kept(one, [1]) for one in facts_of_size(DOUBLES, MANY)["d", 2])), [(MANY, "a")])
+        self.assertEqual(ends(kept(one, [1]) for one in facts_of_size(DOUBLES, MANY)["d", 2]), [(MANY, "a")])
         self.assertEqual(len(proofs_of_levels(DOUBLES, ASK_D, MANY)), MANY)
 
     def test_unfolded(self):
