@@ -33,7 +33,7 @@ def unlike_parts(things, steps):
     odd = []
     met = {}
     built = []
-    waiting = [(thing, None, ((at,), MOST_APART // len(things))) for at, thing in enumerate(things)][::-1]
+    waiting = [(thing, None, ((at,), MOST_APART // len(things))) for at, thing in reversed(list(enumerate(things)))]
     made = 0
     while waiting:
         thing, ends, place = waiting.pop()

@@ -23,6 +23,9 @@ VIEWS = {"items", "keys", "values"}
 WALKERS = {"list", "tuple", "dict", "sorted", "sum", "any", "all", "enumerate", "zip", "min", "max"}
 BARRED = set("mro elements open input law version_info with_traceback add_note register type typing".split())
 DOUBLE = {"__init__", "__eq__", "__bool__"}
+# What changes that of which it is a method, and what changes its first argument.
+CHANGING = set("append clear extend insert pop remove reverse setdefault sort update add discard".split())
+HEAPING = {"heapify", "heappop", "heappush", "heappushpop", "heapreplace"}
 
 
 def trees():
@@ -50,6 +53,43 @@ def bound_names(function):
 def is_call_of(node, names):
     """Whether a node is a call of one of some functions by its bare name."""
     return isinstance(node, ast.Call) and isinstance(node.func, ast.Name) and node.func.id in names
+
+
+def is_made_as_it_stands(node):
+    """Whether a node shows by itself that it is a new list or dict; a slice of one, say, does not."""
+    made = (ast.List, ast.Dict, ast.ListComp, ast.DictComp)
+    return isinstance(node, made) or is_call_of(node, {"list", "dict", "sorted"})
+
+
+def made_names(function):
+    """The names that a function binds to nothing but new lists and dicts, as far as each binding shows by itself."""
+    bound, made = bound_names(function), []
+    for node in ast.walk(function):
+        if isinstance(node, ast.Assign) and is_made_as_it_stands(node.value):
+            made.extend(target.id for target in node.targets if isinstance(target, ast.Name))
+    return {name for name in made if made.count(name) == bound.count(name)}
+
+
+def changed_in(function):
+    """The nodes of what a function changes, but for its names: what has methods, items or attributes changed."""
+    found = []
+    for node in ast.walk(function):
+        if isinstance(node, (ast.Subscript, ast.Attribute)) and isinstance(node.ctx, (ast.Store, ast.Del)):
+            found.append(node if isinstance(node, ast.Attribute) else node.value)
+        elif isinstance(node, ast.AugAssign) and isinstance(node.op, ast.Add) and isinstance(node.target, ast.Name):
+            found.extend([] if isinstance(node.value, ast.Constant) else [node.target])
+        elif isinstance(node, ast.Call) and isinstance(node.func, ast.Attribute) and node.func.attr in CHANGING:
+            found.append(node.func.value)
+        elif is_call_of(node, HEAPING):
+            found.append(node.args[0])
+    return found
+
+
+def foreign_changes(function):
+    """The rows in which a function changes what it doesn't plainly make itself."""
+    made = made_names(function)
+    changed = [node for node in changed_in(function) if not isinstance(node, ast.Name) or node.id not in made]
+    return sorted(node.lineno for node in changed)
 
 
 class LanguageTest(unittest.TestCase):
@@ -165,6 +205,59 @@ class LanguageTest(unittest.TestCase):
                     elif isinstance(called, ast.Name):
                         is_method = bool(function.args.args) and function.args.args[0].arg == "self"
                         self.assertTrue(is_method or called.id != function.name, (name, function.name))
+
+    def callables(self):
+        """All functions and methods with their files: a function by its file and name, a method by its name alone.
+
+        Of a class its `__init__` stands under the file and name of the class, too.
+        """
+        found = {}
+        for name, (_, tree) in self.trees.items():
+            for node in tree.body:
+                if isinstance(node, ast.FunctionDef):
+                    found[name, node.name] = [(name, node)]
+                elif isinstance(node, ast.ClassDef):
+                    methods = [(name, one) for one in node.body if isinstance(one, ast.FunctionDef)]
+                    found[name, node.name] = [one for one in methods if one[1].name == "__init__"]
+                    for one in methods:
+                        found.setdefault(one[1].name, []).append(one)
+        return found
+
+    def called_by(self, name, function, callables):
+        """The functions and methods, with their files, that a function of a file calls or passes on to be called."""
+        sources = {alias.name: node.module.split(".")[1] for node in self.own_imports(name) for alias in node.names}
+        found = []
+        for node in ast.walk(function):
+            if isinstance(node, ast.Call) and not is_call_of(node, {"isinstance"}):
+                for one in [node.func, *node.args, *[keyword.value for keyword in node.keywords]]:
+                    if isinstance(one, ast.Name):
+                        found.extend(callables.get((sources.get(one.id, name), one.id), []))
+                    elif isinstance(one, ast.Attribute):
+                        found.extend(callables.get(one.attr, []))
+        return found
+
+    def test_equality_and_truth_change_only_what_they_plainly_make(self):
+        callables = self.callables()
+        reached = callables["__eq__"] + callables["__bool__"]
+        for name, function in reached:
+            self.assertEqual(foreign_changes(function), [], (name, function.name))
+            called = self.called_by(name, function, callables)
+            reached.extend(one for one in called if one not in reached)
+        self.assertIn("unlike_parts", {function.name for _, function in reached})
+
+    def test_what_is_plainly_made(self):
+        plain = ["[]", "[k for k in xs]", "list(xs)", "dict(xs)", "sorted(xs)", "{}", "{k: 1 for k in xs}"]
+        for made in plain:
+            text = f"def told(xs):\n    row = {made}\n    row.pop()\n    row[0] = 1\n    return row"
+            self.assertEqual(foreign_changes(ast.parse(text).body[0]), [], made)
+        for made in ["xs", "[k for k in xs][::-1]", "xs[1:]", "xs.copy()", "[0] * 2", "[] if xs else {}"]:
+            text = f"def told(xs):\n    row = {made}\n    row.pop()\n    row[0] = 1\n    return row"
+            self.assertEqual(foreign_changes(ast.parse(text).body[0]), [3, 4], made)
+        for change in ["xs.append(1)", "heappush(xs, 1)", "del xs[0]", "xs.n = 1", "xs += [1]", "xs[0][1] = 1"]:
+            text = f"def told(xs):\n    row = []\n    {change}\n    row.append(1)"
+            self.assertEqual(foreign_changes(ast.parse(text).body[0]), [3], change)
+        text = "def told(xs):\n    row = []\n    row = xs\n    row.append(1)\n    many = 0\n    many += 1"
+        self.assertEqual(foreign_changes(ast.parse(text).body[0]), [4])
 
     def test_no_imports_in_a_circle(self):
         asked = {}
